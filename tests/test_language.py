@@ -1,0 +1,180 @@
+"""The rules for the code of the package, as far as a look at the files shows them."""
+
+import ast
+import builtins
+import os
+import re
+import unittest
+
+FOLDER = os.path.join(os.path.dirname(os.path.abspath(__file__)), "..", "probeweb")
+LISTED = {
+    "errors": ("Fault", "Malformed", "Refused", "NoText"),
+    "whole": ("is_integer", "read_integer", "raised_to", "greatest_common", "least_common", "ratio", "is_ratio",
+              "ratio_sum", "ratio_less", "ratio_product", "ratio_over", "ratio_text", "ratio_below"),
+    "structures": ("is_structure", "is_binary", "is_graph", "kind_of", "check_alike", "graph_with", "edges_of",
+                   "facts_at", "joined_points", "pieces_of", "beside", "crossed", "power_structure", "first_numbering",
+                   "folded_by", "restricted_to", "renumbered"),
+    "maps": ("is_map", "least_map", "all_maps", "taking_order", "map_number", "injection_number", "surjection_number",
+             "core_points", "is_rigid"),
+    "trees": ("is_tree", "tree_points", "tree_rests", "tree_rest", "tree_number", "tree_reaches", "tree_unfolded"),
+    "arcs": ("greatest_lists", "lists_stand", "list_round", "is_closed_lists", "cover_tree", "arc_probe"),
+    "strands": ("is_strand", "strand_rests", "strand_rest", "strand_points", "strand_number", "strand_reaches",
+                "strand_unfolded"),
+    "pebbles": ("greatest_strategy", "strategy_stands", "strategy_round", "is_strategy", "pebble_probe"),
+    "refutations": ("is_nogood", "fact_openings", "refuted_nogood", "case_refutation", "slim_refutation",
+                    "span_refutation", "nogood_length", "row_span", "case_number"),
+    "cuttings": ("ending_plane", "cutting_from"),
+    "refining": ("colour_round", "joint_colouring", "stable_colouring", "same_colours", "class_numbers", "tree_apart",
+                 "even_matrix", "is_even_matrix"),
+}
+ARGUMENTS = {
+    "graph_with": "n edges", "facts_at": "A x", "power_structure": "A k", "folded_by": "A colouring",
+    "restricted_to": "A points", "renumbered": "A f", "is_map": "f A B", "tree_rests": "tree A l", "tree_rest": "tree A l",
+    "is_tree": "value kind", "tree_points": "tree kind", "tree_unfolded": "tree kind", "list_round": "A B k",
+    "is_closed_lists": "A B value", "cover_tree": "A k", "is_strand": "value kind", "strand_rests": "strand A l",
+    "strand_points": "strand kind", "strategy_round": "A B k", "is_strategy": "A B value", "is_nogood": "A B value",
+    "fact_openings": "A B nogood t i", "refuted_nogood": "A B value", "row_span": "A rows", "case_number": "rows",
+    "ending_plane": "A B value", "cutting_from": "A B rows", "colour_round": "A B k", "is_even_matrix": "A B value",
+    "raised_to": "a e", "ratio": "n d", "ratio_sum": "a b", "read_integer": "text", "edges_of": "G", "crossed": "A B",
+}
+USED = {"abs", "all", "any", "bool", "dict", "divmod", "enumerate", "int", "isinstance", "len", "list", "max", "min",
+        "range", "reversed", "set", "sorted", "str", "sum", "tuple", "zip", "ValueError"}
+LIBRARY = {"math": {"gcd", "lcm"}, "itertools": {"combinations"}}
+BARRED = {"mro", "elements", "open", "input", "law", "register", "compile", "dir", "eval", "exec", "exit", "gc", "help",
+          "id", "os", "quit", "sys", "type", "vars", "enum", "overload", "dataclass", "typing"}
+NODES = (ast.Try, ast.With, ast.Global, ast.Nonlocal, ast.Yield, ast.YieldFrom, ast.AsyncFunctionDef, ast.NamedExpr,
+         ast.JoinedStr, ast.Match, ast.Assert, ast.Import, ast.AnnAssign)
+ATONCE = {"list", "tuple", "dict", "sorted", "sum", "any", "all", "enumerate", "zip", "min", "max"}
+
+
+def sources():
+    for name in sorted(os.listdir(FOLDER)):
+        if name.endswith(".py"):
+            with open(os.path.join(FOLDER, name), encoding="ascii") as file:
+                yield name[:-3], file.read()
+
+
+def parents_of(tree):
+    return {child: node for node in ast.walk(tree) for child in ast.iter_child_nodes(node)}
+
+
+def called(node):
+    """The name of the function, where a node is the call of a plain name."""
+    return node.func.id if isinstance(node, ast.Call) and isinstance(node.func, ast.Name) else None
+
+
+class Rules(unittest.TestCase):
+    def test_files(self):
+        names = [name for name in os.listdir(FOLDER) if name != "__pycache__"]
+        self.assertTrue(all(re.fullmatch(r"[a-z_]+\.py", name) for name in names))
+        self.assertIn("__init__.py", names)
+        self.assertEqual(dict(sources())["__init__"], "")
+
+    def test_size(self):
+        for name, text in sources():
+            self.assertLessEqual(len(text.splitlines()), 399, name)
+            for k, line in enumerate(text.splitlines()):
+                self.assertLessEqual(len(line), 120, (name, k + 1))
+                self.assertTrue(all(" " <= sign <= "~" for sign in line), (name, k + 1))
+            for node in ast.walk(ast.parse(text)):
+                if isinstance(node, ast.FunctionDef):
+                    self.assertLessEqual(node.end_lineno - node.lineno + 1, 40, (name, node.name))
+                    self.assertEqual(node.decorator_list, [])
+
+    def test_listed_names(self):
+        made = {}
+        for name, text in sources():
+            made[name] = {node.name: node for node in ast.parse(text).body
+                          if isinstance(node, (ast.FunctionDef, ast.ClassDef))}
+        for name, listed in LISTED.items():
+            for told in listed:
+                self.assertIn(told, made[name])
+                if told in ARGUMENTS:
+                    self.assertEqual([arg.arg for arg in made[name][told].args.args], ARGUMENTS[told].split())
+
+    def test_imports(self):
+        defined = {}
+        for name, text in sources():
+            body = ast.parse(text).body
+            defined[name] = {node.name for node in body if isinstance(node, (ast.FunctionDef, ast.ClassDef))}
+            defined[name] |= {node.targets[0].id for node in body if isinstance(node, ast.Assign)}
+        before = {}
+        for name, text in sources():
+            before[name] = set()
+            for node in ast.walk(ast.parse(text)):
+                if isinstance(node, ast.ImportFrom):
+                    told = {alias.name for alias in node.names}
+                    if node.module in LIBRARY:
+                        self.assertLessEqual(told, LIBRARY[node.module], name)
+                        continue
+                    package, file = node.module.split(".")
+                    self.assertEqual(package, "probeweb")
+                    self.assertLessEqual(told, defined[file], name)
+                    before[name].add(file)
+        while before:
+            free = [name for name, others in before.items() if not others & set(before)]
+            self.assertTrue(free, "files import from each other")
+            for name in free:
+                del before[name]
+
+    def test_statements(self):
+        for name, text in sources():
+            tree = ast.parse(text)
+            for node in tree.body:
+                plain = isinstance(node, (ast.ImportFrom, ast.FunctionDef, ast.ClassDef, ast.Assign))
+                self.assertTrue(plain or node is tree.body[0] and isinstance(node, ast.Expr), (name, node.lineno))
+            for node in ast.walk(tree):
+                self.assertNotIsInstance(node, NODES, (name, getattr(node, "lineno", 0)))
+                if isinstance(node, ast.BinOp):
+                    self.assertNotIsInstance(node.op, (ast.Pow, ast.Div, ast.MatMult), (name, node.lineno))
+                if isinstance(node, ast.Constant):
+                    self.assertNotIsInstance(node.value, (float, complex), (name, node.lineno))
+                if isinstance(node, ast.Compare):
+                    for op, right in zip(node.ops, node.comparators):
+                        if isinstance(op, (ast.Is, ast.IsNot)):
+                            self.assertTrue(isinstance(right, ast.Constant) and right.value in (None, True, False))
+
+    def test_names(self):
+        builtin = set(dir(builtins))
+        for name, text in sources():
+            tree = ast.parse(text)
+            told = {alias.name for node in ast.walk(tree) if isinstance(node, ast.ImportFrom) for alias in node.names}
+            told |= {node.name for node in ast.walk(tree) if isinstance(node, ast.ClassDef)}
+            for node in ast.walk(tree):
+                bound = None
+                if isinstance(node, ast.arg):
+                    bound = node.arg
+                elif isinstance(node, ast.Name) and isinstance(node.ctx, ast.Store):
+                    bound = node.id
+                elif isinstance(node, ast.FunctionDef):
+                    self.assertNotIn(node.name, builtin | BARRED, name)
+                elif isinstance(node, ast.Name) and isinstance(node.ctx, ast.Load):
+                    self.assertNotEqual(node.id, "_", (name, node.lineno))
+                    self.assertTrue(node.id not in builtin or node.id in USED, (name, node.lineno, node.id))
+                elif isinstance(node, ast.Attribute):
+                    self.assertNotIn(node.attr, BARRED, (name, node.lineno))
+                self.assertNotIn(bound, builtin | BARRED | told, name)
+
+    def test_sets_and_views(self):
+        for name, text in sources():
+            tree = ast.parse(text)
+            parents = parents_of(tree)
+            for node in ast.walk(tree):
+                above = parents.get(node)
+                at = (name, getattr(node, "lineno", 0))
+                if isinstance(node, (ast.Set, ast.SetComp)) or called(node) == "set":
+                    self.assertIn(called(above), ("sorted", "len"), at)
+                    self.assertEqual(above.keywords, [], at)
+                if isinstance(node, ast.GeneratorExp):
+                    self.assertIn(called(above), ("all", "any", "sum", "tuple", "list", "sorted", "min", "max"), at)
+                if called(node) in ("zip", "enumerate", "reversed", "combinations"):
+                    iterated = isinstance(above, (ast.For, ast.comprehension)) and above.iter is node
+                    self.assertTrue(iterated or called(above) in ATONCE, at)
+                if isinstance(node, ast.Call) and isinstance(node.func, ast.Attribute):
+                    if node.func.attr in ("items", "keys", "values"):
+                        iterated = isinstance(above, (ast.For, ast.comprehension)) and above.iter is node
+                        self.assertTrue(iterated or called(above) in ATONCE, at)
+
+
+if __name__ == "__main__":
+    unittest.main()
