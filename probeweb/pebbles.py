@@ -178,9 +178,10 @@ def _steps_of(A, rounds):
     for k, causes in enumerate(rounds):
         reasons = {}
         for (a, e, _, _), c in causes.items():
-            reasons.setdefault((a, e), {})[c] = True
-        for pair, told in reasons.items():
-            steps[pair].append((k + 1, sorted(told)))
+            told = reasons.setdefault((a, e), {})
+            told[c] = True
+        for pair, causing in reasons.items():
+            steps[pair].append((k + 1, sorted(causing)))
     return steps
 
 

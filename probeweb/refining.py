@@ -268,7 +268,7 @@ def _whole_items(value):
     for row in value:
         for a in row:
             common = least_common(common, a[1])
-    return [[a[0] * (common // a[1]) for a in row] for row in value], common
+    return [[told[0] * (common // told[1]) for told in line] for line in value], common
 
 
 def _keeps_points(rows, others, items):

@@ -164,7 +164,7 @@ class SlimSearch:
         self._close(B, _facts_of(A))
 
     def _close(self, B, facts):
-        facts_at = [[k for k in range(len(facts)) if x in facts[k][2]] for x in range(len(self.lists))]
+        facts_at = [[j for j in range(len(facts)) if x in facts[j][2]] for x in range(len(self.lists))]
         waiting = list(range(len(facts)))
         queued = {k: True for k in waiting}
         while waiting:

@@ -59,12 +59,12 @@ def openings_of(B, t, fact, held, told):
 
 def take_away(A):
     """The pair of the taking-away order and its width (point 2.2)."""
-    near = [{y: True for y in points} for points in joined_points(A)]
+    near = [{p: True for p in points} for points in joined_points(A)]
     left = {x: True for x in range(A[0])}
     order = []
     width = 0
     while left:
-        x = min(left, key=lambda y: (len(near[y]), y))
+        x = min(left, key=lambda p: (len(near[p]), p))
         others = list(near[x])
         width = max(width, len(others))
         for y in others:
