@@ -3,7 +3,7 @@
 from itertools import combinations
 
 from probeweb.errors import Refused
-from probeweb.solving import MapSearch, count_along, relations_of, take_away
+from probeweb.solving import MapSearch, count_along, relations_of, take_away, value_masks
 from probeweb.structures import check_alike, check_structure, is_point_tuple, restriction
 from probeweb.whole import raised_to
 
@@ -74,10 +74,7 @@ def _last_tables(A, B):
     """
     tables = [[] for _ in range(A[0])]
     for scope, relation in relations_of(A, B).items():
-        masks = {}
-        for values in relation:
-            masks[values[:-1]] = masks.get(values[:-1], 0) | 1 << values[-1]
-        tables[scope[-1]].append((scope[:-1], masks))
+        tables[scope[-1]].append((scope[:-1], value_masks(relation)))
     return tables
 
 

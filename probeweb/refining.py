@@ -75,10 +75,15 @@ def colour_round(A, B, k):
     return _refined(A, B, k)
 
 
+def refined_colours(A, B):
+    """The pair of the rows of stable colours, for any number of tables and without a check."""
+    return _refined(A, B, MOST_ROUNDS)
+
+
 def joint_colouring(A, B):
     """The pair of the rows of stable colours."""
     _check_pair(A, B)
-    return _refined(A, B, MOST_ROUNDS)
+    return refined_colours(A, B)
 
 
 def stable_colouring(A):
@@ -241,7 +246,7 @@ def _check_binary_pair(A, B):
 def even_matrix(A, B):
     """The even matrix that is told by the classes, or None if the colours are not the same."""
     _check_binary_pair(A, B)
-    one, two = _refined(A, B, MOST_ROUNDS)
+    one, two = refined_colours(A, B)
     if sorted(one) != sorted(two):
         return None
     counts = {}

@@ -4,7 +4,7 @@ A list of points of `B` is a mask here: an integer whose binary digit `v`
 is 1 if the point `v` is in the list.
 """
 
-from probeweb.structures import image_rows, joined_points, linked_parts
+from probeweb.structures import image_rows, linked_parts, points_joined
 
 
 def _fitting_values(rows, pattern, size):
@@ -40,6 +40,14 @@ def relations_of(A, B):
     return made
 
 
+def value_masks(relation):
+    """For each tuple of values but the last one the mask of the last values that the relation has behind them."""
+    masks = {}
+    for values in relation:
+        masks[values[:-1]] = masks.get(values[:-1], 0) | 1 << values[-1]
+    return masks
+
+
 def _fits(fact, row, held):
     """True if the row takes the fact's points, equal ones to equal ones, to the held values."""
     values = {}
@@ -59,7 +67,7 @@ def openings_of(B, t, fact, held, told):
 
 def take_away(A):
     """The pair of the taking-away order and its width (point 2.2)."""
-    near = [{p: True for p in points} for points in joined_points(A)]
+    near = [{p: True for p in points} for points in points_joined(A)]
     left = {x: True for x in range(A[0])}
     order = []
     width = 0
@@ -142,6 +150,12 @@ def count_along(order, A, B):
     return total
 
 
+def linked_points(joined, starts):
+    """The points that are linked with one of the starts, these among them, ascending."""
+    parts = linked_parts(list(range(len(joined))), joined)
+    return sorted([x for part in parts if any([start in part for start in starts]) for x in part])
+
+
 def _merged(found, parts, most):
     """The dicts of `found`, each with each of `parts` put to it, at most `most` of them."""
     made = []
@@ -160,7 +174,7 @@ class MapSearch:
         self.points = tuple(range(A[0]))
         self.many = B[0]
         self.tables = [rows for _, rows in B[1]]
-        self.joined = joined_points(A)
+        self.joined = points_joined(A)
         self.lists = [(1 << B[0]) - 1] * A[0]
         self.rules = []
         self.rules_at = [[] for _ in range(A[0])]
@@ -170,15 +184,22 @@ class MapSearch:
             self._take_relation(scope, relation)
 
     def _take_relation(self, scope, relation):
-        masks = {}
-        for values in relation:
-            masks[values[:-1]] = masks.get(values[:-1], 0) | 1 << values[-1]
+        masks = value_masks(relation)
         if len(scope) == 1:
-            self.lists[scope[0]] = masks.get((), 0)
+            self.lists[scope[0]] = self.lists[scope[0]] & masks.get((), 0)
             return
         for x in scope:
             self.rules_at[x].append(len(self.rules))
         self.rules.append((scope, masks))
+
+    def take_rule(self, scope, relation, rows):
+        """Adds a rule for an ascending tuple of points; it is told by these rows of points of `B` alone."""
+        self._take_relation(scope, relation)
+        self.tables.append(rows)
+        near = {x: {y: True for y in points} for x, points in enumerate(self.joined)}
+        for x in scope:
+            near[x].update({y: True for y in scope if y != x})
+        self.joined = tuple([tuple(sorted(near[x])) for x in self.points])
 
     def members(self, mask):
         """The points of a mask, ascending."""
@@ -246,8 +267,24 @@ class MapSearch:
             f = list(range(self.many))
             f[v] = w
             f[w] = v
-            self.told_swaps[(v, w)] = all([image_rows(rows, f) == rows for rows in self.tables])
+            self.told_swaps[(v, w)] = all(image_rows(rows, f) == rows for rows in self.tables)
         return self.told_swaps[(v, w)]
+
+    def swap_classes(self):
+        """For each point of `B` the ascending list of the points with which it can be exchanged, and itself."""
+        profiles = [[0] * self.many for _ in range(3 * len(self.tables))]
+        for t, rows in enumerate(self.tables):
+            for row in rows:
+                for place, v in enumerate(row):
+                    profiles[3 * t + place][v] += 1
+        classes = [[] for _ in range(self.many)]
+        for v in range(self.many):
+            # Points that can be exchanged stand equally often at each place.
+            alike = [w for w in range(v) if classes[w][0] == w and all([told[v] == told[w] for told in profiles])]
+            first = [w for w in alike if self.can_swap(w, v)]
+            classes[v] = classes[first[0]] if first else classes[v]
+            classes[v].append(v)
+        return classes
 
     def _is_like_failed(self, lists, piece, v, failed):
         """True if `v` stands wherever a value stands that has failed, and they can be exchanged."""

@@ -159,7 +159,7 @@ def _turned_masks(masks):
     return [sum([1 << x for x in points if masks[x] >> y & 1 == 1]) for y in points]
 
 
-def _gone_through(mask, masks):
+def gone_through(mask, masks):
     """The mask of all that the points of the mask lead to."""
     met = 0
     for z, further in enumerate(masks):
@@ -179,7 +179,7 @@ def _reach_masks(A, row, reaches):
     two = reaches[row[2]]
     if row[0] == "both":
         return [a & b for a, b in zip(one, two)]
-    return [_gone_through(mask, two) for mask in one]
+    return [gone_through(mask, two) for mask in one]
 
 
 def strand_reaches(strand, A):

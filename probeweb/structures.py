@@ -24,6 +24,11 @@ def is_point_tuple(value, n, size):
     return isinstance(value, tuple) and len(value) == size and all(is_point(x, n) for x in value)
 
 
+def mask_of(points):
+    """The integer whose binary digits tell a set of points, unlike ones."""
+    return sum([1 << x for x in points])
+
+
 def is_ascending(rows):
     """True if each item is less than the next one."""
     return all(rows[k] < rows[k + 1] for k in range(len(rows) - 1))
@@ -167,6 +172,11 @@ def facts_at(A, x):
 def joined_points(A):
     """For each point the ascending tuple of the points joined with it."""
     check_structure(A)
+    return points_joined(A)
+
+
+def points_joined(A):
+    """As `joined_points`, for any number of tables and without a check."""
     near = [{} for _ in range(A[0])]
     for _, rows in A[1]:
         for row in rows:

@@ -26,6 +26,30 @@ LISTED = {
     "cuttings": ("ending_plane", "cutting_from"),
     "refining": ("colour_round", "joint_colouring", "stable_colouring", "same_colours", "class_numbers", "tree_apart",
                  "even_matrix", "is_even_matrix"),
+    "pairing": ("pair_round", "joint_pairs", "pair_colouring", "same_pairs", "pair_numbers", "is_pair_colouring",
+                "strand_apart"),
+    "linear": ("fraction_product", "turned_rows", "unit_rows", "reduced_rows", "fraction_rank", "fraction_solve",
+               "fraction_bar", "fraction_kernel", "fraction_inverse", "whole_determinant"),
+    "matrices": ("kind_letters", "letter_rows", "word_path", "word_number", "word_within", "word_apart", "path_matrix",
+                 "closed_row", "spectrum_row", "cycle_within", "cycle_graph", "grid_graph", "grid_number"),
+    "sameness": ("is_turning", "turned_into", "turning_chain", "turning_number", "turning_orbits", "all_turnings",
+                 "all_foldings", "folding_apart", "class_number_under", "class_number_over", "class_number_both",
+                 "case_parting"),
+    "operations": ("is_operation", "operation_at", "projected_at", "keeps_rows", "is_kept_by", "put_together",
+                   "all_operations", "operation_number", "special_operation", "breaking_operation", "defined_rows"),
+    "templates": ("list_structure", "list_map", "is_list_decided", "is_linear", "linear_number", "linear_map",
+                  "boolean_classes", "class_map"),
+    "bags": ("is_bag_tree", "is_thicket", "bag_width", "order_width", "order_tree", "thicket_order", "least_width",
+             "least_tree", "widest_thicket", "number_along"),
+    "layers": ("is_layers", "layers_of_maps", "layers_of_rows", "layers_number", "layers_rows", "layers_have",
+               "least_row", "layers_values", "layers_meet", "layers_join", "layers_less", "layers_reordered",
+               "layers_sizes"),
+    "global_rows": ("hall_choice", "hall_set", "least_hall_set", "kept_lists", "tight_set", "bounded_choice",
+                    "bound_barrier", "apart_number", "rook_row", "other_lists", "row_structures", "hall_cutting",
+                    "is_strip", "strip_lists", "strip_number"),
+    "colourings": ("colour_row", "colour_number", "acyclic_number", "rooted_number", "stable_row", "unbroken_row",
+                   "flat_list", "flow_row", "flow_number", "tutte_rows", "forest_number"),
+    "probepapers": ("lists_paper", "strategy_paper", "colours_paper", "pairs_paper", "even_paper"),
 }
 ARGUMENTS = {
     "graph_with": "n edges", "facts_at": "A x", "power_structure": "A k", "folded_by": "A colouring",
@@ -36,10 +60,35 @@ ARGUMENTS = {
     "fact_openings": "A B nogood t i", "refuted_nogood": "A B value", "row_span": "A rows", "case_number": "rows",
     "ending_plane": "A B value", "cutting_from": "A B rows", "colour_round": "A B k", "is_even_matrix": "A B value",
     "raised_to": "a e", "ratio": "n d", "ratio_sum": "a b", "read_integer": "text", "edges_of": "G", "crossed": "A B",
+    "pair_round": "A B k", "pair_colouring": "A", "pair_numbers": "A", "is_pair_colouring": "A B value",
+    "fraction_product": "one two", "turned_rows": "rows width", "unit_rows": "n", "reduced_rows": "rows width",
+    "fraction_rank": "rows width", "fraction_solve": "rows width column", "fraction_bar": "rows width column",
+    "fraction_kernel": "rows width", "fraction_inverse": "rows", "whole_determinant": "rows", "kind_letters": "A",
+    "letter_rows": "A letter", "word_path": "A word", "word_number": "A word", "closed_row": "A most",
+    "spectrum_row": "A", "cycle_graph": "k", "grid_graph": "r k", "grid_number": "A r k", "is_turning": "A B value",
+    "turning_chain": "A", "turning_number": "A", "turning_orbits": "A", "all_turnings": "A", "all_foldings": "n",
+    "is_operation": "value n k", "operation_at": "f n row", "projected_at": "n k i", "keeps_rows": "f n k rows",
+    "is_kept_by": "B f k", "put_together": "f n k inner", "all_operations": "B k", "operation_number": "B k",
+    "special_operation": "B word", "breaking_operation": "B rows", "defined_rows": "A marks B", "list_structure": "B",
+    "list_map": "B", "is_list_decided": "B", "is_linear": "B", "boolean_classes": "B", "class_map": "A B word",
+    "is_bag_tree": "A value", "is_thicket": "A value", "bag_width": "A tree", "order_width": "A order",
+    "order_tree": "A order", "thicket_order": "A thicket", "least_width": "A", "least_tree": "A",
+    "widest_thicket": "A", "number_along": "A B tree", "is_layers": "value", "layers_of_maps": "A B order",
+    "layers_of_rows": "n m rows order", "layers_number": "d", "layers_rows": "d", "layers_have": "d row",
+    "least_row": "d", "layers_values": "d", "layers_meet": "d e", "layers_join": "d e", "layers_less": "d e",
+    "layers_reordered": "d order", "layers_sizes": "d", "hall_choice": "lists m", "hall_set": "lists m",
+    "least_hall_set": "lists m", "kept_lists": "lists m", "tight_set": "lists m x v",
+    "bounded_choice": "lists m bounds", "bound_barrier": "lists m bounds", "apart_number": "lists m",
+    "rook_row": "lists m", "other_lists": "lists m", "row_structures": "lists m", "hall_cutting": "lists m",
+    "is_strip": "value n", "strip_lists": "strip n", "strip_number": "k n", "colour_row": "G", "colour_number": "G q",
+    "acyclic_number": "G", "rooted_number": "G", "stable_row": "G", "unbroken_row": "G", "flat_list": "G",
+    "flow_row": "G", "flow_number": "G q", "tutte_rows": "G", "forest_number": "G",
 }
 USED = {"abs", "all", "any", "bool", "dict", "divmod", "enumerate", "int", "isinstance", "len", "list", "max", "min",
-        "range", "reversed", "set", "sorted", "str", "sum", "tuple", "zip", "ValueError"}
-LIBRARY = {"math": {"gcd", "lcm"}, "itertools": {"combinations"}}
+        "range", "reversed", "set", "sorted", "str", "sum", "super", "tuple", "zip", "ValueError"}
+LIBRARY = {"math": {"gcd", "lcm", "comb"}, "itertools": {"combinations", "permutations"}}
+COMPREHENSIONS = (ast.ListComp, ast.SetComp, ast.DictComp, ast.GeneratorExp)
+CHANGES = {"append", "extend", "insert", "pop", "remove", "clear", "reverse", "sort", "update", "setdefault"}
 BARRED = {"mro", "elements", "open", "input", "law", "register", "compile", "dir", "eval", "exec", "exit", "gc", "help",
           "id", "os", "quit", "sys", "type", "vars", "enum", "overload", "dataclass", "typing"}
 NODES = (ast.Try, ast.With, ast.Global, ast.Nonlocal, ast.Yield, ast.YieldFrom, ast.AsyncFunctionDef, ast.NamedExpr,
@@ -91,6 +140,9 @@ class Rules(unittest.TestCase):
                 self.assertIn(told, made[name])
                 if told in ARGUMENTS:
                     self.assertEqual([arg.arg for arg in made[name][told].args.args], ARGUMENTS[told].split())
+                elif name not in ("errors", "whole", "maps", "structures", "trees", "strands", "refutations",
+                                  "refining"):
+                    self.assertEqual([arg.arg for arg in made[name][told].args.args], ["A", "B"], told)
 
     def test_imports(self):
         defined = {}
@@ -167,13 +219,65 @@ class Rules(unittest.TestCase):
                     self.assertEqual(above.keywords, [], at)
                 if isinstance(node, ast.GeneratorExp):
                     self.assertIn(called(above), ("all", "any", "sum", "tuple", "list", "sorted", "min", "max"), at)
-                if called(node) in ("zip", "enumerate", "reversed", "combinations"):
+                if called(node) in ("zip", "enumerate", "reversed", "combinations", "permutations"):
                     iterated = isinstance(above, (ast.For, ast.comprehension)) and above.iter is node
                     self.assertTrue(iterated or called(above) in ATONCE, at)
                 if isinstance(node, ast.Call) and isinstance(node.func, ast.Attribute):
                     if node.func.attr in ("items", "keys", "values"):
                         iterated = isinstance(above, (ast.For, ast.comprehension)) and above.iter is node
                         self.assertTrue(iterated or called(above) in ATONCE, at)
+
+    def test_nested_comprehensions(self):
+        # A variable of a comprehension within another one has no name that is assigned further out.
+        for name, text in sources():
+            for function in ast.walk(ast.parse(text)):
+                if isinstance(function, ast.FunctionDef):
+                    taken = {arg.arg for arg in function.args.args} | stored(function)
+                    self.check_inner(name, function, taken, False)
+
+    def check_inner(self, name, node, taken, is_inner):
+        for child in ast.iter_child_nodes(node):
+            if isinstance(child, COMPREHENSIONS):
+                fresh = {part.id for rule in child.generators for part in ast.walk(rule.target)
+                         if isinstance(part, ast.Name)}
+                if is_inner:
+                    self.assertFalse(fresh & taken, (name, child.lineno, fresh & taken))
+                self.check_inner(name, child, taken | fresh, True)
+            else:
+                self.check_inner(name, child, taken, is_inner or isinstance(child, ast.Lambda))
+
+    def test_loops(self):
+        # What a loop goes over is not changed in it.
+        for name, text in sources():
+            for node in ast.walk(ast.parse(text)):
+                if isinstance(node, ast.For):
+                    told = walked(node.iter)
+                    for part in [inner for line in node.body for inner in ast.walk(line)]:
+                        if isinstance(part, ast.Call) and isinstance(part.func, ast.Attribute) and part.func.attr in CHANGES:
+                            self.assertNotIn(ast.unparse(part.func.value), told, (name, part.lineno))
+                        if isinstance(part, ast.Subscript) and not isinstance(part.ctx, ast.Load):
+                            self.assertNotIn(ast.unparse(part.value), told, (name, part.lineno))
+
+
+def stored(function):
+    """The names that a function assigns outside of its comprehensions."""
+    found, waiting = set(), list(function.body)
+    while waiting:
+        node = waiting.pop()
+        if isinstance(node, ast.Name) and isinstance(node.ctx, ast.Store):
+            found.add(node.id)
+        if not isinstance(node, COMPREHENSIONS):
+            waiting.extend(ast.iter_child_nodes(node))
+    return found
+
+
+def walked(node):
+    """The written forms of what a loop goes over."""
+    if called(node) in ("enumerate", "zip", "reversed"):
+        return [told for part in node.args for told in walked(part)]
+    if isinstance(node, ast.Call) and isinstance(node.func, ast.Attribute) and node.func.attr in ("items", "keys", "values"):
+        return [ast.unparse(node.func.value)]
+    return [ast.unparse(node)]
 
 
 if __name__ == "__main__":

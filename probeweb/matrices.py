@@ -1,0 +1,350 @@
+"""Words, paths, cycles and grids by the matrices of letters (points 8.2 to 8.7)."""
+
+from probeweb.errors import Malformed, Refused
+from probeweb.linear import LineSpace, fraction_inverse, fraction_product, turned_rows
+from probeweb.strands import gone_through
+from probeweb.structures import (
+    MOST_POINTS, check_binary, check_both_binary, check_structure, is_pair, is_point, kind_of, mask_of)
+from probeweb.whole import is_number_from, raised_to
+
+MOST_LETTERS = 1000
+MOST_WITHIN_SOURCE = 40
+MOST_WITHIN_TARGET = 10
+MOST_APART = 16
+MOST_CLOSED = 60
+MOST_CLOSED_POINTS = 24
+MOST_SPECTRUM = 20
+MOST_CYCLE_POINTS = 12
+MOST_SIDE = 30
+MOST_COLUMNS = 1000
+
+
+def kind_letters(A):
+    """The letters of the kind, ascending."""
+    check_binary(A)
+    return tuple([(t, turn) for t, arity in enumerate(kind_of(A)) for turn in range(arity)])
+
+
+def _is_letter(value, kind):
+    """True for a letter of the binary kind."""
+    return is_pair(value) and is_point(value[0], len(kind)) and is_point(value[1], kind[value[0]])
+
+
+def _check_word(A, word):
+    """None for a binary structure and a word of its kind."""
+    check_binary(A)
+    kind = kind_of(A)
+    if not (isinstance(word, tuple) and all([_is_letter(letter, kind) for letter in word])):
+        raise Malformed("no word")
+
+
+def _steps(A, letter):
+    """For each point the list of the points to which the letter leads."""
+    t, turn = letter
+    arity, rows = A[1][t]
+    steps = [[] for _ in range(A[0])]
+    for row in rows:
+        x, y = (row[0], row[0]) if arity == 1 else row
+        if turn == 1:
+            x, y = y, x
+        steps[x].append(y)
+    return steps
+
+
+def _step_tables(A):
+    """The steps of each letter of the kind, in order."""
+    return [_steps(A, letter) for letter in kind_letters(A)]
+
+
+def letter_rows(A, letter):
+    """The matrix of a letter, of integers."""
+    check_binary(A)
+    if not _is_letter(letter, kind_of(A)):
+        raise Malformed("no letter")
+    made = []
+    for ends in _steps(A, letter):
+        line = [0] * A[0]
+        for y in ends:
+            line[y] = 1
+        made.append(tuple(line))
+    return tuple(made)
+
+
+def word_path(A, word):
+    """The path of a word, a structure of the kind of `A`."""
+    _check_word(A, word)
+    kind = kind_of(A)
+    at = 0
+    facts = [{} for _ in kind]
+    for t, turn in word:
+        if kind[t] == 1:
+            facts[t][(at,)] = True
+        else:
+            facts[t][(at, at + 1) if turn == 0 else (at + 1, at)] = True
+            at += 1
+    if at + 1 > MOST_POINTS:
+        raise Refused("large")
+    return at + 1, tuple([(arity, tuple(sorted(told))) for arity, told in zip(kind, facts)])
+
+
+def _led_back(steps, column):
+    """The matrix of some steps times a column."""
+    return [sum([column[y] for y in ends]) for ends in steps]
+
+
+def word_number(A, word):
+    """The number of a word in `A`."""
+    _check_word(A, word)
+    if len(word) > MOST_LETTERS:
+        raise Refused("large")
+    tables = {letter: _steps(A, letter) for letter in kind_letters(A)}
+    column = [1] * A[0]
+    for k in reversed(range(len(word))):
+        column = _led_back(tables[word[k]], column)
+    return sum(column)
+
+
+class WithinWalk:
+    """The walk through the pairs of a point of `A` and a set of points of `B` (point 8.3).
+
+    A stop of the walk has all pairs whose least word is one and the same: a
+    dict from the set to the mask of the points. Stops come in the order of
+    their words.
+    """
+
+    def __init__(self, A, B):
+        self.letters = kind_letters(A)
+        self.source = [[mask_of(ends) for ends in steps] for steps in _step_tables(A)]
+        self.target = [[mask_of(ends) for ends in steps] for steps in _step_tables(B)]
+        self.images = {}
+        every = (1 << B[0]) - 1
+        self.seen = {every: (1 << A[0]) - 1}
+        self.stops = [{every: (1 << A[0]) - 1}] if A[0] > 0 else []
+        self.before = [(-1, -1)]
+
+    def image(self, points, k):
+        """The set of the points of `B` to which the letter leads from the set."""
+        if (points, k) not in self.images:
+            self.images[(points, k)] = gone_through(points, self.target[k])
+        return self.images[(points, k)]
+
+    def _next_stop(self, stop, k):
+        """The pairs to which the letter leads from a stop, and that no lesser word leads to."""
+        fresh = {}
+        for points, mask in stop.items():
+            image = self.image(points, k)
+            told = gone_through(mask, self.source[k]) & ~self.seen.get(image, 0)
+            if told != 0:
+                self.seen[image] = self.seen.get(image, 0) | told
+                fresh[image] = fresh.get(image, 0) | told
+        return fresh
+
+    def end(self):
+        """The number of the first stop with the empty set, or -1."""
+        at = 0
+        while at < len(self.stops):
+            if 0 in self.stops[at]:
+                return at
+            for k in range(len(self.letters)):
+                fresh = self._next_stop(self.stops[at], k)
+                if fresh:
+                    self.stops.append(fresh)
+                    self.before.append((at, k))
+            at += 1
+        return -1
+
+    def word_to(self, at):
+        """The least word that leads to a stop."""
+        letters = []
+        while at > 0:
+            at, k = self.before[at]
+            letters.append(self.letters[k])
+        return tuple(letters[::-1])
+
+
+def word_within(A, B):
+    """The least word that is in `A` and not in `B`, or None."""
+    check_both_binary(A, B)
+    if A[0] > MOST_WITHIN_SOURCE or B[0] > MOST_WITHIN_TARGET:
+        raise Refused("large")
+    walk = WithinWalk(A, B)
+    end = walk.end()
+    return None if end < 0 else walk.word_to(end)
+
+
+def _kept_words(A, B):
+    """The words whose columns, in `A` and behind it `B`, are no sums of multiples of those before.
+
+    A list of triples of a word and its columns in both.
+    """
+    letters = kind_letters(A)
+    source, target = _step_tables(A), _step_tables(B)
+    space = LineSpace()
+    row = [((), [1] * A[0], [1] * B[0])]
+    kept = []
+    while row:
+        fresh = [told for told in row if space.take(told[1] + told[2])]
+        kept.extend(fresh)
+        row = []
+        for k, letter in enumerate(letters):
+            for word, one, two in fresh:
+                row.append(((letter,) + word, _led_back(source[k], one), _led_back(target[k], two)))
+    return kept
+
+
+def _check_apart(A, B):
+    check_both_binary(A, B)
+    if A[0] > MOST_APART or B[0] > MOST_APART:
+        raise Refused("large")
+
+
+def word_apart(A, B):
+    """The least word whose numbers in `A` and `B` are unlike, or None."""
+    _check_apart(A, B)
+    for word, one, two in _kept_words(A, B):
+        if sum(one) != sum(two):
+            return word
+    return None
+
+
+def path_matrix(A, B):
+    """The path matrix of `A` and `B`, or None if there is none."""
+    _check_apart(A, B)
+    if word_apart(A, B) is not None:
+        return None
+    if A[0] == 0:
+        return ()
+    # Words that are kept for both are kept for each one, as their columns have the same products.
+    kept = _kept_words(A, B)
+    P = tuple([tuple([(a, 1) for a in one]) for _, one, _ in kept])
+    Q = tuple([tuple([(a, 1) for a in two]) for _, _, two in kept])
+    turned = turned_rows(P, A[0])
+    inverse = fraction_inverse(fraction_product(P, turned))
+    return fraction_product(turned, fraction_product(inverse, Q))
+
+
+def _check_single(A):
+    """None for a structure of the kind (2,)."""
+    check_structure(A)
+    if kind_of(A) != (2,):
+        raise Malformed("not one table of the arity 2")
+
+
+def _traces(A, most):
+    """The traces of the first powers of the matrix of `A`."""
+    steps = _steps(A, (0, 0))
+    columns = [[1 if x == y else 0 for x in range(A[0])] for y in range(A[0])]
+    traces = []
+    for _ in range(most):
+        columns = [_led_back(steps, column) for column in columns]
+        traces.append(sum([columns[x][x] for x in range(A[0])]))
+    return traces
+
+
+def closed_row(A, most):
+    """The numbers of maps of the cycles of 1 to `most` points into `A`."""
+    _check_single(A)
+    if not is_number_from(most, 0):
+        raise Malformed("no number of cycles")
+    if most > MOST_CLOSED or A[0] > MOST_CLOSED_POINTS:
+        raise Refused("large")
+    return tuple(_traces(A, most))
+
+
+def spectrum_row(A):
+    """The coefficients of the characteristic polynomial, the highest power first."""
+    _check_single(A)
+    if A[0] > MOST_SPECTRUM:
+        raise Refused("large")
+    return told_by_traces(_traces(A, A[0]))
+
+
+def told_by_traces(traces):
+    """The coefficients that the traces tell (Newton)."""
+    row = [1]
+    for k in range(1, len(traces) + 1):
+        row.append(-sum([row[j] * traces[k - 1 - j] for j in range(k)]) // k)
+    return tuple(row)
+
+
+def _has_closed_walk(masks):
+    return any([mask >> x & 1 == 1 for x, mask in enumerate(masks)])
+
+
+def cycle_within(A, B):
+    """The least `k` such that the cycle of `k` points maps into `A` and not into `B`, or None."""
+    _check_single(A)
+    _check_single(B)
+    if A[0] > MOST_CYCLE_POINTS or B[0] > MOST_CYCLE_POINTS:
+        raise Refused("large")
+    first = [[mask_of(ends) for ends in _steps(told, (0, 0))] for told in (A, B)]
+    one, two = first
+    seen = {}
+    k = 1
+    # The walks of a length tell those of the next one: what comes twice goes round.
+    while (tuple(one), tuple(two)) not in seen:
+        if _has_closed_walk(one) and not _has_closed_walk(two):
+            return k
+        seen[(tuple(one), tuple(two))] = True
+        one = [gone_through(mask, first[0]) for mask in one]
+        two = [gone_through(mask, first[1]) for mask in two]
+        k += 1
+    return None
+
+
+def cycle_graph(k):
+    """The cycle of `k` points."""
+    if not (is_number_from(k, 1) and k <= MOST_POINTS):
+        raise Malformed("no number of points of a cycle")
+    return k, ((2, tuple(sorted([(i, (i + 1) % k) for i in range(k)]))),)
+
+
+def _check_sides(r, k):
+    if not (is_number_from(r, 1) and is_number_from(k, 1)):
+        raise Malformed("no sides of a grid")
+
+
+def grid_graph(r, k):
+    """The grid of `r` rows and `k` columns."""
+    _check_sides(r, k)
+    if r * k > MOST_POINTS:
+        raise Refused("large")
+    down = [(r * j + i, r * j + i + 1) for j in range(k) for i in range(r - 1)]
+    along = [(r * j + i, r * j + i + r) for j in range(k - 1) for i in range(r)]
+    return r * k, ((2, tuple(sorted(down + along))),)
+
+
+def _grid_columns(A, r):
+    """The rows of `r` points, each neighbours of which are a fact."""
+    steps = _steps(A, (0, 0))
+    columns = [(x,) for x in range(A[0])]
+    for _ in range(r - 1):
+        columns = [column + (y,) for column in columns for y in steps[column[-1]]]
+    return columns
+
+
+def _led_along(steps, numbers, r):
+    """The numbers of all rows of points, led along the steps at each of the `r` places."""
+    for place in range(r):
+        after = {}
+        for row, number in numbers.items():
+            for y in steps[row[place]]:
+                led = row[:place] + (y,) + row[place + 1:]
+                after[led] = after.get(led, 0) + number
+        numbers = after
+    return numbers
+
+
+def grid_number(A, r, k):
+    """The number of the maps of the grid into `A`."""
+    _check_single(A)
+    _check_sides(r, k)
+    if r > MOST_SIDE or k > MOST_SIDE or raised_to(A[0], r) > MOST_COLUMNS:
+        raise Refused("large")
+    steps = _steps(A, (0, 0))
+    numbers = {column: 1 for column in _grid_columns(A, r)}
+    columns = list(numbers)
+    for _ in range(k - 1):
+        led = _led_along(steps, numbers, r)
+        numbers = {column: led[column] for column in columns if column in led}
+    return sum(list(numbers.values()))

@@ -1,0 +1,309 @@
+"""Templates that are decided by lists, by elimination, or by the ways of the six classes (chapter 11)."""
+
+from probeweb.errors import Malformed, Refused
+from probeweb.operations import check_template, keeps_tables
+from probeweb.solving import MapSearch
+from probeweb.structures import MOST_ROWS, is_structure, kind_of
+from probeweb.whole import raised_to
+
+MOST_LISTED = 5
+MOST_SOLVED = 40
+PRIMES = (2, 3, 5, 7)
+# The operations over 0 and 1 that the classes name, with their numbers of arguments.
+CLASS_OPERATIONS = {
+    "zero": ((0, 0), 1), "one": ((1, 1), 1), "least": ((0, 0, 0, 1), 2), "greatest": ((0, 1, 1, 1), 2),
+    "most": ((0, 0, 0, 1, 0, 1, 1, 1), 3), "odd": ((0, 1, 1, 0, 1, 0, 0, 1), 3)}
+
+
+def _check_instance(A, B):
+    """None for a structure `A` of the kind of the template `B`."""
+    check_template(B)
+    if not is_structure(A) or kind_of(A) != kind_of(B):
+        raise Malformed("no structure of the kind of the template")
+
+
+def _united_rows(rows):
+    """All rows of lists, as masks, that unite some of the rows place by place."""
+    found = {}
+    for row in rows:
+        single = tuple([1 << x for x in row])
+        fresh = {tuple([a | b for a, b in zip(told, single)]): True for told in found}
+        found.update(fresh)
+        found[single] = True
+        if len(found) > MOST_ROWS:
+            raise Refused("large")
+    return list(found)
+
+
+def list_structure(B):
+    """The structure of lists `U(B)`."""
+    check_template(B)
+    if B[0] > MOST_LISTED:
+        raise Refused("large")
+    tables = []
+    for arity, rows in B[1]:
+        # A row of lists is in the table if it unites the rows of `B` that it holds.
+        made = [tuple([mask - 1 for mask in row]) for row in _united_rows(rows)]
+        tables.append((arity, tuple(sorted(made))))
+    return (1 << B[0]) - 1, tuple(tables)
+
+
+def list_map(B):
+    """The least map of `U(B)` into `B`, or None."""
+    return MapSearch(list_structure(B), B).least()
+
+
+def is_list_decided(B):
+    """True if there is a map of `U(B)` into `B`."""
+    return list_map(B) is not None
+
+
+def _inverse(a, p):
+    """The inverse of a number modulo a prime to 7."""
+    return [b for b in range(1, p) if a * b % p == 1][0]
+
+
+class Equations:
+    """Linear equations modulo a prime, each made into one that is reduced by the others.
+
+    An equation is a list of the factors of the unknowns and, behind them,
+    the sum. `lines` has the equation for each head, the one unknown of it
+    that no other equation has.
+    """
+
+    def __init__(self, prime, unknowns):
+        self.prime = prime
+        self.unknowns = unknowns
+        self.lines = {}
+        self.is_broken = False
+
+    def take(self, factors, total):
+        """Takes an equation; the factors are a dict from unknowns to numbers."""
+        line = [0] * self.unknowns + [total % self.prime]
+        for x, factor in factors.items():
+            line[x] = factor % self.prime
+        for x in factors:
+            if x in self.lines:
+                line = self._less(line, x, self.lines[x])
+        heads = [x for x in range(self.unknowns) if line[x] != 0]
+        if heads:
+            self._keep(line, heads[0])
+        elif line[-1] != 0:
+            self.is_broken = True
+
+    def _less(self, line, x, by):
+        factor = line[x]
+        return [(a - factor * b) % self.prime for a, b in zip(line, by)] if factor != 0 else line
+
+    def _keep(self, line, head):
+        inverse = _inverse(line[head], self.prime)
+        line = [a * inverse % self.prime for a in line]
+        self.lines = {x: self._less(told, head, line) for x, told in self.lines.items()}
+        self.lines[head] = line
+
+    def solution(self):
+        """The values with 0 for all unknowns that are no heads."""
+        return tuple([self.lines[x][-1] if x in self.lines else 0 for x in range(self.unknowns)])
+
+
+def _spanned(rows, p):
+    """The equations whose solutions, as factors of the places, are all that is 0 on the rows less the first one."""
+    space = Equations(p, len(rows[0]))
+    for row in rows:
+        space.take({k: row[k] - rows[0][k] for k in range(len(row))}, 0)
+    return space
+
+
+def _is_flat(rows, p):
+    """True if the rows are all solutions of linear equations: as many as their differences span."""
+    return not rows or len(rows) == raised_to(p, len(_spanned(rows, p).lines))
+
+
+def _is_linear(B):
+    return all([_is_flat(rows, B[0]) for _, rows in B[1]])
+
+
+def is_linear(B):
+    """True if `B` is linear."""
+    check_template(B)
+    if B[0] not in PRIMES:
+        raise Malformed("no prime to 7")
+    return _is_linear(B)
+
+
+def _place_equations(rows, p):
+    """Equations of the places whose solutions are the rows, a list of pairs of factors and a sum."""
+    space = _spanned(rows, p)
+    found = []
+    for free in range(len(rows[0])):
+        if free not in space.lines:
+            # What is 0 on all differences: 1 at this place, and at each head less its factor here.
+            factors = [0] * len(rows[0])
+            factors[free] = 1
+            for head, line in space.lines.items():
+                factors[head] = -line[free]
+            found.append((factors, sum([a * x for a, x in zip(factors, rows[0])])))
+    return found
+
+
+def _solved(A, B):
+    """The equations of all facts of `A`, or None if one is a fact of a table without rows."""
+    told = Equations(B[0], A[0])
+    seen = {}
+    for (_, rows), (_, others) in zip(A[1], B[1]):
+        if rows and not others:
+            return None
+        for factors, total in _place_equations(others, B[0]) if rows else []:
+            for row in rows:
+                summed = {}
+                for x, factor in zip(row, factors):
+                    summed[x] = summed.get(x, 0) + factor
+                key = (tuple(sorted(summed.items())), total)
+                if key not in seen:
+                    seen[key] = True
+                    told.take(summed, total)
+    return None if told.is_broken else told
+
+
+def _linear_equations(A, B):
+    """The equations of an instance of a linear template, or None; the errors come first."""
+    _check_instance(A, B)
+    if A[0] > MOST_SOLVED:
+        raise Refused("large")
+    if B[0] not in PRIMES or not _is_linear(B):
+        raise Refused("linear")
+    return _solved(A, B)
+
+
+def linear_number(A, B):
+    """The number of maps into a linear template, by elimination."""
+    told = _linear_equations(A, B)
+    return 0 if told is None else raised_to(B[0], A[0] - len(told.lines))
+
+
+def linear_map(A, B):
+    """A map into a linear template, or None."""
+    told = _linear_equations(A, B)
+    return None if told is None else told.solution()
+
+
+def _holds(B, word):
+    f, k = CLASS_OPERATIONS[word]
+    return keeps_tables(f, B, k)
+
+
+def boolean_classes(B):
+    """The words of the classes that hold for `B`."""
+    check_template(B)
+    if B[0] != 2:
+        raise Malformed("not two points")
+    return tuple([word for word in CLASS_OPERATIONS if _holds(B, word)])
+
+
+def has_lost_fact(A, B):
+    """True if `A` has a fact of a table without rows in `B`."""
+    return any([len(rows) > 0 and len(others) == 0 for (_, rows), (_, others) in zip(A[1], B[1])])
+
+
+def raised_row(others, values, before):
+    """The values with those changed that must be; None if no row has all values that were changed before.
+
+    A value is `before` until it is changed. Of the rows that have all changed
+    values, each one has another value than `before` where that must be.
+    """
+    met = [row for row in others if all([b != before or v == before for b, v in zip(row, values)])]
+    if not met:
+        return None
+    return tuple([before if before in [row[k] for row in met] else 1 - before for k in range(len(values))])
+
+
+def _raised_map(A, B, before):
+    """The map with as many points at `before` as there can be, or None."""
+    values = [before] * A[0]
+    told = {}
+    changed = True
+    while changed:
+        changed = False
+        for t, (_, rows) in enumerate(A[1]):
+            for row in rows:
+                key = (t, tuple([values[x] for x in row]))
+                if key not in told:
+                    told[key] = raised_row(B[1][t][1], key[1], before)
+                if told[key] is None:
+                    return None
+                if told[key] != key[1]:
+                    changed = True
+                    for x, v in zip(row, told[key]):
+                        values[x] = v if values[x] == before else values[x]
+    return tuple(values)
+
+
+def _barred_pairs(others, arity):
+    """The tuples of two places and their values that no row of the table has."""
+    found = []
+    for i in range(arity):
+        for j in range(arity):
+            met = {(row[i], row[j]): True for row in others}
+            found.extend([(i, a, j, b) for a in (0, 1) for b in (0, 1) if (a, b) not in met])
+    return found
+
+
+def _steps_between(A, B):
+    """For each value of a point the values of points that follow from it."""
+    steps = {(x, v): {} for x in range(A[0]) for v in (0, 1)}
+    for (arity, rows), (_, others) in zip(A[1], B[1]):
+        for i, a, j, b in _barred_pairs(others, arity):
+            for row in rows:
+                steps[(row[i], a)][(row[j], 1 - b)] = True
+    return steps
+
+
+def _followed(steps, start):
+    """All values that follow from one value of a point, as a dict; None if a point gets both."""
+    values = {start[0]: start[1]}
+    waiting = [start]
+    while waiting:
+        for x, v in steps[waiting.pop()]:
+            if x not in values:
+                values[x] = v
+                waiting.append((x, v))
+            elif values[x] != v:
+                return None
+    return values
+
+
+def _paired_map(A, B):
+    """A map into a template whose tables are told by their pairs of places, or None."""
+    steps = _steps_between(A, B)
+    values = {}
+    for x in range(A[0]):
+        if x not in values:
+            # What follows from a value that has no contradiction never meets earlier values with others.
+            told = _followed(steps, (x, 0))
+            if told is None:
+                told = _followed(steps, (x, 1))
+            if told is None:
+                return None
+            values.update(told)
+    return tuple([values[x] for x in range(A[0])])
+
+
+def class_map(A, B, word):
+    """A map found in the way of the class, or None."""
+    _check_instance(A, B)
+    if not (isinstance(word, str) and word in CLASS_OPERATIONS):
+        raise Malformed("no class")
+    if A[0] > MOST_SOLVED:
+        raise Refused("large")
+    if B[0] != 2 or not _holds(B, word):
+        raise Refused("class")
+    if has_lost_fact(A, B):
+        return None
+    if word == "zero" or word == "one":
+        return (0 if word == "zero" else 1,) * A[0]
+    if word == "least" or word == "greatest":
+        return _raised_map(A, B, 0 if word == "least" else 1)
+    if word == "most":
+        return _paired_map(A, B)
+    told = _solved(A, B)
+    return None if told is None else told.solution()
