@@ -5,7 +5,7 @@ from itertools import combinations
 from probeweb.errors import Malformed, Refused
 from probeweb.solving import relations_of, value_masks
 from probeweb.structures import (
-    check_alike, check_structure, is_ascending, is_pair, is_point, is_point_set, is_point_tuple, joined_points,
+    check_alike, check_structure, is_pair, is_point, is_point_set, is_point_tuple, joined_points,
     linked_parts, mask_of)
 from probeweb.thickets import least_elimination, widest_members
 from probeweb.whole import is_integer, raised_to

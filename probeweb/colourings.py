@@ -8,7 +8,7 @@ from math import comb
 from probeweb.errors import Malformed, Refused
 from probeweb.linear import whole_determinant
 from probeweb.structures import first_numbering, is_graph, pieces_of
-from probeweb.whole import is_integer, is_number_from, raised_to
+from probeweb.whole import is_integer, is_number_from
 
 MOST_POINTS = 10
 MOST_EDGES = 14
@@ -41,22 +41,6 @@ def _check_small(G):
     """The first errors of the other functions."""
     _check_graph(G)
     _check_sizes(G, MOST_POINTS, MOST_EDGES)
-
-
-def _added(one, two, factor):
-    """The first polynomial and a multiple of the second one."""
-    size = max(len(one), len(two))
-    longer, other = one + [0] * (size - len(one)), two + [0] * (size - len(two))
-    return [a + factor * b for a, b in zip(longer, other)]
-
-
-def _times(one, two):
-    """The product of two polynomials."""
-    made = [0] * (len(one) + len(two) - 1)
-    for i, a in enumerate(one):
-        for j, b in enumerate(two):
-            made[i + j] += a * b
-    return made
 
 
 def _joined_masks(G):
@@ -105,7 +89,8 @@ def _taken_apart(near, told):
                 left[y] = left[y] & ~(1 << x)
         row = [0] + _taken_apart(_without(tuple(left), x), told)
         for fold in folds:
-            row = _added(row, _taken_apart(fold, told), -1)
+            # A graph with a point less has a coefficient less.
+            row = [a - b for a, b in zip(row, _taken_apart(fold, told) + [0])]
         told[near] = row
     return told[near]
 
@@ -126,7 +111,6 @@ def colour_row(G):
 
 def colour_number(G, q):
     """The value of the colour row at an integer."""
-    _check_graph(G)
     if not is_integer(q):
         raise Malformed("no integer")
     return _value_at(colour_row(G), q)
@@ -182,7 +166,7 @@ def unbroken_row(G):
     """The numbers of sets of 0, 1, .. edges without a broken circuit."""
     _check_small(G)
     row = [0] * (G[0] + 1)
-    for parts, size in _unbroken_sets(G):
+    for _, size in _unbroken_sets(G):
         row[size] += 1
     return tuple(row)
 
@@ -241,7 +225,6 @@ def flow_row(G):
 
 def flow_number(G, q):
     """The number of flows modulo `q`, counted by giving integers to the edges."""
-    _check_graph(G)
     if not (is_number_from(q, 1) and q <= MOST_FLOW):
         raise Malformed("no number for flows")
     _check_small(G)

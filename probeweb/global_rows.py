@@ -163,8 +163,8 @@ def row_structures(lists, m):
 
 
 def _pair_index(x, y, n):
-    """The index of a pair of unlike points in their table."""
-    return x * (n - 1) + (y if y < x else y - 1)
+    """The index of a pair of points, the lesser one first, in the table of all pairs of unlike ones."""
+    return x * (n - 1) + y - 1
 
 
 class HallCutting:
@@ -185,9 +185,7 @@ class HallCutting:
         return tuple([((x, v), -factor) for x in places]), bound
 
     def value_row(self, places, v):
-        """The index of a row that says that the value stands at most at one of the places."""
-        if len(places) == 1:
-            return self.put(self._once_plane(places, v, 1, -1), ("most", places[0], v))
+        """The index of a row that says that the value stands at most at one of two or more places."""
         n = len(self.lists)
         told = -1
         for k in range(1, len(places)):

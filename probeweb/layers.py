@@ -2,7 +2,7 @@
 
 from probeweb.errors import Malformed, Refused
 from probeweb.solving import relations_of, value_masks
-from probeweb.structures import check_alike, is_point, is_point_tuple, joined_points
+from probeweb.structures import check_alike, is_point_tuple, joined_points
 from probeweb.whole import is_integer, raised_to
 
 MOST_LENGTH = 12
@@ -76,7 +76,7 @@ def _check_layers(value):
         raise Malformed("no layers")
 
 
-def _merged(stages, m):
+def _merged(stages):
     """The stages with equal nodes made one and nodes without a way to the end left out.
 
     A stage is a list of nodes, each a list of the numbers of nodes of the
@@ -99,7 +99,7 @@ def _numbered(stages, start):
     """The layers of the nodes that are met from the start on, in the order in which they are met."""
     met = [start]
     layers = []
-    for i, stage in enumerate(stages):
+    for stage in stages:
         layer = [stage[k] for k in met]
         met = _met_items(layer)
         numbers = {item: k for k, item in enumerate(met)}
@@ -110,7 +110,7 @@ def _numbered(stages, start):
 
 def _layers_from(m, order, stages):
     """The layers of the ways from the first node of the first stage on."""
-    merged, names = _merged(stages, m)
+    merged, names = _merged(stages)
     if names.get(0, -1) < 0:
         return m, order, ((),) * len(order)
     return m, order, _numbered(merged, names[0])
@@ -265,15 +265,14 @@ def _has_way(d, held):
 def least_row(d):
     """The least member, or None."""
     _check_layers(d)
-    m, order, _ = d
     if not _has_way(d, {}):
         return None
     held = {}
-    for x in range(len(order)):
+    for x in range(len(d[1])):
         held[x] = 0
         while not _has_way(d, held):
             held[x] += 1
-    return tuple([held[x] for x in range(len(order))])
+    return tuple([held[x] for x in range(len(d[1]))])
 
 
 def layers_values(d):

@@ -4,7 +4,7 @@ from probeweb.errors import Malformed, Refused
 from probeweb.linear import LineSpace, fraction_inverse, fraction_product, turned_rows
 from probeweb.strands import gone_through
 from probeweb.structures import (
-    MOST_POINTS, check_binary, check_both_binary, check_structure, is_pair, is_point, kind_of, mask_of)
+    MOST_POINTS, check_binary, check_both_binary, is_pair, is_point, kind_of, mask_of)
 from probeweb.whole import is_number_from, raised_to
 
 MOST_LETTERS = 1000
@@ -210,12 +210,12 @@ def word_apart(A, B):
 def path_matrix(A, B):
     """The path matrix of `A` and `B`, or None if there is none."""
     _check_apart(A, B)
-    if word_apart(A, B) is not None:
+    kept = _kept_words(A, B)
+    if any([sum(one) != sum(two) for _, one, two in kept]):
         return None
     if A[0] == 0:
         return ()
     # Words that are kept for both are kept for each one, as their columns have the same products.
-    kept = _kept_words(A, B)
     P = tuple([tuple([(a, 1) for a in one]) for _, one, _ in kept])
     Q = tuple([tuple([(a, 1) for a in two]) for _, _, two in kept])
     turned = turned_rows(P, A[0])
@@ -225,7 +225,6 @@ def path_matrix(A, B):
 
 def _check_single(A):
     """None for a structure of the kind (2,)."""
-    check_structure(A)
     if kind_of(A) != (2,):
         raise Malformed("not one table of the arity 2")
 

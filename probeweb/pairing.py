@@ -5,7 +5,7 @@ one colour for each point `y`.
 """
 
 from probeweb.errors import Malformed, Refused
-from probeweb.structures import check_binary, check_both_binary, is_pair, kind_of
+from probeweb.structures import check_both_binary, is_pair, kind_of
 from probeweb.whole import is_integer, is_number_from, rest_of_power
 
 MOST_POINTS_PAIRED = 16
@@ -91,7 +91,6 @@ def joint_pairs(A, B):
 
 def pair_colouring(A):
     """The table of the stable colours of `A` alone."""
-    check_binary(A)
     return joint_pairs(A, (0, tuple([(arity, ()) for arity in kind_of(A)])))[0]
 
 

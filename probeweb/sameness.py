@@ -38,7 +38,7 @@ def turned_into(A, B):
     check_alike(A, B)
     _check_turned(A, B)
     search = TurningSearch(A, B)
-    return search.least(()) if search.is_open else None
+    return search.least((), search.start) if search.is_open else None
 
 
 def turning_chain(A):

@@ -20,18 +20,27 @@ def _pair_marks(A):
 
 
 def _unlike_rows(A):
-    """For each point the pairs of a table and a row of three unlike points that has it."""
-    found = [[] for _ in range(A[0])]
-    for t, (_, rows) in enumerate(A[1]):
-        for row in rows:
-            if len(set(row)) == 3:
-                for x in row:
-                    found[x].append((t, row))
-    return found
+    """The pairs of a table and a row of three unlike points."""
+    return [(t, row) for t, (_, rows) in enumerate(A[1]) for row in rows if len(set(row)) == 3]
+
+
+def _third_masks(rows):
+    """For each table, place and points at the two other places, in order, the mask of the points at the place."""
+    masks = {}
+    for t, row in rows:
+        for place in range(3):
+            key = (t, place, row[:place] + row[place + 1:])
+            masks[key] = masks.get(key, 0) | 1 << row[place]
+    return masks
 
 
 class TurningSearch:
-    """The turnings of `A` into `B`, looked for point by point, with colours of pairs that they keep."""
+    """The turnings of `A` into `B`, looked for point by point.
+
+    The images of the points to come are kept in masks: colours of pairs make
+    them smaller, which all turnings keep, and rows of three unlike points
+    two of which have their images.
+    """
 
     def __init__(self, A, B):
         self.many = A[0]
@@ -40,55 +49,52 @@ class TurningSearch:
         self.colours, further = refined_tables(one, two, ALL_ROUNDS)
         self.is_open = A[0] == B[0] and all_items(self.colours) == all_items(further)
         self.masks = [_colour_masks(line) for line in further]
-        self.alone = _colour_masks([further[y][y] for y in range(B[0])])
-        rows = _unlike_rows(A)
-        self.last_rows = [[told for told in rows[x] if max(told[1]) == x] for x in range(A[0])]
-        self.rows_at = _unlike_rows(B)
-        self.facts = {told: True for line in self.rows_at for told in line}
+        alone = _colour_masks([further[y][y] for y in range(B[0])])
+        self.start = [alone.get(self.colours[x][x], 0) for x in range(A[0])]
+        rows = _unlike_rows(B)
+        self.thirds = _third_masks(rows)
+        self.rows_at = [[fact[1] for fact in rows if y in fact[1]] for y in range(B[0])]
+        self.rules = [[] for _ in range(A[0])]
+        self.ended = [0] * A[0]
+        for t, row in _unlike_rows(A):
+            _, x, last = sorted(row)
+            place = row.index(last)
+            self.rules[x].append((last, t, place, row[:place] + row[place + 1:]))
+            self.ended[last] += 1
 
-    def _values(self, values):
-        """The mask of the points that may come next."""
-        x = len(values)
-        mask = self.alone.get(self.colours[x][x], 0)
-        for a, b in enumerate(values):
-            mask = mask & self.masks[b].get(self.colours[a][x], 0)
-        return mask
-
-    def _keeps(self, values):
-        """True if the last value takes the rows of three points that are told by then to just such rows."""
-        x = len(values) - 1
-        for t, row in self.last_rows[x]:
-            if (t, tuple([values[a] for a in row])) not in self.facts:
-                return False
-        taken = {b: True for b in values}
-        met = [row for _, row in self.rows_at[values[x]] if all([b in taken for b in row])]
-        return len(met) == len(self.last_rows[x])
-
-    def _look(self):
+    def taken(self, values, masks):
+        """The masks behind the values, whose last one is new; None if they cannot be continued."""
         self.looked += 1
         if self.looked > MOST_LOOKED_AT:
             raise Refused("large")
+        x, y = len(values) - 1, values[-1]
+        after = list(masks)
+        for z in range(x + 1, self.many):
+            after[z] = after[z] & self.masks[y].get(self.colours[x][z], 0)
+        for last, t, place, others in self.rules[x]:
+            key = (t, place, tuple([values[a] for a in others]))
+            after[last] = after[last] & self.thirds.get(key, 0)
+        # As many rows as in `A` must have all their points among the images.
+        images = {b: True for b in values}
+        met = [row for row in self.rows_at[y] if all([b in images for b in row])]
+        return None if 0 in after[x + 1:] or len(met) != self.ended[x] else after
 
-    def least(self, values):
+    def least(self, values, masks):
         """The least turning that begins with the values, or None."""
-        if len(values) == self.many:
+        x = len(values)
+        if x == self.many:
             return values
-        mask = self._values(values)
         for y in range(self.many):
-            if mask >> y & 1 == 1:
-                self._look()
-                if self._keeps(values + (y,)):
-                    found = self.least(values + (y,))
-                    if found is not None:
-                        return found
+            if masks[x] >> y & 1 == 1:
+                found = self.least_with(values + (y,), masks)
+                if found is not None:
+                    return found
         return None
 
-    def least_behind(self, values):
-        """As `least`, for values of which only the last one is not known to be right."""
-        if self._values(values[:-1]) >> values[-1] & 1 == 0:
-            return None
-        self._look()
-        return self.least(values) if self._keeps(values) else None
+    def least_with(self, values, masks):
+        """As `least`, for masks behind all values but the last one."""
+        after = self.taken(values, masks)
+        return None if after is None else self.least(values, after)
 
 
 def _colour_masks(colours):
@@ -114,6 +120,9 @@ def chain_of(A):
     """The chain of `A`, the search for it made with one bound."""
     search = TurningSearch(A, A)
     known = tuple(range(A[0]))
+    masks = [search.start]
+    for i in range(A[0]):
+        masks.append(search.taken(known[:i + 1], masks[i]))
     links = []
     turnings = []
     for i in reversed(range(A[0])):
@@ -122,7 +131,9 @@ def chain_of(A):
         least = joined_orbits(A[0], turnings)
         failed = {}
         for j in range(i + 1, A[0]):
-            found = None if least[j] in failed else search.least_behind(known[:i] + (j,))
+            found = None
+            if least[j] not in failed and masks[i][i] >> j & 1 == 1:
+                found = search.least_with(known[:i] + (j,), masks[i])
             if found is None:
                 failed[least[j]] = True
             else:

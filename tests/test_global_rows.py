@@ -20,8 +20,8 @@ NO_LISTS = (None, True, 3, "ab", [(0,)], ((0,), [1]), ((1, 0),), ((0, 0),), ((3,
 NO_SIZES = (-1, 61, True, None, "3", (3,), [], 10 ** 60, -10 ** 60)
 SIXTY = tuple(range(60))
 ASKS = (hall_choice, hall_set, least_hall_set, kept_lists, apart_number, rook_row, other_lists, row_structures,
-        hall_cutting, lambda lists, m: tight_set(lists, m, 0, 0), lambda lists, m: bounded_choice(lists, m, ()),
-        lambda lists, m: bound_barrier(lists, m, ()))
+        hall_cutting, lambda lists, m: tight_set(lists, m, 0, 0), lambda lists, m: bounded_choice(lists, m, ((0, 5),) * 3),
+        lambda lists, m: bound_barrier(lists, m, ((0, 5),) * 3))
 
 
 def random_lists(seed):

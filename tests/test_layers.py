@@ -167,6 +167,9 @@ class Forms(Case):
     def test_malformed_arguments(self):
         for n in (0, 13, -1, True, None, "2", (2,), 10 ** 60):
             self.malformed(layers_of_rows, n, 2, [], (0, 1))
+        for n in (0, 13):
+            self.malformed(layers_of_rows, n, 2, [], tuple(range(n)))
+        self.malformed(layers_of_rows, True, 2, [], (0,))
         for m in (0, 9, -1, True, None, "2", (2,), 10 ** 60):
             self.malformed(layers_of_rows, 2, m, [], (0, 1))
         for order in WRONG + ((0,), (0, 0), (0, 2), [0, 1], (0, True), (0, 1, 2)):
@@ -238,6 +241,10 @@ class Bounds(Case):
         # 447 * 448 is 200256.
         self.refuses("large", layers_join, d, e)
         self.refuses("large", layers_join, e, d)
+        # 400 * 500 is 200000, and 409 * 489 is 200001.
+        self.assertEqual(layers_number(layers_less(of_size(499), of_size(399))), 200)
+        self.refuses("large", layers_less, of_size(408), of_size(488))
+        self.refuses("large", layers_meet, of_size(488), of_size(408))
 
 
 if __name__ == "__main__":

@@ -9,8 +9,8 @@ from brute import WRONG, graph, plain_strand, plain_structure, ring, variants
 from cases import Case
 from plain import is_prime, plain_pair_colouring, plain_pair_signature, plain_pairs, plain_stable_pairs, plain_turned
 from probeweb.pairing import (
-    PRIME, StrandMaker, is_pair_colouring, joint_pairs, pair_colouring, pair_numbers, pair_round, same_pairs,
-    strand_apart)
+    PRIME, StrandMaker, _powers, is_pair_colouring, joint_pairs, pair_colouring, pair_numbers, pair_round, same_pairs,
+    strand_apart, trimmed_strand)
 from probeweb.refining import same_colours
 from probeweb.strands import strand_number, strand_points, strand_rest, strand_rests
 from probeweb.structures import beside, kind_of
@@ -188,6 +188,10 @@ class Judged(Case):
         told = (((1, 0), (0, 1)), ((1, 0), (0, 1)))
         for other in itertools.chain(variants(told), WRONG):
             self.assertIs(is_pair_colouring(A, A, other), plain_pair_colouring(A, A, other), other)
+        # Tables whose rows are longer, or which have more rows, and which are right but for this.
+        wide = tuple(row + (5,) for row in told[0])
+        self.assertIs(is_pair_colouring(A, A, (wide, wide)), False)
+        self.assertIs(is_pair_colouring(A, A, (told[0] + ((5, 5),),) * 2), False)
         for seed in range(60):
             rng = random.Random(seed)
             A = brute.structure(rng, (2,), 3, 4)
@@ -251,6 +255,40 @@ class Strands(Case):
         for number, column in maker.parting:
             self.assertEqual(column, [a for table in (one, two) for line in table[number] for a in line])
         self.assertGreater(len(maker.parting), 2)
+
+    def test_products_of_the_search(self):
+        for seed in range(40):
+            rng = random.Random(seed)
+            A = brute.structure(rng, (2, 1), rng.randint(0, 4), 7)
+            B = brute.structure(rng, (2, 1), rng.randint(0, 4), 7)
+            maker = StrandMaker(A, B)
+            for _ in range(2):
+                maker.part_further()
+            for _ in range(6):
+                exponents = [rng.choice((0, 0, 1, 2, 3, 4, 5, 6, 7)) for _ in maker.parting]
+                end = maker.product_row(exponents)
+                column = maker.product_column(exponents)
+                rows = tuple(maker.rows)
+                self.assertTrue(plain_strand(rows, kind_of(A)))
+                for strand, at in ((rows, end), (trimmed_strand(maker.rows, end), -1)):
+                    tables = strand_rests(strand, A, PRIME)[at], strand_rests(strand, B, PRIME)[at]
+                    self.assertEqual(column, [a for table in tables for line in table for a in line])
+            # Without exponents above 0 the product is the row of all pairs.
+            self.assertEqual(maker.rows[maker.product_row([0] * len(maker.parting))], ("all",))
+
+    def test_exponents(self):
+        # Only the power 2 of the column tells these weights: the sums with 0 and 1 are 0.
+        exponents = _powers([1, -2, 1], [[1, 2, 3]])
+        self.assertEqual(exponents, [2])
+        self.assertEqual(_powers([1, -1], [[5, 5], [0, 4]]), [0, 1])
+        self.assertEqual(_powers([1, -1, -1, 1], [[0, 0, 1, 1], [0, 1, 0, 1]]), [1, 1])
+        self.assertEqual(_powers([1, 1], []), [])
+
+    def test_trimmed(self):
+        rows = [("same",), ("all",), ("fact", 0, (0, 1)), ("turn", 2), ("both", 3, 1), ("through", 2, 2)]
+        self.assertEqual(trimmed_strand(rows, 4), (("all",), ("fact", 0, (0, 1)), ("turn", 1), ("both", 2, 0)))
+        self.assertEqual(trimmed_strand(rows, 5), (("fact", 0, (0, 1)), ("through", 0, 0)))
+        self.assertEqual(trimmed_strand(rows, 0), (("same",),))
 
 
 if __name__ == "__main__":

@@ -14,7 +14,7 @@ from probeweb.sameness import (
     all_foldings, all_turnings, case_parting, class_number_both, class_number_over, class_number_under, folding_apart,
     is_turning, turned_into, turning_chain, turning_number, turning_orbits)
 from probeweb.structures import beside, first_numbering, folded_by
-from probeweb.turning import fixed_count, powers_of, rounds_of
+from probeweb.turning import MOST_LOOKED_AT, TurningSearch, fixed_count, powers_of, rounds_of
 
 NO_STRUCTURES = [value for value in WRONG if not plain_structure(value)]
 EDGE, PATH = graph(2, [(0, 1)]), graph(3, [(0, 1), (1, 2)])
@@ -99,6 +99,8 @@ class Turnings(Case):
         self.assertIs(is_turning((0, ()), (0, ()), ()), True)
         self.assertIs(is_turning((1, ()), (2, ()), (0,)), False)
         self.assertIs(is_turning((1, ()), (1, ()), (False,)), False)
+        self.assertIs(is_turning((2, ()), (2, ()), (0, 0)), False)
+        self.assertIs(is_turning((2, ((2, ()),)), (2, ((2, ()),)), (1, 1)), False)
 
     def test_edges(self):
         empty = (0, ((2, ()),))
@@ -138,6 +140,18 @@ class Turnings(Case):
         rng.shuffle(m)
         self.assertEqual(turned_into(A, plain_turned(A, m)), tuple(m))
 
+    def test_triples(self):
+        # The lines of a space of 15 points, and the same with four of them exchanged: all pairs are alike.
+        lines = {tuple(sorted((a, b, a ^ b))) for a in range(1, 16) for b in range(1, 16) if a != b}
+        old = {(1, 2, 3), (1, 4, 5), (2, 4, 6), (3, 5, 6)}
+        self.assertLessEqual(old, lines)
+        new = {(2, 3, 6), (4, 5, 6), (1, 2, 4), (1, 3, 5)}
+        A, B = [(15, ((3, tuple(sorted(tuple(p - 1 for p in order) for line in told
+                                       for order in itertools.permutations(line)))),)) for told in (lines, lines - old | new)]
+        self.assertIsNone(turned_into(A, B))
+        self.assertIsNone(turned_into(B, A))
+        self.assertEqual((turning_number(A), turning_number(B)), (20160, 192))
+
     def test_bounds(self):
         large = (17, ((2, ()),))
         for ask in (turning_chain, turning_number, turning_orbits, all_turnings):
@@ -150,6 +164,12 @@ class Turnings(Case):
         self.malformed_pairs(turned_into, NO_STRUCTURES, EDGE)
         self.malformed_pairs(is_turning, NO_STRUCTURES, EDGE, ())
         self.assertIs(is_turning((60, ()), (60, ()), tuple(range(60))), True)
+
+    def test_bound_of_the_search(self):
+        search = TurningSearch(PATH, PATH)
+        search.looked = MOST_LOOKED_AT - 1
+        self.assertIsNotNone(search.taken((0,), search.start))
+        self.refuses("large", search.taken, (0,), search.start)
 
     def test_same_pairs(self):
         for A, B in PAIRS[::4]:
