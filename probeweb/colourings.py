@@ -185,7 +185,7 @@ def _edge_sets(G):
     """For each pair of parts of the points and a number of edges how many sets of edges make them."""
     found = {(tuple(range(G[0])), 0): 1}
     for x, y in _edges(G):
-        further = dict(found)
+        further = {key: number for key, number in found.items()}
         for (parts, size), number in found.items():
             key = (_parts_with(parts, x, y), size + 1)
             further[key] = further.get(key, 0) + number

@@ -232,7 +232,7 @@ def _marked_rows(search, lists, marks, near, classes, held):
     mark = marks[len(held)]
     found = []
     for v in search.members(lists[mark]):
-        if v in held or all([w in held for w in classes[v] if w < v]):
+        if all([w in held for w in classes[v] if w < v]):
             trial = search.settled_with(lists, mark, v)
             if trial is not None:
                 found.extend(_marked_rows(search, trial, marks, near, classes, held + (v,)))

@@ -110,7 +110,8 @@ class Trees(Case):
     def test_malformed(self):
         for value in NO_STRUCTURES:
             for ask in (is_bag_tree, is_thicket, bag_width, thicket_order):
-                self.malformed(ask, value, ())
+                for other in ((), None, ((0,),), (((),), (-1,))):
+                    self.malformed(ask, value, other)
             for ask in (order_width, order_tree):
                 self.malformed(ask, value, (0,))
             for ask in (least_width, least_tree, widest_thicket):

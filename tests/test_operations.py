@@ -161,7 +161,10 @@ class Operations(Case):
         self.assertEqual(all_operations((1, ((2, ()),)), 5), ((0,),))
         self.assertEqual(operation_number((2, ()), 3), 256)
         self.assertEqual(operation_number((5, ()), 1), 3125)
-        # 20000 at most: 16384 and 65536, then 6^6 = 46656.
+        # 20000 at most: four free points of ten, one of two values, the others held.
+        held = (10, ((1, ((0,), (1,))),) + tuple((1, ((x,),)) for x in (0, 2, 3, 4, 5)))
+        self.assertEqual(operation_number(held, 1), 20000)
+        self.refuses("many", operation_number, (10, held[1][1:]), 1)
         self.assertEqual(operation_number((2, ((1, ((0,),)), (1, ((1,),)))), 4), 16384)
         self.refuses("many", operation_number, (2, ()), 4)
         self.refuses("many", all_operations, (6, ()), 1)
@@ -248,6 +251,25 @@ class Special(Case):
             if told is not None:
                 self.assertTrue(is_of_kind(told, B[0], "semilattice"))
                 self.assertIs(is_kept_by(B, told, 2), True)
+
+    def test_all_semilattices_of_four_points(self):
+        every = []
+        places = [(x, y) for x in range(4) for y in range(x)]
+        for values in itertools.product(range(4), repeat=6):
+            f = [x if x == y else 0 for x in range(4) for y in range(4)]
+            for (x, y), v in zip(places, values):
+                f[4 * x + y] = f[4 * y + x] = v
+            if is_of_kind(f, 4, "semilattice"):
+                every.append(tuple(f))
+        every = sorted(every)
+        some = [(4, ((3, ((1, 1, 1), (1, 3, 2), (2, 1, 1))),)), (4, ((2, ((0, 2), (2, 1), (3, 1))), (2, ((0, 0), (1, 1), (2, 0))))),
+                (4, ((2, ((1, 1), (2, 3))),)), (4, ((3, ((2, 1, 2), (2, 2, 0), (3, 1, 2))),))]
+        for seed in range(60):
+            rng = random.Random(seed)
+            some.append(brute.structure(rng, rng.choice(((2,), (3,), (2, 2))), 4, rng.choice((3, 5, 8))))
+        for B in some:
+            told = [f for f in every if all(plain_keeps(f, 4, 2, rows) for _, rows in B[1] if rows)]
+            self.assertEqual(special_operation(B, "semilattice"), told[0] if told else None)
 
     def test_constants(self):
         self.assertEqual(special_operation((60, ()), "constant"), (0,) * 60)
@@ -349,6 +371,8 @@ class Definable(Case):
         self.assertEqual(defined_rows((60, ()), (3, 3), (60, ())), tuple((x, x) for x in range(60)))
         self.assertEqual(len(defined_rows((60, ()), (0, 1, 2), (20, ()))), 8000)
         self.assertEqual(defined_rows(ring(3), (0,), ring(4)), ())
+        # Each fact of the ring of five points can be kept with two joined points alone, and not all of them.
+        self.assertEqual(defined_rows(ring(5), (0,), beside(EDGE, full_graph(3))), ((2,), (3,), (4,)))
         # A part that is linked with no mark has no map, and then there is none at all.
         self.assertEqual(defined_rows(beside(EDGE, ring(3)), (0,), ring(4)), ())
         self.assertEqual(defined_rows(beside(EDGE, ring(4)), (0, 1), EDGE), ((0, 1), (1, 0)))

@@ -1,0 +1,119 @@
+"""Values of any form in each place of the arguments: no other errors than the told ones come out (point 0.3)."""
+
+import itertools
+import unittest
+
+import brute
+from brute import WRONG, deep, directed_path, full_graph, ring
+from probeweb import (
+    bags, colourings, global_rows, layers, linear, matrices, operations, pairing, probepapers, sameness, templates)
+from probeweb.errors import Fault
+
+EDGE, PATH, ORDER = full_graph(2), directed_path(3), (2, ((2, ((0, 0), (0, 1), (1, 1))),))
+ONE, HALF = (1, 1), (1, 2)
+SQUARE_TREE = (((3,), (2, 3), (1, 2, 3), (0, 1, 3)), (-1, 0, 1, 2))
+LISTS = ((0, 1), (0, 1), (0, 1, 2))
+D = (2, (0, 1), (((0, 1),), ((-1, 0), (0, -1))))
+COLOURS = (((1, 0), (0, 1)), ((1, 0), (0, 1)))
+CALLS = (
+    (pairing.pair_round, EDGE, EDGE, 1), (pairing.joint_pairs, EDGE, EDGE), (pairing.pair_colouring, EDGE),
+    (pairing.same_pairs, EDGE, EDGE), (pairing.pair_numbers, EDGE), (pairing.is_pair_colouring, EDGE, EDGE, COLOURS),
+    (pairing.strand_apart, EDGE, EDGE),
+    (linear.fraction_product, ((ONE, HALF),), ((ONE,), (HALF,))), (linear.turned_rows, ((ONE, HALF),), 2),
+    (linear.reduced_rows, ((ONE, HALF),), 2), (linear.fraction_rank, ((ONE, HALF),), 2),
+    (linear.fraction_solve, ((ONE, HALF),), 2, (HALF,)), (linear.fraction_bar, ((ONE, HALF),), 2, (HALF,)),
+    (linear.fraction_kernel, ((ONE, HALF),), 2), (linear.fraction_inverse, ((ONE, HALF), (HALF, ONE))),
+    (linear.whole_determinant, ((1, 2), (3, 4))),
+    (matrices.kind_letters, EDGE), (matrices.letter_rows, EDGE, (0, 1)), (matrices.word_path, EDGE, ((0, 1), (0, 0))),
+    (matrices.word_number, EDGE, ((0, 1), (0, 0))), (matrices.word_within, EDGE, EDGE), (matrices.word_apart, EDGE, EDGE),
+    (matrices.path_matrix, EDGE, EDGE), (matrices.closed_row, EDGE, 3), (matrices.spectrum_row, EDGE),
+    (matrices.cycle_within, EDGE, EDGE), (matrices.cycle_graph, 3), (matrices.grid_graph, 2, 3),
+    (matrices.grid_number, EDGE, 2, 3),
+    (sameness.is_turning, EDGE, EDGE, (0, 1)), (sameness.turned_into, EDGE, EDGE), (sameness.turning_chain, EDGE),
+    (sameness.turning_number, EDGE), (sameness.turning_orbits, EDGE), (sameness.all_turnings, EDGE),
+    (sameness.all_foldings, 3), (sameness.folding_apart, EDGE, EDGE), (sameness.class_number_under, EDGE, EDGE),
+    (sameness.class_number_over, EDGE, EDGE), (sameness.class_number_both, EDGE, EDGE),
+    (sameness.case_parting, EDGE, EDGE),
+    (operations.is_operation, (0, 0, 0, 1), 2, 2), (operations.operation_at, (0, 0, 0, 1), 2, (1, 0)),
+    (operations.projected_at, 2, 2, 1), (operations.keeps_rows, (0, 1), 2, 1, ((0, 1), (1, 1))),
+    (operations.is_kept_by, ORDER, (0, 1), 1), (operations.put_together, (0, 0, 0, 1), 2, 2, ((0, 1), (1, 0))),
+    (operations.all_operations, ORDER, 1), (operations.operation_number, ORDER, 1),
+    (operations.special_operation, ORDER, "majority"), (operations.breaking_operation, ORDER, ((0, 1), (1, 0))),
+    (operations.defined_rows, PATH, (0, 2), ORDER),
+    (templates.list_structure, ORDER), (templates.list_map, ORDER), (templates.is_list_decided, ORDER),
+    (templates.is_linear, EDGE), (templates.linear_number, PATH, EDGE), (templates.linear_map, PATH, EDGE),
+    (templates.boolean_classes, ORDER), (templates.class_map, PATH, ORDER, "least"),
+    (bags.is_bag_tree, ring(4), SQUARE_TREE), (bags.is_thicket, ring(4), ((0,), (1, 2), (3,))),
+    (bags.bag_width, ring(4), SQUARE_TREE), (bags.order_width, PATH, (0, 1, 2)), (bags.order_tree, PATH, (0, 1, 2)),
+    (bags.thicket_order, ring(4), ((0,), (1, 2), (3,))), (bags.least_width, PATH), (bags.least_tree, PATH),
+    (bags.widest_thicket, PATH), (bags.number_along, ring(4), EDGE, SQUARE_TREE),
+    (layers.is_layers, D), (layers.layers_of_maps, PATH, EDGE, (0, 1, 2)),
+    (layers.layers_of_rows, 2, 2, [(0, 1), (1, 0)], (0, 1)), (layers.layers_number, D), (layers.layers_rows, D),
+    (layers.layers_have, D, (0, 1)), (layers.least_row, D), (layers.layers_values, D), (layers.layers_meet, D, D),
+    (layers.layers_join, D, D), (layers.layers_less, D, D), (layers.layers_reordered, D, (1, 0)), (layers.layers_sizes, D),
+    (global_rows.hall_choice, LISTS, 3), (global_rows.hall_set, LISTS, 3), (global_rows.least_hall_set, LISTS, 3),
+    (global_rows.kept_lists, LISTS, 3), (global_rows.tight_set, LISTS, 3, 2, 0),
+    (global_rows.bounded_choice, LISTS, 3, ((0, 1), (0, 2), (1, 1))),
+    (global_rows.bound_barrier, LISTS, 3, ((0, 1), (0, 2), (1, 1))), (global_rows.apart_number, LISTS, 3),
+    (global_rows.rook_row, LISTS, 3), (global_rows.other_lists, LISTS, 3), (global_rows.row_structures, LISTS, 3),
+    (global_rows.hall_cutting, LISTS, 3), (global_rows.is_strip, ((0, 1), (1, 0)), 2),
+    (global_rows.strip_lists, ((0, 1), (1, 0)), 2), (global_rows.strip_number, 2, 3),
+    (colourings.colour_row, ring(3)), (colourings.colour_number, ring(3), 3), (colourings.acyclic_number, ring(3)),
+    (colourings.rooted_number, ring(3)), (colourings.stable_row, ring(3)), (colourings.unbroken_row, ring(3)),
+    (colourings.flat_list, ring(3)), (colourings.flow_row, ring(3)), (colourings.flow_number, ring(3), 3),
+    (colourings.tutte_rows, ring(3)), (colourings.forest_number, ring(3)),
+    (probepapers.lists_paper, EDGE, EDGE), (probepapers.strategy_paper, EDGE, EDGE), (probepapers.colours_paper, EDGE, EDGE),
+    (probepapers.pairs_paper, EDGE, EDGE), (probepapers.even_paper, EDGE, EDGE))
+ITEMS = (None, True, False, "a", "", -1, 0, 1, 2, 7, (), [], {}, (0,), ("a",), 10 ** 60, -10 ** 60, deep(60), ((0, 0),))
+
+
+def changed(value):
+    """Values with another one at one place, however deep it stands, and lists in the place of tuples."""
+    yield from ITEMS
+    if isinstance(value, (tuple, list)):
+        yield list(value)
+        yield tuple(value) + tuple(value[-1:])
+        yield tuple(value[:-1])
+        yield tuple(value[::-1])
+        for k, item in enumerate(value):
+            for other in changed(item):
+                yield type(value)(list(value[:k]) + [other] + list(value[k + 1:]))
+
+
+class Values(unittest.TestCase):
+    def ask(self, function, arguments):
+        try:
+            return function(*arguments)
+        except Fault:
+            return None
+
+    def test_one_argument(self):
+        for function, *told in CALLS:
+            right = repr(self.ask(function, told))
+            for k, value in enumerate(told):
+                for other in itertools.chain(WRONG, changed(value)):
+                    self.ask(function, told[:k] + [other] + told[k + 1:])
+            # Nothing of this changes what is told later, and the arguments stay as they are.
+            self.assertEqual(repr(self.ask(function, told)), right)
+
+    def test_all_arguments(self):
+        for function, *told in CALLS:
+            for other in WRONG + ITEMS:
+                self.ask(function, [other] * len(told))
+
+    def test_answers_for_every_value(self):
+        # Functions that answer for every value of their last argument raise nothing for it.
+        asks = ((pairing.is_pair_colouring, EDGE, EDGE), (sameness.is_turning, EDGE, EDGE), (bags.is_bag_tree, ring(4)),
+                (bags.is_thicket, ring(4)), (layers.is_layers,), (layers.layers_have, D))
+        for function, *told in asks:
+            for other in itertools.chain(WRONG, ITEMS, changed(COLOURS), changed(D), changed(SQUARE_TREE)):
+                self.assertIn(function(*told, other), (True, False))
+        for other in itertools.chain(WRONG, ITEMS, changed((0, 1))):
+            self.assertIn(operations.is_operation(other, 2, 1), (True, False))
+            self.assertIn(global_rows.is_strip(other, 2), (True, False))
+            self.assertIn(global_rows.is_strip((), other), (True, False))
+        self.assertTrue(brute.plain_structure(EDGE))
+
+
+if __name__ == "__main__":
+    unittest.main()
