@@ -3,7 +3,13 @@
 import itertools
 from fractions import Fraction
 
-from brute import plain_ascending, plain_integer, plain_joined, plain_maps, plain_point, plain_tuple
+from brute import graph, plain_ascending, plain_integer, plain_joined, plain_point, plain_tuple
+
+# Two graphs of 16 points, alike in all pairs, that are not the same up to numbers.
+ROOK = graph(16, [(4 * a + b, 4 * c + d) for a, b, c, d in itertools.product(range(4), repeat=4)
+                  if (a == c) != (b == d)])
+SHRIKHANDE = graph(16, [(4 * a + b, 4 * ((a + x) % 4) + (b + y) % 4) for a, b in itertools.product(range(4), repeat=2)
+                        for x, y in ((0, 1), (1, 0), (1, 1))])
 
 
 def plain_kind(A, x, y):
@@ -153,6 +159,13 @@ def all_words(letters, most):
 def plain_turned(A, m):
     """`A` renumbered."""
     return (A[0], tuple((arity, tuple(sorted(tuple(m[x] for x in row) for row in rows))) for arity, rows in A[1]))
+
+
+def shuffled(A, rng):
+    """`A` with its points in a random order."""
+    m = list(range(A[0]))
+    rng.shuffle(m)
+    return plain_turned(A, m)
 
 
 def plain_turnings(A, B):
@@ -344,7 +357,3 @@ def parts_of(n, edges):
 
 def value_at(row, q):
     return sum(a * q ** i for i, a in enumerate(row))
-
-
-def map_set(A, B):
-    return plain_maps(A, B)

@@ -8,7 +8,7 @@ import brute
 from brute import WRONG, directed_path, hom, plain_structure, ring
 from cases import Case
 from plain import (
-    all_words, plain_determinant, plain_letter, plain_letters, plain_product, plain_turned, plain_word_number)
+    all_words, plain_determinant, plain_letter, plain_letters, plain_product, plain_word_number, shuffled)
 from probeweb.maps import map_number
 from probeweb.matrices import (
     closed_row, cycle_graph, cycle_within, grid_graph, grid_number, kind_letters, letter_rows, path_matrix,
@@ -18,12 +18,6 @@ from probeweb.structures import beside
 NO_STRUCTURES = [value for value in WRONG if not plain_structure(value)]
 NOT_BINARY = (1, ((2, ()), (3, ())))
 MIXED = (3, ((2, ((0, 1), (1, 2))), (1, ((0,), (2,))), (2, ((2, 2),))))
-
-
-def shuffled(A, rng):
-    m = list(range(A[0]))
-    rng.shuffle(m)
-    return plain_turned(A, m)
 
 
 def pairs(many=250):

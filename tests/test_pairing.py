@@ -7,7 +7,8 @@ from collections import Counter
 import brute
 from brute import WRONG, graph, plain_strand, plain_structure, ring, variants
 from cases import Case
-from plain import is_prime, plain_pair_colouring, plain_pair_signature, plain_pairs, plain_stable_pairs, plain_turned
+from plain import (
+    ROOK, SHRIKHANDE, is_prime, plain_pair_colouring, plain_pair_signature, plain_pairs, plain_stable_pairs, shuffled)
 from probeweb.pairing import (
     PRIME, StrandMaker, _powers, is_pair_colouring, joint_pairs, pair_colouring, pair_numbers, pair_round, same_pairs,
     strand_apart, trimmed_strand)
@@ -20,16 +21,6 @@ TRIANGLES = graph(6, [(0, 1), (1, 2), (0, 2), (3, 4), (4, 5), (3, 5)])
 EDGE = graph(2, [(0, 1)])
 NO_STRUCTURES = [value for value in WRONG if not plain_structure(value)]
 NOT_BINARY = (1, ((2, ()), (3, ())))
-ROOK = graph(16, [(4 * a + b, 4 * c + d) for a, b, c, d in itertools.product(range(4), repeat=4)
-                  if (a == c) != (b == d)])
-SHRIKHANDE = graph(16, [(4 * a + b, 4 * ((a + x) % 4) + (b + y) % 4) for a, b in itertools.product(range(4), repeat=2)
-                        for x, y in ((0, 1), (1, 0), (1, 1))])
-
-
-def shuffled(A, rng):
-    m = list(range(A[0]))
-    rng.shuffle(m)
-    return plain_turned(A, m)
 
 
 def rings(*sizes):

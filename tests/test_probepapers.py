@@ -8,7 +8,7 @@ from brute import (
     WRONG, full_graph, graph, plain_even, plain_rounds, plain_signature, plain_strand, plain_structure, plain_tree, ring)
 from cases import Case
 from plain import is_prime, plain_pair_colouring, plain_turned
-from probeweb.arcs import greatest_lists, is_closed_lists, lists_stand
+from probeweb.arcs import greatest_lists, is_closed_lists
 from probeweb.pairing import joint_pairs, same_pairs
 from probeweb.pebbles import greatest_strategy, is_strategy, strategy_stands
 from probeweb.probepapers import colours_paper, even_paper, lists_paper, pairs_paper, strategy_paper

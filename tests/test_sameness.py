@@ -7,7 +7,7 @@ import unittest
 import brute
 from brute import WRONG, graph, hom, plain_colours, plain_maps, plain_structure, ring, variants
 from cases import Case
-from plain import plain_turned, plain_turnings
+from plain import ROOK, SHRIKHANDE, plain_turned, plain_turnings, shuffled
 from probeweb.pairing import same_pairs
 from probeweb.refining import stable_colouring
 from probeweb.sameness import (
@@ -20,16 +20,6 @@ NO_STRUCTURES = [value for value in WRONG if not plain_structure(value)]
 EDGE, PATH = graph(2, [(0, 1)]), graph(3, [(0, 1), (1, 2)])
 HEXAGON = ring(6)
 TRIANGLES = graph(6, [(0, 1), (1, 2), (0, 2), (3, 4), (4, 5), (3, 5)])
-ROOK = graph(16, [(4 * a + b, 4 * c + d) for a, b, c, d in itertools.product(range(4), repeat=4)
-                  if (a == c) != (b == d)])
-SHRIKHANDE = graph(16, [(4 * a + b, 4 * ((a + x) % 4) + (b + y) % 4) for a, b in itertools.product(range(4), repeat=2)
-                        for x, y in ((0, 1), (1, 0), (1, 1))])
-
-
-def shuffled(A, rng):
-    m = list(range(A[0]))
-    rng.shuffle(m)
-    return plain_turned(A, m)
 
 
 def rings(*sizes):
