@@ -241,8 +241,7 @@ def is_strip(value, n):
     if not (is_number_from(n, 0) and isinstance(value, tuple) and all([_is_strip_row(row, n) for row in value])):
         return False
     # Without rows a great number of columns would be walked through.
-    columns = range(n) if value else range(0)
-    return all([len(set([row[k] for row in value])) == len(value) for k in columns])
+    return value == () or all([len(set([row[k] for row in value])) == len(value) for k in range(n)])
 
 
 def strip_lists(strip, n):

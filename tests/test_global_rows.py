@@ -313,6 +313,28 @@ class Strips(Case):
                 if not plain_strip(value, n):
                     self.malformed(strip_lists, value, n)
 
+    def test_strips(self):
+        # Without rows there is nothing to be walked through, however many columns are told.
+        for n in (0, 1, 5, 61, 10 ** 9, 10 ** 60):
+            self.assertIs(is_strip((), n), True)
+        for n in (-1, -10 ** 60, True, False, None, "5", [5], (5,)):
+            self.assertIs(is_strip((), n), False)
+        for n in (1, 5, 60, 61, 70):
+            rows = tuple(tuple((x + k) % n for x in range(n)) for k in range(min(n, 4)))
+            self.assertIs(is_strip(rows, n), True)
+            self.assertIs(is_strip(rows[:1], n), True)
+            self.assertIs(is_strip(rows + rows[:1], n), False)
+            self.assertIs(is_strip(rows + (rows[0][:-1],), n), False)
+            self.assertIs(is_strip(rows + (rows[0] + (n,),), n), False)
+            self.assertIs(is_strip(rows, n + 1), False)
+            self.assertIs(is_strip(rows, 10 ** 60), False)
+            self.assertIs(is_strip(list(rows), n), False)
+            self.assertIs(is_strip((rows[0][:-1] + (n,),), n), False)
+        self.assertIs(is_strip(((0, 1, 1),), 3), False)
+        self.assertIs(is_strip(((0, 1, 2), (1, 0, 2)), 3), False)
+        self.assertIs(is_strip(((0, 1, 2), (2, 0, 1), (1, 2, 0)), 3), True)
+        self.assertEqual((is_strip(((),), 0), is_strip([], 3), is_strip(None, 3)), (True, False, False))
+
     def test_lists(self):
         self.assertEqual(strip_lists(((0, 1, 2), (1, 2, 0)), 3), ((2,), (0,), (1,)))
         self.assertEqual((strip_lists((), 2), strip_lists((), 0), strip_lists(((0,),), 1)), (((0, 1), (0, 1)), (), ((),)))
