@@ -24,7 +24,8 @@ def check_arc_sizes(A, B):
         raise Refused("large")
 
 
-def _check_pair(A, B):
+def check_arc_pair(A, B):
+    """The errors of functions of two structures of this chapter."""
     check_alike(A, B)
     check_arc_sizes(A, B)
 
@@ -92,13 +93,13 @@ def _written(lists, n):
 
 def greatest_lists(A, B):
     """The greatest closed lists."""
-    _check_pair(A, B)
+    check_arc_pair(A, B)
     return _written(_rounds(A, B)[-1], B[0])
 
 
 def lists_stand(A, B):
     """True if no greatest closed list is empty."""
-    _check_pair(A, B)
+    check_arc_pair(A, B)
     return 0 not in _rounds(A, B)[-1]
 
 
@@ -114,8 +115,8 @@ def list_round(A, B, k):
 
 def is_closed_lists(A, B, value):
     """True if the value is closed lists for `A` and `B`, for every value."""
-    _check_pair(A, B)
-    if not (isinstance(value, tuple) and len(value) == A[0] and all(is_point_set(row, B[0]) for row in value)):
+    check_arc_pair(A, B)
+    if not (isinstance(value, tuple) and len(value) == A[0] and all([is_point_set(row, B[0]) for row in value])):
         return False
     lists = [sum([1 << b for b in row]) for row in value]
     told = {}
@@ -187,7 +188,7 @@ def _empty_at(rounds):
 
 def arc_probe(A, B):
     """A tree that maps into `A` and not into `B`, or None if the lists stand."""
-    _check_pair(A, B)
+    check_arc_pair(A, B)
     rounds = _rounds(A, B)
     root = _empty_at(rounds)
     if root is None:

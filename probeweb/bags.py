@@ -1,11 +1,9 @@
 """Bag trees, orders and thickets (chapter 12)."""
 
-from itertools import combinations
-
 from probeweb.errors import Malformed, Refused
 from probeweb.solving import relations_of, value_masks
 from probeweb.structures import (
-    check_alike, check_structure, is_pair, is_point, is_point_set, is_point_tuple, joined_points,
+    ascending_choices, check_alike, check_structure, is_pair, is_point, is_point_set, is_point_tuple, joined_points,
     linked_parts, mask_of)
 from probeweb.thickets import least_elimination, widest_members
 from probeweb.whole import is_integer, raised_to
@@ -148,7 +146,8 @@ def is_thicket(A, value):
     return _is_thicket(A, value)
 
 
-def _check_width_points(A):
+def check_width_points(A):
+    """Refuses structures with too many points for the search for widths."""
     if A[0] > MOST_WIDTH_POINTS:
         raise Refused("large")
 
@@ -158,10 +157,10 @@ def thicket_order(A, thicket):
     check_structure(A)
     if not _is_thicket(A, thicket):
         raise Malformed("no thicket")
-    _check_width_points(A)
+    check_width_points(A)
     masks = sorted({mask_of(points) for points in thicket})
     for size in range(A[0]):
-        for points in combinations(range(A[0]), size):
+        for points in ascending_choices(A[0], size):
             met = mask_of(points)
             if all([mask & met != 0 for mask in masks]):
                 return size
@@ -175,7 +174,7 @@ def _near_masks(A):
 def _best_order(A):
     """An order of the least width."""
     check_structure(A)
-    _check_width_points(A)
+    check_width_points(A)
     return least_elimination(_near_masks(A))
 
 
@@ -252,11 +251,16 @@ def _summed(numbers, places):
     return sums
 
 
+def is_countable(B, tree):
+    """True for a bag tree along which the maps into `B` can be counted."""
+    return raised_to(B[0], _width_of(tree) + 1) <= MOST_STATES
+
+
 def check_countable(A, B, tree):
     """None for a bag tree of `A` along which the maps into `B` can be counted."""
     check_alike(A, B)
     _check_bag_tree(A, tree)
-    if raised_to(B[0], _width_of(tree) + 1) > MOST_STATES:
+    if not is_countable(B, tree):
         raise Refused("large")
 
 

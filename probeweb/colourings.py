@@ -7,7 +7,7 @@ from math import comb
 
 from probeweb.errors import Malformed, Refused
 from probeweb.linear import whole_determinant
-from probeweb.structures import first_numbering, is_graph, pieces_of
+from probeweb.structures import first_numbering, is_graph, mask_of, pieces_of
 from probeweb.whole import is_integer, is_number_from
 
 MOST_POINTS = 10
@@ -133,13 +133,15 @@ def stable_row(G):
     """The numbers of partings of the points into 0, 1, .. sets without an edge."""
     _check_small(G)
     near = _joined_masks(G)
-    # Point by point: the sets that are there by then, as masks, each time with how many ways.
+    # Point by point: what of the sets is joined with points to come, as masks, each time with how many ways.
     partings = {(): 1}
     for x in range(G[0]):
+        asked = mask_of([y for y in range(x + 1) if near[y] >> x + 1 != 0])
         further = {}
         for sets, number in partings.items():
             for longer in _stable_with(sets, x, near):
-                further[longer] = further.get(longer, 0) + number
+                key = tuple(sorted([mask & asked for mask in longer]))
+                further[key] = further.get(key, 0) + number
         partings = further
     row = [0] * (G[0] + 1)
     for sets, number in partings.items():

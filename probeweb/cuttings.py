@@ -1,7 +1,8 @@
 """Planes and cuttings (points 5.7 to 5.9)."""
 
 from probeweb.errors import Malformed
-from probeweb.refutations import is_choice, is_fact_index, refuted_nogood, used_rows
+from probeweb.refutations import is_choice, is_fact_index, refuted_nogood
+from probeweb.refuting import used_rows
 from probeweb.solving import openings_of
 from probeweb.structures import check_alike, is_ascending, is_pair, is_point, is_point_tuple
 from probeweb.whole import is_integer, is_number_from
@@ -17,7 +18,7 @@ def _is_plane(A, B, value):
     if not (is_pair(value) and isinstance(value[0], tuple) and is_integer(value[1])):
         return False
     items = value[0]
-    return all(_is_item(A, B, item) for item in items) and is_ascending([choice for choice, _ in items])
+    return all([_is_item(A, B, item) for item in items]) and is_ascending([choice for choice, _ in items])
 
 
 def _some_plane(x, many):
@@ -84,7 +85,7 @@ def _told_by_sum(planes, args):
     if len(args) != 1 or not (isinstance(args[0], tuple) and len(args[0]) > 0):
         return None
     terms = args[0]
-    if not all(_is_term(term, len(planes)) for term in terms) or not is_ascending([j for j, _ in terms]):
+    if not all([_is_term(term, len(planes)) for term in terms]) or not is_ascending([j for j, _ in terms]):
         return None
     return _sum_plane(planes, terms)
 
@@ -94,7 +95,7 @@ def _told_by_cut(planes, args):
     if len(args) != 2 or not (is_point(args[0], len(planes)) and is_number_from(args[1], 2)):
         return None
     j, d = args
-    if any(c % d != 0 for _, c in planes[j][0]):
+    if any([c % d != 0 for _, c in planes[j][0]]):
         return None
     return _cut_plane(planes[j], d)
 
@@ -142,7 +143,7 @@ class CuttingMaker:
         self.reasons = []
         self.numbers = {}
 
-    def _row(self, reason):
+    def row_of(self, reason):
         """The index of a row with the reason, which is put to the rows if it is a new one."""
         if reason not in self.numbers:
             self.numbers[reason] = len(self.planes)
@@ -150,8 +151,9 @@ class CuttingMaker:
             self.reasons.append(reason)
         return self.numbers[reason]
 
-    def _sum(self, counts):
-        return self._row(("sum", tuple(sorted(counts.items()))))
+    def sum_of(self, counts):
+        """The index of a row with the sum of rows; `counts` tells how often each one is added."""
+        return self.row_of(("sum", tuple(sorted(counts.items()))))
 
     def _weakened(self, j, held, nogood):
         """The index of a row for the nogood; the nogood `held` of the row `j` is within it."""
@@ -160,8 +162,8 @@ class CuttingMaker:
             return j
         counts = {j: 1}
         for x, v in missing:
-            counts[self._row(("most", x, v))] = 1
-        return self._sum(counts)
+            counts[self.row_of(("most", x, v))] = 1
+        return self.sum_of(counts)
 
     def by_point(self, nogood, x, parts):
         """The index of a row for the nogood, from pairs of a row and its nogood, one for each value of `x`."""
@@ -173,11 +175,11 @@ class CuttingMaker:
             counts[j] = counts.get(j, 0) + 1
             for y, w in nogood:
                 if (y, w) not in held:
-                    most = self._row(("most", y, w))
+                    most = self.row_of(("most", y, w))
                     counts[most] = counts.get(most, 0) + 1
-        counts[self._row(("some", x))] = 1
-        total = self._sum(counts)
-        return self._row(("cut", total, self.many)) if self.many > 1 and nogood else total
+        counts[self.row_of(("some", x))] = 1
+        total = self.sum_of(counts)
+        return self.row_of(("cut", total, self.many)) if self.many > 1 and nogood else total
 
     def _by_images(self, t, i, held, free, parts):
         """The pair of a row and its nogood, which is within the held choices.
@@ -191,7 +193,7 @@ class CuttingMaker:
             if images in self.openings[t]:
                 return parts[images]
             nogood = tuple([(x, held[x]) for x in sorted(set(fact))])
-            return self._row(("fact", t, i, images)), nogood
+            return self.row_of(("fact", t, i, images)), nogood
         x = free[0]
         cases = []
         for v in range(self.many):
@@ -242,3 +244,49 @@ def cutting_from(A, B, rows):
         else:
             made[k] = maker.by_fact(nogood, reason[1], reason[2], parts)
     return maker.rows_to(made[len(rows) - 1])
+
+
+def _barring_fact(A, B, x, y, v, told):
+    """The table and index of a fact that forbids the image `v` for both points, or None."""
+    for t, (_, rows) in enumerate(A[1]):
+        for i, fact in enumerate(rows):
+            if x in fact and y in fact and not openings_of(B, t, fact, {x: v, y: v}, told):
+                return t, i
+    return None
+
+
+def _barring_facts(A, B):
+    """For each two points and each value a fact that forbids it for both; None if there is none somewhere."""
+    found = {}
+    told = {}
+    for y in range(A[0]):
+        for x in range(y):
+            for v in range(B[0]):
+                fact = _barring_fact(A, B, x, y, v, told)
+                if fact is None:
+                    return None
+                found[(x, y, v)] = fact
+    return found
+
+
+def crowded_cutting(A, B):
+    """A cutting that refutes `A` and `B`, if all points must have unlike images and there are too few; else None.
+
+    It is that of point 5.9, without a check.
+    """
+    barred = _barring_facts(A, B) if A[0] > B[0] else None
+    if barred is None:
+        return None
+    maker = CuttingMaker(A, B)
+    counts = {maker.row_of(("some", x)): 1 for x in range(A[0])}
+    for v in range(B[0]):
+        told = -1
+        for y in range(1, A[0]):
+            pairs = [maker.by_fact(((x, v), (y, v)), barred[(x, y, v)][0], barred[(x, y, v)][1], {}) for x in range(y)]
+            if y == 1:
+                told = pairs[0]
+            else:
+                added = maker.sum_of({**{j: 1 for j in pairs}, told: y - 1})
+                told = maker.row_of(("cut", added, y))
+        counts[told] = 1
+    return maker.rows_to(maker.sum_of(counts))

@@ -1,10 +1,8 @@
 """Global rows: choices out of lists that are all unlike, or within bounds (chapter 14)."""
 
-from itertools import combinations, permutations
-
 from probeweb.choosing import BoundedRow, Matching
 from probeweb.errors import Malformed, Refused
-from probeweb.structures import is_pair, is_point, is_point_set, is_point_tuple
+from probeweb.structures import ascending_choices, is_pair, is_point, is_point_set, is_point_tuple
 from probeweb.whole import is_integer, is_number_from
 
 MOST_VALUES = 60
@@ -42,7 +40,7 @@ def least_hall_set(lists, m):
     if len(lists) > MOST_HALL:
         raise Refused("large")
     for size in range(1, len(lists) + 1):
-        for places in combinations(range(len(lists)), size):
+        for places in ascending_choices(len(lists), size):
             if len(reach_of(lists, places)) < size:
                 return places
     return None
@@ -62,11 +60,16 @@ def kept_lists(lists, m):
     return tuple([tuple([v for v in row if matching.tight_against(x, v) is None]) for x, row in enumerate(lists)])
 
 
-def tight_set(lists, m, x, v):
-    """A tight set against `(x, v)`, or None if the value is kept."""
+def check_place(lists, m, x, v):
+    """None for a row of lists, a place, and a value of its list."""
     check_lists(lists, m)
     if not (is_point(x, len(lists)) and is_point(v, m) and v in lists[x]):
         raise Malformed("no place or no value of its list")
+
+
+def tight_set(lists, m, x, v):
+    """A tight set against `(x, v)`, or None if the value is kept."""
+    check_place(lists, m, x, v)
     matching = Matching(lists, m)
     if matching.fill() is not None:
         raise Refused("hall")
@@ -255,11 +258,13 @@ def _strips_further(numbers, n):
     """The numbers of strips with one row more, by the sets of the integers in their columns."""
     further = {}
     for columns, number in numbers.items():
-        for row in permutations(range(n)):
-            if all([columns[k] >> v & 1 == 0 for k, v in enumerate(row)]):
-                # The order of the columns makes no difference to how many continuations there are.
-                key = tuple(sorted([columns[k] | 1 << v for k, v in enumerate(row)]))
-                further[key] = further.get(key, 0) + number
+        rows = [()]
+        for column in columns:
+            rows = [row + (v,) for row in rows for v in range(n) if v not in row and column >> v & 1 == 0]
+        for row in rows:
+            # The order of the columns makes no difference to how many continuations there are.
+            key = tuple(sorted([columns[k] | 1 << v for k, v in enumerate(row)]))
+            further[key] = further.get(key, 0) + number
     return further
 
 

@@ -1,10 +1,9 @@
 """Maps between structures: finding and counting them (chapter 2)."""
 
-from itertools import combinations
-
+from probeweb.counting import listed_maps, unlike_number
 from probeweb.errors import Refused
-from probeweb.solving import MapSearch, count_along, relations_of, take_away, value_masks
-from probeweb.structures import check_alike, check_structure, is_point_tuple, restriction
+from probeweb.solving import MapSearch, count_along, take_away
+from probeweb.structures import ascending_choices, check_alike, check_structure, is_point_tuple, restriction
 from probeweb.whole import raised_to
 
 MOST_SEARCHED = 24
@@ -21,7 +20,7 @@ def is_map(f, A, B):
         return False
     for (_, rows), (_, others) in zip(A[1], B[1]):
         facts = {row: True for row in others}
-        if not all(tuple([f[x] for x in row]) in facts for row in rows):
+        if not all([tuple([f[x] for x in row]) in facts for row in rows]):
             return False
     return True
 
@@ -41,10 +40,7 @@ def least_map(A, B):
 def all_maps(A, B):
     """The ascending tuple of all maps of `A` into `B`."""
     _check_searched(A, B)
-    found = MapSearch(A, B).all_found(MOST_MAPS + 1)
-    if len(found) > MOST_MAPS:
-        raise Refused("many")
-    return tuple(sorted(found))
+    return listed_maps(MapSearch(A, B), MOST_MAPS)
 
 
 def taking_order(A):
@@ -66,39 +62,12 @@ def map_number(A, B):
     return count_along(_checked_order(A, B), A, B)
 
 
-def _last_tables(A, B):
-    """For each point of `A` the tables that tell its values from those of lesser points.
-
-    A table is a pair of these points and a dict from their values to the
-    mask of the values that are left.
-    """
-    tables = [[] for _ in range(A[0])]
-    for scope, relation in relations_of(A, B).items():
-        tables[scope[-1]].append((scope[:-1], value_masks(relation)))
-    return tables
-
-
-def _unlike_continued(tables, n, values, free):
-    """The number of ways to go on from the values with unlike points out of the mask `free`."""
-    x = len(values)
-    if x == len(tables):
-        return 1
-    left = free
-    for points, masks in tables[x]:
-        left = left & masks.get(tuple([values[y] for y in points]), 0)
-    total = 0
-    for v in range(n):
-        if left >> v & 1 == 1:
-            total += _unlike_continued(tables, n, values + (v,), free & ~(1 << v))
-    return total
-
-
 def injection_number(A, B):
     """The number of the maps of `A` into `B` that are one to one."""
     _check_searched(A, B)
     if A[0] > B[0]:
         return 0
-    return _unlike_continued(_last_tables(A, B), B[0], (), (1 << B[0]) - 1)
+    return unlike_number(A, B)
 
 
 def surjection_number(A, B):
@@ -111,7 +80,7 @@ def surjection_number(A, B):
     total = 0
     for size in range(n + 1):
         sign = 1 if (n - size) & 1 == 0 else -1
-        for points in combinations(range(n), size):
+        for points in ascending_choices(n, size):
             total += sign * count_along(order, A, restriction(B, points))
     return total
 
@@ -127,7 +96,7 @@ def core_points(A):
     _check_core(A)
     search = MapSearch(A, A)
     for size in range(A[0]):
-        for points in combinations(range(A[0]), size):
+        for points in ascending_choices(A[0], size):
             if search.is_solvable_within(points):
                 return points
     return tuple(range(A[0]))

@@ -30,11 +30,15 @@ def _is_letter(value, kind):
     return is_pair(value) and is_point(value[0], len(kind)) and is_point(value[1], kind[value[0]])
 
 
+def is_word(value, kind):
+    """True for a word of the binary kind, for every value."""
+    return isinstance(value, tuple) and all([_is_letter(letter, kind) for letter in value])
+
+
 def _check_word(A, word):
     """None for a binary structure and a word of its kind."""
     check_binary(A)
-    kind = kind_of(A)
-    if not (isinstance(word, tuple) and all([_is_letter(letter, kind) for letter in word])):
+    if not is_word(word, kind_of(A)):
         raise Malformed("no word")
 
 
@@ -51,9 +55,14 @@ def _steps(A, letter):
     return steps
 
 
-def _step_tables(A):
+def step_tables(A):
     """The steps of each letter of the kind, in order."""
     return [_steps(A, letter) for letter in kind_letters(A)]
+
+
+def step_masks(A):
+    """For each letter, in order, and each point the mask of the points to which the letter leads."""
+    return [[mask_of(ends) for ends in steps] for steps in step_tables(A)]
 
 
 def letter_rows(A, letter):
@@ -97,11 +106,25 @@ def word_number(A, word):
     _check_word(A, word)
     if len(word) > MOST_LETTERS:
         raise Refused("large")
+    return path_number(A, word)
+
+
+def path_number(A, word):
+    """The number of a word of any length in `A`, without a check."""
     tables = {letter: _steps(A, letter) for letter in kind_letters(A)}
     column = [1] * A[0]
-    for k in reversed(range(len(word))):
-        column = _led_back(tables[word[k]], column)
+    for letter in reversed(word):
+        column = _led_back(tables[letter], column)
     return sum(column)
+
+
+def has_path(A, word):
+    """True if the number of a word of any length in `A` is not 0, without a check."""
+    tables = {letter: masks for letter, masks in zip(kind_letters(A), step_masks(A))}
+    met = (1 << A[0]) - 1
+    for letter in word:
+        met = gone_through(met, tables[letter])
+    return met != 0
 
 
 class WithinWalk:
@@ -114,8 +137,8 @@ class WithinWalk:
 
     def __init__(self, A, B):
         self.letters = kind_letters(A)
-        self.source = [[mask_of(ends) for ends in steps] for steps in _step_tables(A)]
-        self.target = [[mask_of(ends) for ends in steps] for steps in _step_tables(B)]
+        self.source = step_masks(A)
+        self.target = step_masks(B)
         self.images = {}
         every = (1 << B[0]) - 1
         self.seen = {every: (1 << A[0]) - 1}
@@ -162,11 +185,16 @@ class WithinWalk:
         return tuple(letters[::-1])
 
 
-def word_within(A, B):
-    """The least word that is in `A` and not in `B`, or None."""
+def check_within(A, B):
+    """The errors of the walk."""
     check_both_binary(A, B)
     if A[0] > MOST_WITHIN_SOURCE or B[0] > MOST_WITHIN_TARGET:
         raise Refused("large")
+
+
+def word_within(A, B):
+    """The least word that is in `A` and not in `B`, or None."""
+    check_within(A, B)
     walk = WithinWalk(A, B)
     end = walk.end()
     return None if end < 0 else walk.word_to(end)
@@ -178,7 +206,7 @@ def _kept_words(A, B):
     A list of triples of a word and its columns in both.
     """
     letters = kind_letters(A)
-    source, target = _step_tables(A), _step_tables(B)
+    source, target = step_tables(A), step_tables(B)
     space = LineSpace()
     row = [((), [1] * A[0], [1] * B[0])]
     kept = []
@@ -223,39 +251,47 @@ def path_matrix(A, B):
     return fraction_product(turned, fraction_product(inverse, Q))
 
 
-def _check_single(A):
+def check_single(A):
     """None for a structure of the kind (2,)."""
     if kind_of(A) != (2,):
         raise Malformed("not one table of the arity 2")
 
 
-def _traces(A, most):
-    """The traces of the first powers of the matrix of `A`."""
+def traces_of(A, most):
+    """The traces of the first powers of the matrix of `A`, without a check."""
     steps = _steps(A, (0, 0))
-    columns = [[1 if x == y else 0 for x in range(A[0])] for y in range(A[0])]
+    points = range(A[0])
+    # Each row of a power is one integer, with a slot for each item that is wide enough for all powers.
+    width = A[0].bit_length() * most + 1
+    rows = [1 << x * width for x in points]
     traces = []
     for _ in range(most):
-        columns = [_led_back(steps, column) for column in columns]
-        traces.append(sum([columns[x][x] for x in range(A[0])]))
+        rows = [sum([rows[y] for y in ends]) for ends in steps]
+        traces.append(sum([rows[x] >> x * width & (1 << width) - 1 for x in points]))
     return traces
 
 
 def closed_row(A, most):
     """The numbers of maps of the cycles of 1 to `most` points into `A`."""
-    _check_single(A)
+    check_single(A)
     if not is_number_from(most, 0):
         raise Malformed("no number of cycles")
     if most > MOST_CLOSED or A[0] > MOST_CLOSED_POINTS:
         raise Refused("large")
-    return tuple(_traces(A, most))
+    return tuple(traces_of(A, most))
 
 
 def spectrum_row(A):
     """The coefficients of the characteristic polynomial, the highest power first."""
-    _check_single(A)
+    check_single(A)
+    check_spectrum(A)
+    return told_by_traces(traces_of(A, A[0]))
+
+
+def check_spectrum(A):
+    """Refuses structures with too many points for a spectrum."""
     if A[0] > MOST_SPECTRUM:
         raise Refused("large")
-    return told_by_traces(_traces(A, A[0]))
 
 
 def told_by_traces(traces):
@@ -272,8 +308,8 @@ def _has_closed_walk(masks):
 
 def cycle_within(A, B):
     """The least `k` such that the cycle of `k` points maps into `A` and not into `B`, or None."""
-    _check_single(A)
-    _check_single(B)
+    check_single(A)
+    check_single(B)
     if A[0] > MOST_CYCLE_POINTS or B[0] > MOST_CYCLE_POINTS:
         raise Refused("large")
     first = [[mask_of(ends) for ends in _steps(told, (0, 0))] for told in (A, B)]
@@ -336,7 +372,7 @@ def _led_along(steps, numbers, r):
 
 def grid_number(A, r, k):
     """The number of the maps of the grid into `A`."""
-    _check_single(A)
+    check_single(A)
     _check_sides(r, k)
     if r > MOST_SIDE or k > MOST_SIDE or raised_to(A[0], r) > MOST_COLUMNS:
         raise Refused("large")

@@ -1,5 +1,6 @@
 """Operations, the tables that they keep, and definable tables (chapter 10)."""
 
+from probeweb.counting import listed_maps
 from probeweb.errors import Malformed, Refused
 from probeweb.instances import SemilatticeSearch, all_rows, index_of, special_instance, with_turned_rows
 from probeweb.solving import MapSearch, linked_points
@@ -162,10 +163,7 @@ def put_together(f, n, k, inner):
 def all_operations(B, k):
     """The ascending tuple of the operations of `k` arguments of `B`."""
     _check_power(B, k)
-    found = MapSearch(power_structure(B, k), B).all_found(MOST_OPERATIONS + 1)
-    if len(found) > MOST_OPERATIONS:
-        raise Refused("many")
-    return tuple(sorted(found))
+    return listed_maps(MapSearch(power_structure(B, k), B), MOST_OPERATIONS)
 
 
 def operation_number(B, k):

@@ -20,7 +20,8 @@ def _check_sizes(A, B):
         raise Refused("large")
 
 
-def _check_pair(A, B):
+def check_paired(A, B):
+    """The errors of functions of two structures of this chapter."""
     check_both_binary(A, B)
     _check_sizes(A, B)
 
@@ -84,7 +85,7 @@ def pair_round(A, B, k):
 
 def joint_pairs(A, B):
     """The pair of the tables of stable colours."""
-    _check_pair(A, B)
+    check_paired(A, B)
     one, two = _first_tables(A, B)
     return refined_tables(one, two, ALL_ROUNDS)
 
@@ -129,7 +130,7 @@ def _is_table(value, n):
 
 def is_pair_colouring(A, B, value):
     """True if the value tells colours with which `A` and `B` have the same pairs, for every value."""
-    _check_pair(A, B)
+    check_paired(A, B)
     if not (is_pair(value) and _is_table(value[0], A[0]) and _is_table(value[1], B[0])):
         return False
     if all_items(value[0]) != all_items(value[1]):

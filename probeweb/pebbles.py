@@ -19,7 +19,8 @@ def _check_sizes(A, B):
         raise Refused("large")
 
 
-def _check_pair(A, B):
+def check_strategy_pair(A, B):
+    """The errors of functions of two structures of this chapter."""
     check_both_binary(A, B)
     _check_sizes(A, B)
 
@@ -29,7 +30,7 @@ def _facts_on(A, a, c):
     found = []
     for t, (_, rows) in enumerate(A[1]):
         for row in rows:
-            if all(x in (a, c) for x in row):
+            if all([x in (a, c) for x in row]):
                 found.append((t, tuple([0 if x == a else 1 for x in row])))
     return found
 
@@ -40,7 +41,7 @@ def _tables_of(B):
 
 def _keeps(told, facts, pair):
     """True if the pair takes each of the facts to a fact."""
-    return all(tuple([pair[k] for k in places]) in told[t] for t, places in facts)
+    return all([tuple([pair[k] for k in places]) in told[t] for t, places in facts])
 
 
 def _keeping_masks(A, B, a, c):
@@ -105,15 +106,15 @@ def _pairs_of(told):
 
 def greatest_strategy(A, B):
     """The greatest strategy."""
-    _check_pair(A, B)
+    check_strategy_pair(A, B)
     return _written(_play(A, B, MOST_ROUNDS)[0])
 
 
 def strategy_stands(A, B):
     """True if no set of the greatest strategy is empty."""
-    _check_pair(A, B)
+    check_strategy_pair(A, B)
     masks = _play(A, B, MOST_ROUNDS)[0]
-    return all(any(told) for line in masks for told in line)
+    return all([any(told) for line in masks for told in line])
 
 
 def strategy_round(A, B, k):
@@ -127,7 +128,7 @@ def strategy_round(A, B, k):
 
 def _is_pair_set(value, B):
     """True for an ascending tuple of unlike pairs of points of `B`."""
-    return isinstance(value, tuple) and all(is_point_tuple(pair, B[0], 2) for pair in value) and is_ascending(value)
+    return isinstance(value, tuple) and all([is_point_tuple(pair, B[0], 2) for pair in value]) and is_ascending(value)
 
 
 def _is_square(value, A, B):
@@ -135,7 +136,7 @@ def _is_square(value, A, B):
     if not (isinstance(value, tuple) and len(value) == A[0]):
         return False
     for line in value:
-        if not (isinstance(line, tuple) and len(line) == A[0] and all(_is_pair_set(told, B) for told in line)):
+        if not (isinstance(line, tuple) and len(line) == A[0] and all([_is_pair_set(told, B) for told in line])):
             return False
     return True
 
@@ -148,12 +149,12 @@ def _masks_of(value, n):
 def _is_turned(masks, a, c):
     """True if the set of `(a, c)` is that of `(c, a)` turned."""
     n = len(masks[a][c])
-    return all(masks[a][c][b] >> d & 1 == masks[c][a][d] >> b & 1 for b in range(n) for d in range(n))
+    return all([masks[a][c][b] >> d & 1 == masks[c][a][d] >> b & 1 for b in range(n) for d in range(n)])
 
 
 def is_strategy(A, B, value):
     """True if the value is a strategy for `A` and `B`, for every value."""
-    _check_pair(A, B)
+    check_strategy_pair(A, B)
     if not _is_square(value, A, B):
         return False
     masks = _masks_of(value, B[0])
@@ -163,7 +164,7 @@ def is_strategy(A, B, value):
         for c in points:
             if not _is_turned(masks, a, c):
                 return False
-            if any(masks[a][c][b] & ~first[a][c][b] != 0 for b in range(B[0])):
+            if any([masks[a][c][b] & ~first[a][c][b] != 0 for b in range(B[0])]):
                 return False
     return not any([_lost_at(masks, a, b, c) for a in points for b in range(B[0]) for c in points])
 
@@ -213,7 +214,7 @@ def _first_empty(masks, steps):
 
 def pebble_probe(A, B):
     """A strand that maps into `A` and not into `B`, or None if the strategy stands."""
-    _check_pair(A, B)
+    check_strategy_pair(A, B)
     masks, rounds = _play(A, B, MOST_ROUNDS)
     steps = _steps_of(A, rounds)
     root = _first_empty(masks, steps)

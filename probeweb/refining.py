@@ -18,7 +18,8 @@ def _check_sizes(A, B):
         raise Refused("large")
 
 
-def _check_pair(A, B):
+def check_refined_pair(A, B):
+    """The errors of functions of two structures of this chapter."""
     check_alike(A, B)
     _check_sizes(A, B)
 
@@ -28,7 +29,7 @@ def _without_points(A):
     return 0, tuple([(arity, ()) for arity in kind_of(A)])
 
 
-def _signatures(A, colours):
+def signatures_of(A, colours):
     """The signatures of the points of `A` under a colouring."""
     triples = [[] for _ in range(A[0])]
     for t, (arity, rows) in enumerate(A[1]):
@@ -49,7 +50,7 @@ def _numbered(signatures):
 
 
 def _next_round(A, B, one, two):
-    colours = _numbered(_signatures(A, one) + _signatures(B, two))
+    colours = _numbered(signatures_of(A, one) + signatures_of(B, two))
     return tuple(colours[:A[0]]), tuple(colours[A[0]:])
 
 
@@ -77,12 +78,13 @@ def colour_round(A, B, k):
 
 def refined_colours(A, B):
     """The pair of the rows of stable colours, for any number of tables and without a check."""
-    return _refined(A, B, MOST_ROUNDS)
+    # Each round but the last one parts a colour.
+    return _refined(A, B, A[0] + B[0])
 
 
 def joint_colouring(A, B):
     """The pair of the rows of stable colours."""
-    _check_pair(A, B)
+    check_refined_pair(A, B)
     return refined_colours(A, B)
 
 
@@ -102,7 +104,7 @@ def class_numbers(A):
     """The tuples of a class, a table, a place, the classes at the others, and the number of such facts."""
     colours = stable_colouring(A)
     found = {}
-    for colour, triples in _signatures(A, colours):
+    for colour, triples in signatures_of(A, colours):
         counts = {}
         for triple in triples:
             counts[triple] = counts.get(triple, 0) + 1
@@ -229,7 +231,7 @@ def _tell_apart(rows, A):
 
 def tree_apart(A, B):
     """A tree and a prime modulo which its numbers of maps into `A` and `B` are unlike, or None."""
-    _check_pair(A, B)
+    check_refined_pair(A, B)
     if same_colours(A, B):
         return None
     rows = RowSpace(A, B)
@@ -255,14 +257,12 @@ def even_matrix(A, B):
     return tuple([tuple([ratio(1, counts[c]) if c == d else (0, 1) for d in two]) for c in one])
 
 
-def _is_square(value, n):
-    """True for a tuple of `n` tuples of `n` fractions from 0 to 1."""
+def is_ratio_matrix(value, n, m):
+    """True for a tuple of `n` tuples of `m` fractions."""
     if not (isinstance(value, tuple) and len(value) == n):
         return False
     for row in value:
-        if not (isinstance(row, tuple) and len(row) == n and all(is_ratio(a) for a in row)):
-            return False
-        if not all(0 <= a[0] <= a[1] for a in row):
+        if not (isinstance(row, tuple) and len(row) == m and all([is_ratio(a) for a in row])):
             return False
     return True
 
@@ -276,23 +276,21 @@ def _whole_items(value):
     return [[told[0] * (common // told[1]) for told in line] for line in value], common
 
 
-def _keeps_points(rows, others, items):
+def _keeps_points(rows, others, items, m):
     """True if all is 0 between points of which one alone is in a table of the arity 1."""
     one = {row[0]: True for row in rows}
     two = {row[0]: True for row in others}
-    n = len(items)
-    return all((x in one) == (y in two) or items[x][y] == 0 for x in range(n) for y in range(n))
+    return all([(x in one) == (y in two) or line[y] == 0 for x, line in enumerate(items) for y in range(m)])
 
 
-def _keeps_facts(rows, others, items):
+def _keeps_facts(rows, others, items, m):
     """True if the matrix of the rows times the items is the items times the matrix of the others."""
-    n = len(items)
-    less = [[0] * n for _ in range(n)]
+    less = [[0] * m for _ in items]
     for x, z in rows:
         less[x] = [a + b for a, b in zip(less[x], items[z])]
     for z, y in others:
-        for x in range(n):
-            less[x][y] -= items[x][z]
+        for x, told in enumerate(items):
+            less[x][y] -= told[z]
     return not any([any(line) for line in less])
 
 
@@ -300,19 +298,28 @@ def _turned(rows):
     return [(y, x) for x, y in rows]
 
 
-def is_even_matrix(A, B, value):
-    """True if the value is an even matrix for `A` and `B`, for every value."""
-    _check_binary_pair(A, B)
-    if A[0] != B[0] or not _is_square(value, A[0]):
-        return False
+def joins_letters(A, B, value):
+    """True if the rows and columns of a matrix of fractions have the sum 1, and it goes with all letters.
+
+    That is, for each letter (point 8.2) its matrix in `A` times this one is
+    this one times its matrix in `B`. The structures are binary.
+    """
     items, common = _whole_items(value)
-    columns = [[row[y] for row in items] for y in range(A[0])]
+    columns = [[row[y] for row in items] for y in range(B[0])]
     if any([sum(line) != common for line in items + columns]):
         return False
     for (arity, rows), (_, others) in zip(A[1], B[1]):
-        if arity == 1 and not _keeps_points(rows, others, items):
+        if arity == 1 and not _keeps_points(rows, others, items, B[0]):
             return False
-        if arity == 2 and not (_keeps_facts(rows, others, items)
-                               and _keeps_facts(_turned(rows), _turned(others), items)):
+        if arity == 2 and not (_keeps_facts(rows, others, items, B[0])
+                               and _keeps_facts(_turned(rows), _turned(others), items, B[0])):
             return False
     return True
+
+
+def is_even_matrix(A, B, value):
+    """True if the value is an even matrix for `A` and `B`, for every value."""
+    _check_binary_pair(A, B)
+    if A[0] != B[0] or not is_ratio_matrix(value, A[0], A[0]):
+        return False
+    return all([0 <= a[0] <= a[1] for row in value for a in row]) and joins_letters(A, B, value)

@@ -95,11 +95,16 @@ def _foldings(n):
     return [row for row, _ in found]
 
 
-def folding_apart(A, B):
-    """The first folding of `A`, or else of `B`, with unlike numbers of maps into both, or None."""
+def check_folded(A, B):
+    """The errors of the search for a folding."""
     check_alike(A, B)
     if A[0] > MOST_APART or B[0] > MOST_APART:
         raise Refused("large")
+
+
+def folding_apart(A, B):
+    """The first folding of `A`, or else of `B`, with unlike numbers of maps into both, or None."""
+    check_folded(A, B)
     for C in (A, B):
         for colouring in _foldings(C[0]):
             F = folded_by(C, colouring)
@@ -166,6 +171,16 @@ def class_number_both(A, B):
     return total // (len(one) * len(two))
 
 
+def _with_fixed(A, points):
+    """`A` with one table more for each of the points, that holds it alone."""
+    return A[0], A[1] + tuple([(1, ((x,),)) for x in points])
+
+
+def colours_with(A, B, fixed):
+    """The joint colours with a table more for each fixed place, without a check."""
+    return refined_colours(_with_fixed(A, fixed[0]), _with_fixed(B, fixed[1]))
+
+
 class PartingSearch:
     """The rows of a parting of `A` and `B`, and whether they are the same after all."""
 
@@ -179,10 +194,7 @@ class PartingSearch:
     def _colours(self, fixed):
         """The joint colours with a table more for each fixed place."""
         if fixed not in self.told:
-            made = []
-            for told, points in zip((self.one, self.two), fixed):
-                made.append((told[0], told[1] + tuple([(1, ((x,),)) for x in points])))
-            self.told[fixed] = refined_colours(made[0], made[1])
+            self.told[fixed] = colours_with(self.one, self.two, fixed)
         return self.told[fixed]
 
     def _is_parted(self, fixed):
@@ -232,10 +244,15 @@ def _longer(fixed, x, y):
     return fixed[0] + (x,), fixed[1] + (y,)
 
 
-def case_parting(A, B):
-    """A parting of `A` and `B` that ends with the question whether they are the same, or None if they are."""
+def check_parted(A, B):
+    """The errors of the search for a parting."""
     check_alike(A, B)
     if A[0] > MOST_PARTED or B[0] > MOST_PARTED:
         raise Refused("large")
+
+
+def case_parting(A, B):
+    """A parting of `A` and `B` that ends with the question whether they are the same, or None if they are."""
+    check_parted(A, B)
     search = PartingSearch(A, B)
     return tuple(search.rows) if search.answers_no(((), ())) else None

@@ -14,7 +14,7 @@ def _fitting_values(rows, pattern, size):
         values = [0] * size
         for place, k in enumerate(pattern):
             values[k] = row[place]
-        if all(row[place] == values[pattern[place]] for place in range(len(pattern))):
+        if all([row[place] == values[pattern[place]] for place in range(len(pattern))]):
             found[tuple(values)] = 1
     return found
 
@@ -267,7 +267,7 @@ class MapSearch:
             f = list(range(self.many))
             f[v] = w
             f[w] = v
-            self.told_swaps[(v, w)] = all(image_rows(rows, f) == rows for rows in self.tables)
+            self.told_swaps[(v, w)] = all([image_rows(rows, f) == rows for rows in self.tables])
         return self.told_swaps[(v, w)]
 
     def swap_classes(self):
@@ -290,7 +290,7 @@ class MapSearch:
         """True if `v` stands wherever a value stands that has failed, and they can be exchanged."""
         near = {y: True for x in piece for y in self.joined[x] + (x,)}
         for w in failed:
-            if self.can_swap(w, v) and all(lists[y] >> v & 1 == lists[y] >> w & 1 for y in near):
+            if self.can_swap(w, v) and all([lists[y] >> v & 1 == lists[y] >> w & 1 for y in near]):
                 return True
         return False
 

@@ -21,7 +21,7 @@ def is_pair(value):
 
 def is_point_tuple(value, n, size):
     """True for a tuple of as many points as told."""
-    return isinstance(value, tuple) and len(value) == size and all(is_point(x, n) for x in value)
+    return isinstance(value, tuple) and len(value) == size and all([is_point(x, n) for x in value])
 
 
 def mask_of(points):
@@ -29,14 +29,22 @@ def mask_of(points):
     return sum([1 << x for x in points])
 
 
+def ascending_choices(n, size):
+    """The list of all ascending tuples of so many unlike points, in order."""
+    rows = [()]
+    for _ in range(size):
+        rows = [row + (x,) for row in rows for x in range(row[-1] + 1 if row else 0, n)]
+    return rows
+
+
 def is_ascending(rows):
     """True if each item is less than the next one."""
-    return all(rows[k] < rows[k + 1] for k in range(len(rows) - 1))
+    return not [row for row, further in zip(rows, rows[1:]) if row >= further]
 
 
 def is_point_set(value, n):
     """True for an ascending tuple of unlike points."""
-    return isinstance(value, tuple) and all(is_point(x, n) for x in value) and is_ascending(value)
+    return isinstance(value, tuple) and all([is_point(x, n) for x in value]) and is_ascending(value)
 
 
 def is_arity(value):
@@ -46,7 +54,7 @@ def is_arity(value):
 
 def is_kind(value):
     """True for a tuple of the arities of a structure."""
-    return isinstance(value, tuple) and len(value) <= MOST_TABLES and all(is_arity(arity) for arity in value)
+    return isinstance(value, tuple) and len(value) <= MOST_TABLES and all([is_arity(arity) for arity in value])
 
 
 def _is_table(value, n):
@@ -55,7 +63,10 @@ def _is_table(value, n):
     arity, rows = value
     if not (is_arity(arity) and isinstance(rows, tuple) and len(rows) <= MOST_ROWS):
         return False
-    return all(is_point_tuple(row, n, arity) for row in rows) and is_ascending(rows)
+    # Each structure that is passed comes through here: calls for each row or point would take most of the time.
+    if [row for row in rows if not isinstance(row, tuple) or len(row) != arity]:
+        return False
+    return not [x for row in rows for x in row if type(x) != int or x < 0 or x >= n] and is_ascending(rows)
 
 
 def is_structure(value):
@@ -67,12 +78,12 @@ def is_structure(value):
         return False
     if not (isinstance(tables, tuple) and len(tables) <= MOST_TABLES):
         return False
-    return all(_is_table(table, n) for table in tables)
+    return all([_is_table(table, n) for table in tables])
 
 
 def is_binary(value):
     """True for a structure without a table of the arity 3, for every value."""
-    return is_structure(value) and all(arity <= 2 for arity, _ in value[1])
+    return is_structure(value) and all([arity <= 2 for arity, _ in value[1]])
 
 
 def is_graph(value):
@@ -81,7 +92,7 @@ def is_graph(value):
         return False
     rows = value[1][0][1]
     facts = {row: True for row in rows}
-    return all(x != y and (y, x) in facts for x, y in rows)
+    return all([x != y and (y, x) in facts for x, y in rows])
 
 
 def check_structure(A):
@@ -141,7 +152,7 @@ def graph_with(n, edges):
     """The graph with these points and edges."""
     if not (is_integer(n) and 0 <= n <= MOST_POINTS):
         raise Malformed("no number of points")
-    if not (isinstance(edges, (list, tuple)) and all(_is_edge(edge, n) for edge in edges)):
+    if not (isinstance(edges, (list, tuple)) and all([_is_edge(edge, n) for edge in edges])):
         raise Malformed("no edges")
     facts = {}
     for x, y in edges:
@@ -177,12 +188,16 @@ def joined_points(A):
 
 def points_joined(A):
     """As `joined_points`, for any number of tables and without a check."""
-    near = [{} for _ in range(A[0])]
+    points = range(A[0])
+    masks = [0] * A[0]
     for _, rows in A[1]:
         for row in rows:
+            met = 0
             for x in row:
-                near[x].update({y: True for y in row if y != x})
-    return tuple([tuple(sorted(points)) for points in near])
+                met = met | 1 << x
+            for x in row:
+                masks[x] = masks[x] | met
+    return tuple([tuple([y for y in points if y != x and masks[x] >> y & 1 == 1]) for x in points])
 
 
 def linked_parts(points, joined):
@@ -260,7 +275,7 @@ def power_structure(A, k):
 
 def first_numbering(colouring):
     """The colouring with its classes numbered in the order of their least points."""
-    if not (isinstance(colouring, tuple) and all(is_number_from(colour, 0) for colour in colouring)):
+    if not (isinstance(colouring, tuple) and all([is_number_from(colour, 0) for colour in colouring])):
         raise Malformed("no colouring")
     numbers = {}
     for colour in colouring:
@@ -288,7 +303,7 @@ def restriction(A, points):
     places = {x: k for k, x in enumerate(points)}
     tables = []
     for arity, rows in A[1]:
-        kept = [row for row in rows if all(x in places for x in row)]
+        kept = [row for row in rows if all([x in places for x in row])]
         tables.append((arity, image_rows(kept, places)))
     return len(points), tuple(tables)
 

@@ -5,7 +5,7 @@ point `x` is in the set. `near` has for each point the mask of the points
 that are joined with it.
 """
 
-from itertools import combinations
+from probeweb.structures import ascending_choices
 
 
 def _lowest(mask):
@@ -97,7 +97,7 @@ class MemberSearch:
     def __init__(self, near, width):
         numbers = {}
         choices = {}
-        for points in combinations(range(len(near)), width):
+        for points in ascending_choices(len(near), width):
             taken = sum([1 << x for x in points])
             mask = 0
             for part in _parts_without(near, taken):

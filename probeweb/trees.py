@@ -24,7 +24,7 @@ def is_tree(value, kind):
     if not (isinstance(value, tuple) and len(value) > 0):
         return False
     for i, row in enumerate(value):
-        if not (isinstance(row, tuple) and all(_is_branch(branch, kind, i) for branch in row)):
+        if not (isinstance(row, tuple) and all([_is_branch(branch, kind, i) for branch in row])):
             return False
     return True
 

@@ -10,7 +10,7 @@ CHUNK = 2000
 
 def is_integer(value):
     """True for an integer that is not True or False."""
-    return isinstance(value, int) and not isinstance(value, bool)
+    return type(value) == int
 
 
 def is_number_from(value, least):
@@ -84,6 +84,14 @@ def rest_of_power(a, e, modulus):
         e = e >> 1
         square = square * square % modulus
     return power
+
+
+def falling_number(n, k):
+    """The number of ways to choose `k` unlike ones of `n` things, in order."""
+    number = 1
+    for j in range(k):
+        number = number * (n - j)
+    return number
 
 
 def greatest_common(a, b):

@@ -6,8 +6,9 @@ import unittest
 import brute
 from brute import WRONG, deep, directed_path, full_graph, ring
 from probeweb import (
-    bags, colourings, global_rows, layers, linear, matrices, operations, pairing, probepapers, sameness, templates)
-from probeweb.errors import Fault
+    bagjudges, bagpapers, bags, colourings, global_rows, layers, linear, matrices, operations, pairing, probejudges,
+    probepapers, sameness, searchjudges, searchpapers, templates)
+from probeweb.errors import Fault, Malformed
 
 EDGE, PATH, ORDER = full_graph(2), directed_path(3), (2, ((2, ((0, 0), (0, 1), (1, 1))),))
 ONE, HALF = (1, 1), (1, 2)
@@ -63,7 +64,49 @@ CALLS = (
     (colourings.flat_list, ring(3)), (colourings.flow_row, ring(3)), (colourings.flow_number, ring(3), 3),
     (colourings.tutte_rows, ring(3)), (colourings.forest_number, ring(3)),
     (probepapers.lists_paper, EDGE, EDGE), (probepapers.strategy_paper, EDGE, EDGE), (probepapers.colours_paper, EDGE, EDGE),
-    (probepapers.pairs_paper, EDGE, EDGE), (probepapers.even_paper, EDGE, EDGE))
+    (probepapers.pairs_paper, EDGE, EDGE), (probepapers.even_paper, EDGE, EDGE),
+    (searchpapers.search_paper, EDGE, EDGE), (searchpapers.cutting_paper, EDGE, EDGE),
+    (searchpapers.words_paper, EDGE, EDGE), (searchpapers.paths_paper, EDGE, EDGE),
+    (searchpapers.cycles_paper, EDGE, EDGE), (searchpapers.sameness_paper, EDGE, EDGE),
+    (searchpapers.numbers_paper, EDGE, EDGE), (searchpapers.choice_paper, LISTS, 3),
+    (searchpapers.kept_paper, LISTS, 3, 2, 0), (searchpapers.bounds_paper, LISTS, 3, ((0, 1), (0, 2), (1, 1))),
+    (bagpapers.core_paper, PATH), (bagpapers.width_paper, PATH), (bagpapers.within_paper, PATH, 0),
+    (bagpapers.number_paper, ring(4), EDGE, SQUARE_TREE), (bagpapers.layers_paper, PATH, EDGE, (0, 1, 2)))
+# Judges of papers, with what stands before the paper, and papers that they take.
+JUDGES = (
+    (probejudges.takes_lists, (EDGE, EDGE), probepapers.lists_paper(EDGE, EDGE)),
+    (probejudges.takes_lists, (PATH, directed_path(2)), probepapers.lists_paper(PATH, directed_path(2))),
+    (probejudges.takes_strategy, (EDGE, EDGE), probepapers.strategy_paper(EDGE, EDGE)),
+    (probejudges.takes_strategy, (PATH, directed_path(2)), probepapers.strategy_paper(PATH, directed_path(2))),
+    (probejudges.takes_colours, (EDGE, EDGE), ("classes", (0, 0), (0, 0))),
+    (probejudges.takes_colours, (EDGE, EDGE), ("even", ((HALF, HALF), (HALF, HALF)))),
+    (probejudges.takes_colours, (PATH, EDGE), ("trees", ((), ((0, 0, (0,), 1),), ((0, 0, (1,), 1),)), 1000003)),
+    (probejudges.takes_pairs, (EDGE, EDGE), ("pairs", COLOURS)),
+    (probejudges.takes_pairs, (PATH, EDGE), ("strands", (("fact", 0, (0, 1)), ("through", 0, 0)), 5)),
+    (searchjudges.takes_search, (EDGE, EDGE), ("map", (0, 1))),
+    (searchjudges.takes_search, (PATH, directed_path(2)), searchpapers.search_paper(PATH, directed_path(2))),
+    (searchjudges.takes_search, (PATH, directed_path(2)), searchpapers.cutting_paper(PATH, directed_path(2))),
+    (searchjudges.takes_words, (EDGE, EDGE), searchpapers.words_paper(EDGE, EDGE)),
+    (searchjudges.takes_words, (PATH, directed_path(2)), ("word", ((0, 0), (0, 0)))),
+    (searchjudges.takes_paths, (EDGE, EDGE), searchpapers.paths_paper(EDGE, EDGE)),
+    (searchjudges.takes_paths, (PATH, EDGE), ("word", ((0, 0), (0, 0)))),
+    (searchjudges.takes_cycles, (EDGE, EDGE), ("alike", (1, 0, -1))),
+    (searchjudges.takes_cycles, (PATH, EDGE), ("cycle", 2)),
+    (searchjudges.takes_sameness, (EDGE, EDGE), ("turned", (1, 0))),
+    (searchjudges.takes_sameness, (ring(6), brute.graph(6, [(0, 1), (1, 2), (0, 2), (3, 4), (4, 5), (3, 5)])),
+     searchpapers.sameness_paper(ring(6), brute.graph(6, [(0, 1), (1, 2), (0, 2), (3, 4), (4, 5), (3, 5)]))),
+    (searchjudges.takes_sameness, (PATH, EDGE), ("numbers", (2, ((2, ((0, 1), (1, 0))),)))),
+    (searchjudges.takes_choice, (LISTS, 3), ("choice", (1, 0, 2))),
+    (searchjudges.takes_choice, (((0,), (0,)), 3), ("hall", (0, 1))),
+    (searchjudges.takes_kept, (LISTS, 3, 2, 0), ("tight", (0, 1))),
+    (searchjudges.takes_bounds, (LISTS, 3, ((0, 1), (0, 2), (1, 1))), ("choice", (0, 1, 2))),
+    (searchjudges.takes_bounds, (LISTS, 3, ((0, 1), (0, 2), (2, 2))), ("low", (2,))),
+    (bagjudges.takes_core, (ring(4),), bagpapers.core_paper(ring(4))),
+    (bagjudges.takes_width, (ring(4),), bagpapers.width_paper(ring(4))),
+    (bagjudges.takes_within, (ring(4), 1), bagpapers.within_paper(ring(4), 1)),
+    (bagjudges.takes_within, (ring(4), 2), bagpapers.within_paper(ring(4), 2)),
+    (bagjudges.takes_number, (ring(4), EDGE), bagpapers.number_paper(ring(4), EDGE, SQUARE_TREE)),
+    (bagjudges.takes_layers, (EDGE, EDGE, (0, 1)), ("layers", D)))
 ITEMS = (None, True, False, "a", "", -1, 0, 1, 2, 7, (), [], {}, (0,), ("a",), 10 ** 60, -10 ** 60, deep(60), ((0, 0),))
 
 
@@ -78,6 +121,14 @@ def changed(value):
         for k, item in enumerate(value):
             for other in changed(item):
                 yield type(value)(list(value[:k]) + [other] + list(value[k + 1:]))
+
+
+def nested(value):
+    """The value in deep tuples and lists."""
+    for made in (value, [value]):
+        for _ in range(55):
+            made = (made,)
+        yield made
 
 
 class Values(unittest.TestCase):
@@ -113,6 +164,25 @@ class Values(unittest.TestCase):
             self.assertIn(global_rows.is_strip(other, 2), (True, False))
             self.assertIn(global_rows.is_strip((), other), (True, False))
         self.assertTrue(brute.plain_structure(EDGE))
+
+    def test_judges(self):
+        for takes, told, paper in JUDGES:
+            self.assertIs(takes(*told, paper), True, takes)
+            word = paper[0]
+            others = itertools.chain(WRONG, ITEMS, changed(paper), nested(paper), nested((word, 0)),
+                                     [(word, value) for value in WRONG + ITEMS], [(word, value, value) for value in WRONG],
+                                     [(word, value, value, value) for value in WRONG], [(word, value) for value in nested(0)])
+            for other in others:
+                self.assertIn(takes(*told, other), (True, False))
+            # What stands before the paper is looked at first, whatever the paper is.
+            for other in (None, paper):
+                for k in range(len(told)):
+                    for value in (None, True, "a", (), [], 10 ** 60, deep(60)):
+                        # A row of no lists is one, and each integer is a bound of a width.
+                        if takes == searchjudges.takes_choice and value == () or takes == bagjudges.takes_within and k == 1:
+                            continue
+                        with self.assertRaises(Malformed):
+                            takes(*told[:k], value, *told[k + 1:], other)
 
 
 if __name__ == "__main__":

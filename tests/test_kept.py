@@ -37,7 +37,7 @@ def is_walked(node, above, word):
     """True if the node is walked through on the spot."""
     if is_iterated(node, above) or called(above) in SPOT and node in above.args:
         return True
-    if called(above) in ("combinations", "permutations") or word in ("range", "keys") and is_tested(node, above):
+    if word in ("range", "keys") and is_tested(node, above):
         return True
     if word == "range":
         return called(above) in ("len", "reversed")

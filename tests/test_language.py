@@ -50,6 +50,13 @@ LISTED = {
     "colourings": ("colour_row", "colour_number", "acyclic_number", "rooted_number", "stable_row", "unbroken_row",
                    "flat_list", "flow_row", "flow_number", "tutte_rows", "forest_number"),
     "probepapers": ("lists_paper", "strategy_paper", "colours_paper", "pairs_paper", "even_paper"),
+    "probejudges": ("takes_lists", "takes_strategy", "takes_colours", "takes_pairs"),
+    "searchpapers": ("search_paper", "cutting_paper", "words_paper", "paths_paper", "cycles_paper", "sameness_paper",
+                     "numbers_paper", "choice_paper", "kept_paper", "bounds_paper"),
+    "searchjudges": ("takes_search", "takes_words", "takes_paths", "takes_cycles", "takes_sameness", "takes_choice",
+                     "takes_kept", "takes_bounds"),
+    "bagpapers": ("core_paper", "width_paper", "within_paper", "number_paper", "layers_paper"),
+    "bagjudges": ("takes_core", "takes_width", "takes_within", "takes_number", "takes_layers"),
 }
 ARGUMENTS = {
     "graph_with": "n edges", "facts_at": "A x", "power_structure": "A k", "folded_by": "A colouring",
@@ -83,10 +90,17 @@ ARGUMENTS = {
     "is_strip": "value n", "strip_lists": "strip n", "strip_number": "k n", "colour_row": "G", "colour_number": "G q",
     "acyclic_number": "G", "rooted_number": "G", "stable_row": "G", "unbroken_row": "G", "flat_list": "G",
     "flow_row": "G", "flow_number": "G q", "tutte_rows": "G", "forest_number": "G",
+    "takes_lists": "A B paper", "takes_strategy": "A B paper", "takes_colours": "A B paper", "takes_pairs": "A B paper",
+    "choice_paper": "lists m", "kept_paper": "lists m x v", "bounds_paper": "lists m bounds",
+    "takes_search": "A B paper", "takes_words": "A B paper", "takes_paths": "A B paper", "takes_cycles": "A B paper",
+    "takes_sameness": "A B paper", "takes_choice": "lists m paper", "takes_kept": "lists m x v paper",
+    "takes_bounds": "lists m bounds paper", "core_paper": "A", "width_paper": "A", "within_paper": "A k",
+    "number_paper": "A B tree", "layers_paper": "A B order", "takes_core": "A paper", "takes_width": "A paper",
+    "takes_within": "A k paper", "takes_number": "A B paper", "takes_layers": "A B order paper",
 }
 USED = {"abs", "all", "any", "bool", "dict", "divmod", "enumerate", "int", "isinstance", "len", "list", "max", "min",
-        "range", "reversed", "set", "sorted", "str", "sum", "super", "tuple", "zip", "ValueError"}
-LIBRARY = {"math": {"gcd", "lcm", "comb"}, "itertools": {"combinations", "permutations"}}
+        "range", "reversed", "set", "sorted", "str", "sum", "super", "tuple", "type", "zip", "ValueError"}
+LIBRARY = {"math": {"gcd", "lcm", "comb"}}
 COMPREHENSIONS = (ast.ListComp, ast.SetComp, ast.DictComp, ast.GeneratorExp)
 CHANGES = {"append", "extend", "insert", "pop", "remove", "clear", "reverse", "sort", "update", "setdefault"}
 BARRED = {"mro", "elements", "open", "input", "law", "register", "compile", "dir", "eval", "exec", "exit", "gc", "help",
@@ -207,6 +221,18 @@ class Rules(unittest.TestCase):
                     self.assertNotIn(node.attr, BARRED, (name, node.lineno))
                 self.assertNotIn(bound, builtin | BARRED | told, name)
 
+    def test_kinds_of_values(self):
+        # The kind of a value is only compared with one that is written beside it.
+        for name, text in sources():
+            tree = ast.parse(text)
+            parents = parents_of(tree)
+            for node in ast.walk(tree):
+                if isinstance(node, ast.Name) and node.id == "type":
+                    test = parents[parents[node]]
+                    self.assertTrue(called(parents[node]) == "type" and isinstance(test, ast.Compare), (name, node.lineno))
+                    self.assertIsInstance(test.ops[0], (ast.Eq, ast.NotEq), (name, node.lineno))
+                    self.assertIn(ast.unparse(test.comparators[0]), ("int", "str", "tuple"), (name, node.lineno))
+
     def test_sets_and_views(self):
         for name, text in sources():
             tree = ast.parse(text)
@@ -217,9 +243,9 @@ class Rules(unittest.TestCase):
                 if isinstance(node, (ast.Set, ast.SetComp)) or called(node) == "set":
                     self.assertIn(called(above), ("sorted", "len"), at)
                     self.assertEqual(above.keywords, [], at)
-                if isinstance(node, ast.GeneratorExp):
-                    self.assertIn(called(above), ("all", "any", "sum", "tuple", "list", "sorted", "min", "max"), at)
-                if called(node) in ("zip", "enumerate", "reversed", "combinations", "permutations"):
+                # A class of the package has its own equality, so lists stand here.
+                self.assertNotIsInstance(node, ast.GeneratorExp, at)
+                if called(node) in ("zip", "enumerate", "reversed"):
                     iterated = isinstance(above, (ast.For, ast.comprehension)) and above.iter is node
                     self.assertTrue(iterated or called(above) in ATONCE, at)
                 if isinstance(node, ast.Call) and isinstance(node.func, ast.Attribute):
