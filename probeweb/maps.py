@@ -16,6 +16,11 @@ MOST_CORE = 8
 def is_map(f, A, B):
     """True if `f` is a map of `A` into `B`, for every value of it."""
     check_alike(A, B)
+    return maps_into(f, A, B)
+
+
+def maps_into(f, A, B):
+    """As `is_map`, for any number of tables and without a check."""
     if not is_point_tuple(f, B[0], A[0]):
         return False
     for (_, rows), (_, others) in zip(A[1], B[1]):

@@ -4,6 +4,8 @@ from probeweb.errors import Refused
 from probeweb.solving import MapSearch, openings_of
 
 SPAN = 3
+# Longer nogoods are seldom met again, and to look for them takes most of the time.
+MOST_KNOWN = 5
 
 
 def used_rows(rows):
@@ -119,13 +121,18 @@ class CaseSearch:
         """The index of the row of a nogood, which is put to the rows if it is a new one."""
         if nogood not in self.numbers:
             self.numbers[nogood] = len(self.rows)
-            mask = sum([self.bit(x, v) for x, v in nogood])
-            for choice in nogood:
-                self.known.setdefault(choice, []).append((mask, len(self.rows)))
+            if len(nogood) <= MOST_KNOWN:
+                self._make_known(nogood, len(self.rows))
             self.rows.append((nogood, reason))
             if self.most is not None and len(self.rows) > self.most:
                 raise Refused("large")
         return self.numbers[nogood]
+
+    def _make_known(self, nogood, j):
+        """Lets the row of the nogood be found by each of its choices."""
+        mask = sum([self.bit(x, v) for x, v in nogood])
+        for choice in nogood:
+            self.known.setdefault(choice, []).append((mask, j))
 
     def bit(self, x, v):
         """The mask of one choice."""

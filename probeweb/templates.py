@@ -131,7 +131,7 @@ def is_linear(B):
     return _is_linear(B)
 
 
-def _place_equations(rows, p):
+def place_equations(rows, p):
     """Equations of the places whose solutions are the rows, a list of pairs of factors and a sum."""
     space = _spanned(rows, p)
     found = []
@@ -153,7 +153,7 @@ def _solved(A, B):
     for (_, rows), (_, others) in zip(A[1], B[1]):
         if rows and not others:
             return None
-        for factors, total in _place_equations(others, B[0]) if rows else []:
+        for factors, total in place_equations(others, B[0]) if rows else []:
             for row in rows:
                 summed = {}
                 for x, factor in zip(row, factors):
@@ -187,7 +187,8 @@ def linear_map(A, B):
     return None if told is None else told.solution()
 
 
-def _holds(B, word):
+def class_holds(B, word):
+    """True if the class of the word holds for a template with two points."""
     f, k = CLASS_OPERATIONS[word]
     return keeps_tables(f, B, k)
 
@@ -197,7 +198,7 @@ def boolean_classes(B):
     check_template(B)
     if B[0] != 2:
         raise Malformed("not two points")
-    return tuple([word for word in CLASS_OPERATIONS if _holds(B, word)])
+    return tuple([word for word in CLASS_OPERATIONS if class_holds(B, word)])
 
 
 def has_lost_fact(A, B):
@@ -217,9 +218,14 @@ def raised_row(others, values, before):
     return tuple([before if before in [row[k] for row in met] else 1 - before for k in range(len(values))])
 
 
-def _raised_map(A, B, before):
-    """The map with as many points at `before` as there can be, or None."""
+def raised_steps(A, B, before):
+    """The map with as many points at `before` as there can be, or None, and the steps that lead to this.
+
+    A step is a pair of a table and a fact of `A` that changes values; without
+    a map the last one is a fact that no row fits.
+    """
     values = [before] * A[0]
+    steps = []
     told = {}
     changed = True
     while changed:
@@ -229,13 +235,20 @@ def _raised_map(A, B, before):
                 key = (t, tuple([values[x] for x in row]))
                 if key not in told:
                     told[key] = raised_row(B[1][t][1], key[1], before)
-                if told[key] is None:
-                    return None
                 if told[key] != key[1]:
                     changed = True
-                    for x, v in zip(row, told[key]):
-                        values[x] = v if values[x] == before else values[x]
-    return tuple(values)
+                    steps.append((t, row))
+                    if told[key] is None:
+                        return None, tuple(steps)
+                    take_raised(values, row, told[key], before)
+    return tuple(values), tuple(steps)
+
+
+def take_raised(values, row, raised, before):
+    """Changes the values of the points of a fact to those that were raised."""
+    for x, v in zip(row, raised):
+        if values[x] == before:
+            values[x] = v
 
 
 def _barred_pairs(others, arity):
@@ -248,13 +261,17 @@ def _barred_pairs(others, arity):
     return found
 
 
-def _steps_between(A, B):
-    """For each value of a point the values of points that follow from it."""
+def steps_between(A, B):
+    """For each value of a point the values of points that follow from it, each with a step that says so.
+
+    A step is told by a table, a fact of `A`, and a place and a value and
+    another place and its value that no row of the table has together.
+    """
     steps = {(x, v): {} for x in range(A[0]) for v in (0, 1)}
-    for (arity, rows), (_, others) in zip(A[1], B[1]):
-        for i, a, j, b in _barred_pairs(others, arity):
+    for t, (arity, rows) in enumerate(A[1]):
+        for i, a, j, b in _barred_pairs(B[1][t][1], arity):
             for row in rows:
-                steps[(row[i], a)][(row[j], 1 - b)] = True
+                steps[(row[i], a)][(row[j], 1 - b)] = (t, row, i, a, j, b)
     return steps
 
 
@@ -274,7 +291,7 @@ def _followed(steps, start):
 
 def _paired_map(A, B):
     """A map into a template whose tables are told by their pairs of places, or None."""
-    steps = _steps_between(A, B)
+    steps = steps_between(A, B)
     values = {}
     for x in range(A[0]):
         if x not in values:
@@ -295,14 +312,14 @@ def class_map(A, B, word):
         raise Malformed("no class")
     if A[0] > MOST_SOLVED:
         raise Refused("large")
-    if B[0] != 2 or not _holds(B, word):
+    if B[0] != 2 or not class_holds(B, word):
         raise Refused("class")
     if has_lost_fact(A, B):
         return None
     if word == "zero" or word == "one":
         return (0 if word == "zero" else 1,) * A[0]
     if word == "least" or word == "greatest":
-        return _raised_map(A, B, 0 if word == "least" else 1)
+        return raised_steps(A, B, 0 if word == "least" else 1)[0]
     if word == "most":
         return _paired_map(A, B)
     told = _solved(A, B)

@@ -7,7 +7,7 @@ import brute
 from brute import WRONG, deep, directed_path, full_graph, ring
 from probeweb import (
     bagjudges, bagpapers, bags, colourings, global_rows, layers, linear, matrices, operations, pairing, probejudges,
-    probepapers, sameness, searchjudges, searchpapers, templates)
+    probepapers, sameness, searchjudges, searchpapers, templatejudges, templatepapers, templates)
 from probeweb.errors import Fault, Malformed
 
 EDGE, PATH, ORDER = full_graph(2), directed_path(3), (2, ((2, ((0, 0), (0, 1), (1, 1))),))
@@ -71,7 +71,9 @@ CALLS = (
     (searchpapers.numbers_paper, EDGE, EDGE), (searchpapers.choice_paper, LISTS, 3),
     (searchpapers.kept_paper, LISTS, 3, 2, 0), (searchpapers.bounds_paper, LISTS, 3, ((0, 1), (0, 2), (1, 1))),
     (bagpapers.core_paper, PATH), (bagpapers.width_paper, PATH), (bagpapers.within_paper, PATH, 0),
-    (bagpapers.number_paper, ring(4), EDGE, SQUARE_TREE), (bagpapers.layers_paper, PATH, EDGE, (0, 1, 2)))
+    (bagpapers.number_paper, ring(4), EDGE, SQUARE_TREE), (bagpapers.layers_paper, PATH, EDGE, (0, 1, 2)),
+    (templatepapers.defined_paper, ORDER, ((0, 1), (1, 0))), (templatepapers.decided_paper, ORDER),
+    (templatepapers.special_paper, ORDER, "maltsev"), (templatepapers.class_paper, PATH, ORDER, "least"))
 # Judges of papers, with what stands before the paper, and papers that they take.
 JUDGES = (
     (probejudges.takes_lists, (EDGE, EDGE), probepapers.lists_paper(EDGE, EDGE)),
@@ -107,6 +109,20 @@ JUDGES = (
     (bagjudges.takes_within, (ring(4), 2), bagpapers.within_paper(ring(4), 2)),
     (bagjudges.takes_number, (ring(4), EDGE), bagpapers.number_paper(ring(4), EDGE, SQUARE_TREE)),
     (bagjudges.takes_layers, (EDGE, EDGE, (0, 1)), ("layers", D)))
+# Judges of templates; what stands before their papers is never of another kind.
+TEMPLATE_JUDGES = tuple(
+    (takes, told, paper) for takes, told, paper in (
+        (templatejudges.takes_defined, (ORDER, ((0, 1), (1, 0))), ("operation", (0, 0, 0, 0))),
+        (templatejudges.takes_defined, (ORDER, ((0, 0), (1, 1))), ("formula",)),
+        (templatejudges.takes_decided, (ORDER,), ("back", (0, 0, 0))),
+        (templatejudges.takes_decided, (EDGE,), templatepapers.decided_paper(EDGE)),
+        (templatejudges.takes_special, (ORDER, "majority"), ("operation", (0, 0, 0, 1, 0, 1, 1, 1))),
+        (templatejudges.takes_special, (ORDER, "maltsev"), templatepapers.special_paper(ORDER, "maltsev")),
+        (templatejudges.takes_class, (PATH, ORDER, "least"), ("map", (0, 0, 1))),
+        (templatejudges.takes_class, (ring(3), EDGE, "most"), templatepapers.class_paper(ring(3), EDGE, "most")),
+        (templatejudges.takes_class, (ring(3), EDGE, "odd"), templatepapers.class_paper(ring(3), EDGE, "odd")),
+        (templatejudges.takes_class, ((1, ((1, ((0,),)),)), (2, ((1, ()),)), "least"), ("raised", ((0, (0,)),))),
+        (templatejudges.takes_class, ((1, ((1, ((0,),)),)), (2, ((1, ()),)), "zero"), ("empty", 0))))
 ITEMS = (None, True, False, "a", "", -1, 0, 1, 2, 7, (), [], {}, (0,), ("a",), 10 ** 60, -10 ** 60, deep(60), ((0, 0),))
 
 
@@ -166,7 +182,7 @@ class Values(unittest.TestCase):
         self.assertTrue(brute.plain_structure(EDGE))
 
     def test_judges(self):
-        for takes, told, paper in JUDGES:
+        for takes, told, paper in JUDGES + TEMPLATE_JUDGES:
             self.assertIs(takes(*told, paper), True, takes)
             word = paper[0]
             others = itertools.chain(WRONG, ITEMS, changed(paper), nested(paper), nested((word, 0)),
@@ -175,7 +191,7 @@ class Values(unittest.TestCase):
             for other in others:
                 self.assertIn(takes(*told, other), (True, False))
             # What stands before the paper is looked at first, whatever the paper is.
-            for other in (None, paper):
+            for other in (None, paper) if (takes, told, paper) in JUDGES else ():
                 for k in range(len(told)):
                     for value in (None, True, "a", (), [], 10 ** 60, deep(60)):
                         # A row of no lists is one, and each integer is a bound of a width.

@@ -57,7 +57,16 @@ LISTED = {
                      "takes_kept", "takes_bounds"),
     "bagpapers": ("core_paper", "width_paper", "within_paper", "number_paper", "layers_paper"),
     "bagjudges": ("takes_core", "takes_width", "takes_within", "takes_number", "takes_layers"),
+    "templatepapers": ("defined_paper", "decided_paper", "special_paper", "class_paper"),
+    "templatejudges": ("takes_defined", "takes_decided", "takes_special", "takes_class"),
+    "sheet": ("read_line",), "replies": ("reply_to", "defined_by", "is_right"),
+    "log": ("write_data", "read_data", "write_log", "read_log", "first_wrong"),
 }
+# The listed classes of the worksheets, with their methods and the arguments of these.
+CLASSES = {
+    ("replies", "Reply"): {"__init__": "self kind text data", "__eq__": "self other"},
+    ("console", "Console"): {"__init__": "self", "__len__": "self", "__iter__": "self", "enter": "self line",
+                             "names": "self", "log": "self"}}
 ARGUMENTS = {
     "graph_with": "n edges", "facts_at": "A x", "power_structure": "A k", "folded_by": "A colouring",
     "restricted_to": "A points", "renumbered": "A f", "is_map": "f A B", "tree_rests": "tree A l", "tree_rest": "tree A l",
@@ -97,15 +106,20 @@ ARGUMENTS = {
     "takes_bounds": "lists m bounds paper", "core_paper": "A", "width_paper": "A", "within_paper": "A k",
     "number_paper": "A B tree", "layers_paper": "A B order", "takes_core": "A paper", "takes_width": "A paper",
     "takes_within": "A k paper", "takes_number": "A B paper", "takes_layers": "A B order paper",
+    "defined_paper": "B rows", "decided_paper": "B", "special_paper": "B word", "class_paper": "A B word",
+    "takes_defined": "B rows paper", "takes_decided": "B paper", "takes_special": "B word paper",
+    "takes_class": "A B word paper", "read_line": "line", "reply_to": "names line", "defined_by": "names line",
+    "is_right": "names entry", "write_data": "data", "read_data": "text", "write_log": "entries", "read_log": "text",
+    "first_wrong": "entries",
 }
-USED = {"abs", "all", "any", "bool", "dict", "divmod", "enumerate", "int", "isinstance", "len", "list", "max", "min",
+USED = {"abs", "all", "any", "bool", "dict", "divmod", "enumerate", "int", "isinstance", "iter", "len", "list", "max", "min",
         "range", "reversed", "set", "sorted", "str", "sum", "super", "tuple", "type", "zip", "ValueError"}
 LIBRARY = {"math": {"gcd", "lcm", "comb"}}
 COMPREHENSIONS = (ast.ListComp, ast.SetComp, ast.DictComp, ast.GeneratorExp)
 CHANGES = {"append", "extend", "insert", "pop", "remove", "clear", "reverse", "sort", "update", "setdefault"}
 BARRED = {"mro", "elements", "open", "input", "law", "register", "compile", "dir", "eval", "exec", "exit", "gc", "help",
           "id", "os", "quit", "sys", "type", "vars", "enum", "overload", "dataclass", "typing"}
-NODES = (ast.Try, ast.With, ast.Global, ast.Nonlocal, ast.Yield, ast.YieldFrom, ast.AsyncFunctionDef, ast.NamedExpr,
+NODES = (ast.With, ast.Global, ast.Nonlocal, ast.Yield, ast.YieldFrom, ast.AsyncFunctionDef, ast.NamedExpr,
          ast.JoinedStr, ast.Match, ast.Assert, ast.Import, ast.AnnAssign)
 ATONCE = {"list", "tuple", "dict", "sorted", "sum", "any", "all", "enumerate", "zip", "min", "max"}
 
@@ -220,6 +234,46 @@ class Rules(unittest.TestCase):
                 elif isinstance(node, ast.Attribute):
                     self.assertNotIn(node.attr, BARRED, (name, node.lineno))
                 self.assertNotIn(bound, builtin | BARRED | told, name)
+
+    def test_classes(self):
+        made = {}
+        for name, text in sources():
+            for node in ast.parse(text).body:
+                if isinstance(node, ast.ClassDef):
+                    made[name, node.name] = node
+                    methods = [part for part in node.body if isinstance(part, ast.FunctionDef)]
+                    names = {method.name for method in methods}
+                    attributes = {part.attr for part in ast.walk(node) if isinstance(part, ast.Attribute)
+                                  and isinstance(part.ctx, ast.Store)}
+                    self.assertEqual(len(names), len(methods), node.name)
+                    self.assertFalse(names & attributes, node.name)
+                    special = {word for word in names if word.startswith("__")}
+                    self.assertLessEqual(special, {"__init__", "__eq__", "__len__", "__iter__"}, node.name)
+        for key, methods in CLASSES.items():
+            told = {part.name: part for part in made[key].body if isinstance(part, ast.FunctionDef)}
+            for word, arguments in methods.items():
+                self.assertEqual([arg.arg for arg in told[word].args.args], arguments.split(), (key, word))
+        console = made["console", "Console"].body
+        self.assertEqual([arg.arg for part in console if isinstance(part, ast.FunctionDef) for arg in part.args.kwonlyargs],
+                         ["most"])
+        # What is asked first for equality is whether the other one is of the own class.
+        equal = [part for part in made["replies", "Reply"].body if getattr(part, "name", "") == "__eq__"][0]
+        self.assertEqual(ast.unparse(equal.body[0]), "if not isinstance(other, Reply):\n    return False")
+
+    def test_errors_caught(self):
+        for name, text in sources():
+            tree = ast.parse(text)
+            for node in ast.walk(tree):
+                at = (name, getattr(node, "lineno", 0))
+                if isinstance(node, ast.Try):
+                    self.assertEqual((node.orelse, node.finalbody), ([], []), at)
+                    for handler in node.handlers:
+                        told = {part.id for part in ast.walk(handler.type) if isinstance(part, ast.Name)}
+                        self.assertLessEqual(told, {"Malformed", "Refused", "NoText"}, at)
+                if isinstance(node, ast.Call) and isinstance(node.func, ast.Attribute):
+                    self.assertNotIn(node.func.attr, ("sort", "format", "encode", "decode", "translate"), at)
+                if called(node) == "iter":
+                    self.assertEqual(name, "console", at)
 
     def test_kinds_of_values(self):
         # The kind of a value is only compared with one that is written beside it.
