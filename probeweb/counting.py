@@ -6,6 +6,8 @@ from probeweb.whole import falling_number
 
 # The steps after which a number that is not told by then is left to the search.
 MOST_STEPS = 5000
+# As many maps are listed without being counted first.
+MOST_AT_ONCE = 1000
 
 
 class MapCount:
@@ -66,6 +68,11 @@ class MapCount:
 
 def listed_maps(search, most):
     """The ascending tuple of all maps that a search finds, refused if there are more than `most`."""
+    few = min(MOST_AT_ONCE, most)
+    found = search.all_found(few + 1)
+    if len(found) <= few:
+        return tuple(sorted(found))
+    # To count so many first takes less time than to list them in vain.
     if MapCount(search, most).is_beyond():
         raise Refused("many")
     found = search.all_found(most + 1)

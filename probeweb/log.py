@@ -106,16 +106,14 @@ def read_log(text):
     if not isinstance(text, str):
         raise NoText(0)
     rows = text.split("\n")
+    # What stands behind the last line feed has the number that is told for a text that ends there, whatever it is.
     last = rows.pop()
-    feeds = len(rows)
-    if last != "":
-        rows.append(last)
     told = [_read_row(row, k % 3) for k, row in enumerate(rows)]
     if None in told:
         raise NoText(told.index(None))
-    if last != "" or feeds % 3 != 0:
-        raise NoText(feeds)
-    return [(told[k], Reply(told[k + 1][0], told[k + 1][1], told[k + 2])) for k in range(0, feeds, 3)]
+    if last != "" or len(rows) % 3 != 0:
+        raise NoText(len(rows))
+    return [(told[k], Reply(told[k + 1][0], told[k + 1][1], told[k + 2])) for k in range(0, len(rows), 3)]
 
 
 def first_wrong(entries):

@@ -29,7 +29,7 @@ def decided_paper(B):
 def special_paper(B, word):
     """An operation of the kind that the word tells, or a refutation of the instance that asks for it."""
     check_template(B)
-    if not (isinstance(word, str) and word in SPECIAL):
+    if word not in SPECIAL:
         raise Malformed("no kind of operations with papers")
     if len(B[1]) > MOST_TABLES:
         raise Refused("large")
@@ -69,12 +69,11 @@ def _way(steps, start, end):
 def _round_paper(A, B):
     """The ways from the value 0 of a point to its value 1 and back."""
     steps = steps_between(A, B)
-    found = None
     for x in range(A[0]):
         there, back = _way(steps, (x, 0), (x, 1)), _way(steps, (x, 1), (x, 0))
-        if found is None and there is not None and back is not None:
-            found = ("round", there, back)
-    return found
+        if there is not None and back is not None:
+            return "round", there, back
+    return None
 
 
 def _odd_equations(A, B):

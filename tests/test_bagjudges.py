@@ -54,6 +54,12 @@ class Cores(Judged):
         every = (0, 1, 2, 3)
         maps = tuple(search_paper(square, graph(3, [(0, 1), (1, 2)])) for _ in every)
         self.assertFalse(takes_core(square, ("core", every, every, maps)))
+        # Three points of the square: without an end they still map, without the middle they do not.
+        three, path = (0, 1, 2), graph(3, [(0, 1), (1, 2)])
+        bars = [search_paper(path, end) for end in (graph(2, [(0, 1)]), dots(2), graph(2, [(0, 1)]))]
+        self.assertEqual([bar[0] for bar in bars], ["map", "refuted", "map"])
+        self.assertFalse(takes_core(square, ("core", three, (0, 1, 2, 1), tuple(bars))))
+        self.assertFalse(core_holds(square, ("core", three, (0, 1, 2, 1), tuple(bars))))
         _, _, g, two = core_paper(square)
         for points, right in ((edge, True), ((1, 2), True), ((0, 2), False), ((0,), False), ((1, 0), False), ((0, 1, 2), False)):
             paper = ("core", points, g if points != (1, 2) else (1, 0, 1, 0), two)

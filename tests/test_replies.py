@@ -357,7 +357,8 @@ class Entries(Replies):
     def test_values(self):
         reply = reply_to(NAMES, "show edge")
         for entry in WRONG + ("show edge", ["show edge", reply], ("show edge",), ("show edge", reply, 0), reply, (reply, "show edge"),
-                              ("show edge", None), ("show edge", fields(reply)), ((), ()), (None, None)):
+                              ("show edge", None), ("show edge", fields(reply)), ((), ()), (None, None), ("map edge edge", None),
+                              ("map edge edge", fields(reply_to(NAMES, "map edge edge"))), ("core edge", "core"), ("core edge", ())):
             self.assertIs(is_right(NAMES, entry), False)
         for line in WRONG:
             self.assertIs(is_right(NAMES, (line, Reply("error", "text"))), line != "")

@@ -78,7 +78,11 @@ class Searches(Judged):
         for rows in (cut[:3], cut[:3] + ((((), 1), ("sum", ((0, 1), (1, 1), (3, 1)))),), cut[1:], (end,),
                      cut[:3] + ((((), 2), ("sum", ((0, 1), (1, 1), (2, 1)))),), cut + cut[:1]):
             self.assertFalse(takes_search(LOOP, EDGE, ("cut", rows)))
-        # A cutting that ends with the bound 0 shows nothing.
+        # A cutting that ends with the bound 0, or one below it, shows nothing.
+        some, most = ((((0, 0), 1),), 1), ("some", 0)
+        rows = ((some, most), (((((0, 0), -1),), -1), ("most", 0, 0)), (((), 0), ("sum", ((0, 1), (1, 1)))))
+        self.assertFalse(takes_search(dots(1), dots(1), ("cut", rows)))
+        self.assertTrue(search_holds(dots(1), EMPTY, ("cut", ((((), 1), ("some", 0)),))))
         both = (((((0, 0), 1),), 0), ("least", 0, 0)), (((((0, 0), -1),), -1), ("most", 0, 0))
         self.assertFalse(takes_search(LOOP, EDGE, ("cut", both + ((((), -1), ("sum", ((0, 1), (1, 1)))),))))
         self.assertFalse(takes_search(LOOP, LOOP, ("cut", (both[0], ((((0, 0), -1),), 0)))))
@@ -240,6 +244,31 @@ class Sameness(Judged):
         other = (8, TRIANGLES[1] * 6)
         paper = sameness_paper(many, other)
         self.assertTrue(takes_sameness(many, other, paper))
+
+    def test_rows_of_partings(self):
+        # Each row must be a right one, also one that no later row names.
+        A, B, end = dots(2), EDGE, ((((), ()), ("colours",)),)
+        self.assertTrue(takes_sameness(A, B, ("apart", end)))
+        for row in ((((0,), (0,)), ("colours",)), (((1, 0), (0, 1)), ("colours",)), (((0, 1), (0, 1)), ("colours",)), end[0]):
+            self.assertTrue(takes_sameness(A, B, ("apart", (row,) + end)))
+        for fixed in (((0,), ()), ((), (0,)), ((0,), (2,)), ((2,), (0,)), ((-1,), (0,)), ((0,), (-1,)), ((0, 0), (0, 1)), ((0, 1), (1, 1)),
+                      ((True,), (0,)), ((0,), (False,)), ([0], [0]), ((0,), [0]), ((0,), (0,), ()), ((0,),), (0, 0), None, (None, None), ()):
+            self.assertFalse(takes_sameness(A, B, ("apart", ((fixed, ("colours",)),) + end)), fixed)
+        one, two = (((0,), (0,)), ("colours",)), (((0,), (1,)), ("colours",))
+        cases = (one, two, (((), ()), ("cases", 0, (0, 1))))
+        self.assertTrue(takes_sameness(A, B, ("apart", cases)))
+        for reason in (("cases", 0, (1, 0)), ("cases", 1, (0, 1)), ("cases", 0, (0,)), ("cases", 0, (0, 1, 1)), ("cases", 2, (0, 1)), ("cases", 0, ()),
+                       ("cases", False, (0, 1)), ("cases", 0, (0, True)), ("cases", 0, [0, 1]), ("cases", 0, (0, 2)), ("cases", 0, (-3, 1)),
+                       ("case", 0, (0, 1)), ("colours", 0, (0, 1)), ("cases", 0), ("cases", 0, (0, 1), ()), ["colours"], ("colour",), (), None,
+                       ("cases", None, (0, 1)), ("cases", -1, (0, 1))):
+            self.assertFalse(takes_sameness(A, B, ("apart", cases[:2] + ((((), ()), reason),))), reason)
+        # With all points of `B` fixed no index is left, and a point of `A` that is not fixed must be.
+        every = ((0, 1), (0, 1))
+        self.assertFalse(takes_sameness(A, B, ("apart", ((every, ("cases", 0, ())),) + end)))
+        self.assertTrue(takes_sameness(dots(3), dots(2), ("apart", ((every, ("cases", 2, ())),) + end)))
+        # Structures that are the same have no parting, whatever its rows are.
+        self.assertFalse(takes_sameness(A, A, ("apart", cases)))
+        self.assertFalse(takes_sameness(A, A, ("apart", ((every, ("cases", 0, ())), (((0,), (0,)), ("cases", 1, (0,)))) + end)))
 
     def test_long_refinement(self):
         # Here the judge refines structures of as many points as there can be.

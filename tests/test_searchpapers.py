@@ -206,6 +206,9 @@ class Errors(Case):
             self.assertEqual(len(ask(dots(one), dots(two))), 2)
             self.refuses("large", ask, dots(one + 1), dots(two))
             self.refuses("large", ask, dots(one), dots(two + 1))
+        # Also where the two are the same.
+        self.refuses("large", sameness_paper, dots(13), dots(13))
+        self.refuses("large", numbers_paper, dots(6), dots(6))
         # Nine joined points into eight are refused behind the search for a map.
         self.refuses("large", search_paper, full_graph(9), full_graph(8))
         self.assertEqual(search_paper(full_graph(8), full_graph(8))[0], "map")

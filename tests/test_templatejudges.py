@@ -184,7 +184,9 @@ class Classes(Judged):
                          (((0, (0, 1), 0, 0, 1, 1),) + there[1:], back), (((0, (0, 1), 2, 0, 1, 0),) + there[1:], back),
                          (((0, (0, 1), 0, 2, 1, 0),) + there[1:], back), (((0, (0, 1), 0, 0, -1, 0),) + there[1:], back),
                          (((0, (0, 1), False, 0, 1, 0),) + there[1:], back), (((0, (0, 1), 0, False, 1, 0),) + there[1:], back),
-                         (((0, (0, 0), 0, 0, 1, 0),) + there[1:], back), (((1, (0, 1), 0, 0, 1, 0),) + there[1:], back)):
+                         (((0, (0, 0), 0, 0, 1, 0),) + there[1:], back), (((1, (0, 1), 0, 0, 1, 0),) + there[1:], back),
+                         ((list(there[0]),) + there[1:], back), (there, back[:2] + (list(back[2]),)), (there, (None,)),
+                         ((there[0] + (0,),) + there[1:], back), ((there[0][:5],) + there[1:], back)):
             self.assertFalse(takes_class(A, B, "most", ("round", one, two)))
         self.assertTrue(takes_class(A, B, "most", ("round", there + back + there, back)))
         self.assertFalse(takes_class(A, B, "odd", ("round", there, back)))
@@ -205,6 +207,14 @@ class Classes(Judged):
         self.assertTrue(takes_class(A, B, "odd", ("sum", rows + rows + rows)))
         self.assertTrue(takes_class(A, B, "odd", ("sum", rows[::-1] + ((0, (0, 1), (0, 0, 0)),))))
         self.assertFalse(takes_class(A, B, "most", ("sum", rows)))
+        for factors in ((2, 0, 0), (0, 2, 0), (2, 2, 0), (0, 0, 2), (0, 0), (0, 0, 0, 0), (False, 0, 0), [0, 0, 0], None):
+            self.assertFalse(takes_class(A, B, "odd", ("sum", rows + ((0, (0, 1), factors),))))
+        self.assertFalse(takes_class(A, B, "odd", ("sum", rows[:2] + (list(rows[2]),))))
+        # Rows whose sum is 2: equal points that are told to be unlike.
+        both = (2, ((2, ((0, 0), (1, 1))), (2, ((0, 1), (1, 0)))))
+        pair = (2, ((2, ((0, 1),)), (2, ((0, 1),))))
+        self.assertTrue(takes_class(pair, both, "odd", ("sum", ((0, (0, 1), (1, 1, 0)), (1, (0, 1), (1, 1, 1))))))
+        self.assertFalse(takes_class(pair, both, "odd", ("sum", ((0, (0, 1), (1, 1, 1)), (1, (0, 1), (1, 1, 0))))))
         # A fact with a point twice: the sum has it twice.
         loop = (1, ((2, ((0, 0),)),))
         self.assertTrue(takes_class(loop, B, "odd", ("sum", ((0, (0, 0), (1, 1, 1)),))))

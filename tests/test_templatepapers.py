@@ -203,6 +203,16 @@ class Classes(Case):
         self.assertTrue(class_holds(odd, UNLIKE, "most", class_paper(odd, UNLIKE, "most")))
         self.assertEqual(class_paper(ring(40), UNLIKE, "odd")[0], "map")
 
+    def test_rounds(self):
+        # Points before the one of the round whose values are told, but not against each other.
+        for forced in (0, 1):
+            B = (2, ((1, ((forced,),)), (2, ((0, 1), (1, 0)))))
+            A = (4, ((1, ((0,),)), (2, ((1, 2), (1, 3), (2, 3)))))
+            paper = class_paper(A, B, "most")
+            self.assertTrue(class_holds(A, B, "most", paper))
+            self.assertEqual(paper[0], "round")
+            self.assertTrue(class_holds(A, B, "odd", class_paper(A, B, "odd")))
+
     def test_errors(self):
         self.malformed_pairs(class_paper, NO_STRUCTURES, ORDER, "least")
         self.malformed(class_paper, dots(2), dots(0), "least")
