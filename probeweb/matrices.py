@@ -4,7 +4,7 @@ from probeweb.errors import Malformed, Refused
 from probeweb.linear import LineSpace, fraction_inverse, fraction_product, turned_rows
 from probeweb.strands import gone_through
 from probeweb.structures import (
-    MOST_POINTS, check_binary, check_both_binary, is_pair, is_point, kind_of, mask_of)
+    MOST_POINTS, arities_of, check_binary, check_both_binary, is_pair, is_point, kind_of, mask_of)
 from probeweb.whole import is_number_from, raised_to
 
 MOST_LETTERS = 1000
@@ -22,7 +22,7 @@ MOST_COLUMNS = 1000
 def kind_letters(A):
     """The letters of the kind, ascending."""
     check_binary(A)
-    return tuple([(t, turn) for t, arity in enumerate(kind_of(A)) for turn in range(arity)])
+    return tuple([(t, turn) for t, arity in enumerate(arities_of(A)) for turn in range(arity)])
 
 
 def _is_letter(value, kind):
@@ -38,7 +38,7 @@ def is_word(value, kind):
 def _check_word(A, word):
     """None for a binary structure and a word of its kind."""
     check_binary(A)
-    if not is_word(word, kind_of(A)):
+    if not is_word(word, arities_of(A)):
         raise Malformed("no word")
 
 
@@ -68,7 +68,7 @@ def step_masks(A):
 def letter_rows(A, letter):
     """The matrix of a letter, of integers."""
     check_binary(A)
-    if not _is_letter(letter, kind_of(A)):
+    if not _is_letter(letter, arities_of(A)):
         raise Malformed("no letter")
     made = []
     for ends in _steps(A, letter):
@@ -82,7 +82,7 @@ def letter_rows(A, letter):
 def word_path(A, word):
     """The path of a word, a structure of the kind of `A`."""
     _check_word(A, word)
-    kind = kind_of(A)
+    kind = arities_of(A)
     at = 0
     facts = [{} for _ in kind]
     for t, turn in word:

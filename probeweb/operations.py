@@ -5,7 +5,7 @@ from probeweb.errors import Malformed, Refused
 from probeweb.instances import SemilatticeSearch, all_rows, index_of, special_instance, with_turned_rows
 from probeweb.solving import MapSearch, linked_points
 from probeweb.structures import (
-    MOST_ARITY, check_structure, is_ascending, is_point, is_point_tuple, kind_of, power_structure)
+    MOST_ARITY, arities_of, check_structure, is_ascending, is_point, is_point_tuple, kind_of, power_structure)
 from probeweb.whole import is_number_from, raised_to
 
 MOST_DOMAIN = 60
@@ -252,7 +252,7 @@ def _exchanged_rows(row, classes):
 def defined_rows(A, marks, B):
     """The ascending tuple of the rows that all maps of `A` into `B` have at the marks."""
     check_template(B)
-    if kind_of(A) != kind_of(B):
+    if kind_of(A) != arities_of(B):
         raise Malformed("unlike kinds")
     if not (isinstance(marks, tuple) and 1 <= len(marks) <= MOST_ARITY and all([is_point(p, A[0]) for p in marks])):
         raise Malformed("no marks")

@@ -6,7 +6,7 @@ from probeweb.papers import is_paper_of
 from probeweb.pebbles import check_strategy_pair, is_strategy
 from probeweb.refining import check_refined_pair, is_even_matrix, signatures_of
 from probeweb.strands import is_strand, strand_reaches, strand_rest
-from probeweb.structures import is_binary, kind_of
+from probeweb.structures import MOST_ARITY, arities_of
 from probeweb.trees import is_tree, tree_reaches, tree_rest
 from probeweb.whole import is_number_from
 
@@ -16,7 +16,7 @@ def takes_lists(A, B, paper):
     check_arc_pair(A, B)
     if is_paper_of(paper, "lists", 2):
         return is_closed_lists(A, B, paper[1]) and () not in paper[1]
-    if not (is_paper_of(paper, "tree", 2) and is_tree(paper[1], kind_of(A))):
+    if not (is_paper_of(paper, "tree", 2) and is_tree(paper[1], arities_of(A))):
         return False
     return tree_reaches(paper[1], A)[-1] != () and tree_reaches(paper[1], B)[-1] == ()
 
@@ -26,7 +26,7 @@ def takes_strategy(A, B, paper):
     check_strategy_pair(A, B)
     if is_paper_of(paper, "strategy", 2):
         return is_strategy(A, B, paper[1]) and not any([() in line for line in paper[1]])
-    if not (is_paper_of(paper, "strand", 2) and is_strand(paper[1], kind_of(A))):
+    if not (is_paper_of(paper, "strand", 2) and is_strand(paper[1], arities_of(A))):
         return False
     return strand_reaches(paper[1], A)[-1] != () and strand_reaches(paper[1], B)[-1] == ()
 
@@ -53,8 +53,8 @@ def takes_colours(A, B, paper):
     if is_paper_of(paper, "classes", 3):
         return _are_classes(A, B, paper[1], paper[2])
     if is_paper_of(paper, "even", 2):
-        return is_binary(A) and is_even_matrix(A, B, paper[1])
-    if not (is_paper_of(paper, "trees", 3) and is_tree(paper[1], kind_of(A)) and is_number_from(paper[2], 2)):
+        return MOST_ARITY not in arities_of(A) and is_even_matrix(A, B, paper[1])
+    if not (is_paper_of(paper, "trees", 3) and is_tree(paper[1], arities_of(A)) and is_number_from(paper[2], 2)):
         return False
     return tree_rest(paper[1], A, paper[2]) != tree_rest(paper[1], B, paper[2])
 
@@ -64,6 +64,6 @@ def takes_pairs(A, B, paper):
     check_paired(A, B)
     if is_paper_of(paper, "pairs", 2):
         return is_pair_colouring(A, B, paper[1])
-    if not (is_paper_of(paper, "strands", 3) and is_strand(paper[1], kind_of(A)) and is_number_from(paper[2], 2)):
+    if not (is_paper_of(paper, "strands", 3) and is_strand(paper[1], arities_of(A)) and is_number_from(paper[2], 2)):
         return False
     return strand_rest(paper[1], A, paper[2]) != strand_rest(paper[1], B, paper[2])

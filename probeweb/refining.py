@@ -1,8 +1,7 @@
 """Refinement of colours, the trees that tell them, and even matrices (chapter 6)."""
 
 from probeweb.errors import Malformed, Refused
-from probeweb.structures import (
-    check_alike, check_binary, check_structure, greatest_table, kind_of)
+from probeweb.structures import arities_of, check_alike, check_both_binary, check_structure, greatest_table
 from probeweb.whole import is_number_from, is_ratio, least_common, ratio
 
 MOST_POINTS_REFINED = 40
@@ -26,7 +25,7 @@ def check_refined_pair(A, B):
 
 def _without_points(A):
     """The structure without points of the kind of `A`."""
-    return 0, tuple([(arity, ()) for arity in kind_of(A)])
+    return 0, tuple([(arity, ()) for arity in arities_of(A)])
 
 
 def signatures_of(A, colours):
@@ -240,8 +239,7 @@ def tree_apart(A, B):
 
 
 def _check_binary_pair(A, B):
-    check_alike(A, B)
-    check_binary(A)
+    check_both_binary(A, B)
     _check_sizes(A, B)
 
 

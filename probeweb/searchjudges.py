@@ -10,8 +10,8 @@ from probeweb.refutations import refuted_nogood
 from probeweb.sameness import colours_with, is_turning
 from probeweb.strands import gone_through
 from probeweb.structures import (
-    check_alike, check_both_binary, is_ascending, is_pair, is_point, is_point_set, is_point_tuple, is_structure,
-    kind_of, mask_of)
+    arities_of, check_alike, check_both_binary, is_ascending, is_pair, is_point, is_point_set, is_point_tuple,
+    is_structure, mask_of)
 from probeweb.turning import map_count
 from probeweb.whole import is_integer, is_number_from, raised_to
 
@@ -80,7 +80,7 @@ def takes_words(A, B, paper):
     word, told = paper
     if word == "within":
         return _are_within(A, B, told)
-    if word != "word" or not is_word(told, kind_of(A)) or len(told) > MOST_WALKED:
+    if word != "word" or not is_word(told, arities_of(A)) or len(told) > MOST_WALKED:
         return False
     return has_path(A, told) and not has_path(B, told)
 
@@ -93,7 +93,7 @@ def takes_paths(A, B, paper):
     word, told = paper
     if word == "matrix":
         return is_ratio_matrix(told, A[0], B[0]) and joins_letters(A, B, told)
-    if word != "word" or not is_word(told, kind_of(A)) or len(told) > MOST_COUNTED:
+    if word != "word" or not is_word(told, arities_of(A)) or len(told) > MOST_COUNTED:
         return False
     return path_number(A, told) != path_number(B, told)
 
@@ -159,7 +159,7 @@ def _is_parting(A, B, rows):
 
 def _tells_apart(A, B, F):
     """True for a structure with unlike numbers of maps into both, small enough to try all functions."""
-    if not is_structure(F) or kind_of(F) != kind_of(A):
+    if not is_structure(F) or arities_of(F) != arities_of(A):
         return False
     if raised_to(A[0], F[0]) > MOST_TRIED or raised_to(B[0], F[0]) > MOST_TRIED:
         return False

@@ -2,7 +2,7 @@
 
 from probeweb.errors import Malformed, Refused
 from probeweb.structures import (
-    MOST_POINTS, check_binary, check_kind, is_point, is_point_tuple, kind_of)
+    MOST_POINTS, arities_of, check_binary, check_kind, is_point, is_point_tuple)
 from probeweb.whole import check_modulus
 
 MOST_COUNTED = 400
@@ -52,7 +52,7 @@ def _check_strand(strand, kind):
 
 def _check_strand_in(strand, A):
     check_binary(A)
-    _check_strand(strand, kind_of(A))
+    _check_strand(strand, arities_of(A))
 
 
 def _used_rows(strand):
@@ -147,7 +147,7 @@ def strand_rest(strand, A, l):
 def strand_number(strand, A):
     """The number of maps of the probe."""
     _check_strand_in(strand, A)
-    if strand_points(strand, kind_of(A)) > MOST_COUNTED:
+    if strand_points(strand, arities_of(A)) > MOST_COUNTED:
         raise Refused("large")
     last = _numbers(strand, A, _used_rows(strand), 0)[-1]
     return sum([sum(line) for line in last])

@@ -86,9 +86,14 @@ def is_binary(value):
     return is_structure(value) and all([arity <= 2 for arity, _ in value[1]])
 
 
+def arities_of(A):
+    """The tuple of the arities of the tables, without a check."""
+    return tuple([arity for arity, _ in A[1]])
+
+
 def is_graph(value):
     """True for a graph, for every value."""
-    if not is_structure(value) or kind_of(value) != (2,):
+    if not is_structure(value) or arities_of(value) != (2,):
         return False
     rows = value[1][0][1]
     facts = {row: True for row in rows}
@@ -116,7 +121,7 @@ def check_kind(kind):
 def kind_of(A):
     """The tuple of the arities of the tables."""
     check_structure(A)
-    return tuple([arity for arity, _ in A[1]])
+    return arities_of(A)
 
 
 def check_alike(A, B):
@@ -128,7 +133,8 @@ def check_alike(A, B):
 def check_both_binary(A, B):
     """None if both are binary structures of one kind."""
     check_alike(A, B)
-    check_binary(A)
+    if MOST_ARITY in arities_of(A):
+        raise Malformed("no binary structures")
 
 
 def greatest_table(A):

@@ -3,7 +3,7 @@
 from probeweb.errors import Malformed, Refused
 from probeweb.operations import check_template, keeps_tables
 from probeweb.solving import MapSearch
-from probeweb.structures import MOST_ROWS, is_structure, kind_of
+from probeweb.structures import MOST_ROWS, arities_of, is_structure
 from probeweb.whole import raised_to
 
 MOST_LISTED = 5
@@ -18,7 +18,7 @@ CLASS_OPERATIONS = {
 def _check_instance(A, B):
     """None for a structure `A` of the kind of the template `B`."""
     check_template(B)
-    if not is_structure(A) or kind_of(A) != kind_of(B):
+    if not is_structure(A) or arities_of(A) != arities_of(B):
         raise Malformed("no structure of the kind of the template")
 
 

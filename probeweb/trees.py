@@ -2,7 +2,7 @@
 
 from probeweb.errors import Malformed, Refused
 from probeweb.structures import (
-    MOST_POINTS, check_kind, check_structure, is_point, is_point_tuple, kind_of)
+    MOST_POINTS, arities_of, check_kind, check_structure, is_point, is_point_tuple)
 from probeweb.whole import check_modulus, is_number_from, raised_to, rest_of_power
 
 MOST_COUNTED = 400
@@ -36,7 +36,7 @@ def _check_tree(tree, kind):
 
 def _check_tree_in(tree, A):
     check_structure(A)
-    _check_tree(tree, kind_of(A))
+    _check_tree(tree, arities_of(A))
 
 
 def _used_rows(tree):
@@ -122,7 +122,7 @@ def tree_rest(tree, A, l):
 def tree_number(tree, A):
     """The number of maps of the probe."""
     _check_tree_in(tree, A)
-    if tree_points(tree, kind_of(A)) > MOST_COUNTED:
+    if tree_points(tree, arities_of(A)) > MOST_COUNTED:
         raise Refused("large")
     return sum(_numbers(tree, A, _used_rows(tree), 0)[-1])
 

@@ -269,7 +269,7 @@ FREE = {
     "words path short": [("word", ((0, 0), (0, 0), (0, 1)))],
     "paths edge edge": [("matrix", (((1, 1), (0, 1)), ((0, 1), (1, 1))))], "paths path short": [("word", ((0, 0), (0, 1), (0, 0)))],
     "cycles edge edge": [], "cycles edge three": [("cycle", 2), ("cycle", 3), ("cycle", 60)],
-    "same edge edge": [("turned", (1, 0))], "same square path": [("numbers", (1, ((2, ()),)))],
+    "same hexagon twothree": [], "same edge edge": [("turned", (1, 0))], "same square path": [("numbers", (1, ((2, ()),)))],
     "profile edge edge": [("turned", (1, 0))], "profile square path": [("apart", ((((), ()), ("colours",)),))],
     "within three 2": [("within", (((0, 1, 2), (0,)), (-1, 0)))], "within three 1": [("above", ((0,), (1,), (2,)))],
     "width three": [("width", 2, (((0, 1, 2), (0,)), (-1, 0)), ((0,), (1,), (2,)))],
@@ -296,7 +296,10 @@ class Entries(Replies):
             words.add(word)
             told = reply_to(NAMES, line)
             self.assertEqual(told.kind, word)
-            for paper in [told.data] + papers:
+            kind, rows = told.data[0], told.data[-1]
+            # With its last row twice such a paper shows the same.
+            more = [(kind, rows + rows[-1:])] if kind in ("refuted", "none", "stuck", "apart") else []
+            for paper in [told.data] + papers + more:
                 text = " ".join(map(str, paper[1])) if word == "core" else told.text
                 self.right(line, Reply(word, text, paper), True)
                 # Another text, another kind, and what is no paper.
