@@ -1,7 +1,7 @@
 """Questions about operations as instances of the search for maps (point 10.3)."""
 
 from probeweb.solving import MapSearch
-from probeweb.structures import power_structure
+from probeweb.whole import raised_to
 
 
 def all_rows(n, size):
@@ -18,6 +18,18 @@ def index_of(row, n):
     for x in row:
         at = at * n + x
     return at
+
+
+def power_of(B, k):
+    """The power `k` of `B`, for any number of points and rows."""
+    n = B[0]
+    tables = []
+    for arity, rows in B[1]:
+        led = {(0,) * arity: True}
+        for _ in range(k):
+            led = {tuple([at * n + x for at, x in zip(told, row)]): True for told in led for row in rows}
+        tables.append((arity, tuple(sorted(led))))
+    return raised_to(n, k), tuple(tables)
 
 
 def _told_value(word, row):
@@ -46,7 +58,7 @@ def special_instance(B, k, word):
         value = _told_value(word, row)
         if value >= 0:
             told[value].append((at,))
-    many, tables = power_structure(B, k)
+    many, tables = power_of(B, k)
     held = tuple([(1, tuple(points)) for points in told])
     return (many, tables + held), (n, B[1] + tuple([(1, ((x,),)) for x in range(n)]))
 

@@ -2,10 +2,10 @@
 
 from probeweb.counting import listed_maps
 from probeweb.errors import Malformed, Refused
-from probeweb.instances import SemilatticeSearch, all_rows, index_of, special_instance, with_turned_rows
+from probeweb.instances import SemilatticeSearch, all_rows, index_of, power_of, special_instance, with_turned_rows
 from probeweb.solving import MapSearch, linked_points
 from probeweb.structures import (
-    MOST_ARITY, arities_of, check_structure, is_ascending, is_point, is_point_tuple, kind_of, power_structure)
+    MOST_ARITY, arities_of, check_structure, is_ascending, is_point, is_point_tuple, kind_of)
 from probeweb.whole import is_number_from, raised_to
 
 MOST_DOMAIN = 60
@@ -163,7 +163,7 @@ def put_together(f, n, k, inner):
 def all_operations(B, k):
     """The ascending tuple of the operations of `k` arguments of `B`."""
     _check_power(B, k)
-    return listed_maps(MapSearch(power_structure(B, k), B), MOST_OPERATIONS)
+    return listed_maps(MapSearch(power_of(B, k), B), MOST_OPERATIONS)
 
 
 def operation_number(B, k):
@@ -205,15 +205,19 @@ def breaking_operation(B, rows):
     """The least operation of `B` that makes of the rows, in order, a row that is none of them, or None."""
     check_template(B)
     _check_table(B, rows)
-    k = len(rows)
-    _check_power_size(B, k)
+    _check_power_size(B, len(rows))
+    return least_breaking(B, rows)
+
+
+def least_breaking(B, rows):
+    """As `breaking_operation`, without a check."""
     n = B[0]
     spots = [index_of([row[place] for row in rows], n) for place in range(len(rows[0]))]
     scope = tuple(sorted(set(spots)))
     places = [scope.index(spot) for spot in spots]
     facts = {row: True for row in rows}
     values = all_rows(n, len(scope))
-    search = MapSearch(power_structure(B, k), B)
+    search = MapSearch(power_of(B, len(rows)), B)
     outside = {told: True for told in values if tuple([told[place] for place in places]) not in facts}
     search.take_rule(scope, outside, rows)
     return search.least()

@@ -2,11 +2,12 @@
 
 from probeweb.instances import index_of, special_instance
 from probeweb.maps import is_map, maps_into
-from probeweb.operations import breaking_operation, keeps_tables
+from probeweb.operations import MOST_ITEMS, keeps_tables, least_breaking
 from probeweb.papers import is_paper_of
 from probeweb.refutations import ended_nogood
 from probeweb.structures import is_pair, is_point, is_point_tuple
-from probeweb.templates import CLASS_OPERATIONS, class_holds, list_structure, raised_row, take_raised
+from probeweb.templates import (
+    CLASS_OPERATIONS, MOST_LISTED, class_holds, lists_of_points, raised_row, take_raised)
 from probeweb.whole import raised_to
 
 
@@ -19,22 +20,34 @@ def _breaks(B, rows, f):
     return made not in rows
 
 
+def _has_operations(B, k):
+    """True if operations of so many arguments are not too great (point 10.1)."""
+    return raised_to(B[0], k) <= MOST_ITEMS
+
+
 def takes_defined(B, rows, paper):
     """True for a definable table, or an operation that breaks it, for every paper."""
+    if not _has_operations(B, len(rows)):
+        return False
     if is_paper_of(paper, "formula", 1):
-        return breaking_operation(B, rows) is None
+        return least_breaking(B, rows) is None
     return is_paper_of(paper, "operation", 2) and _breaks(B, rows, paper[1])
 
 
 def takes_decided(B, paper):
     """True for a map of the structure of lists into the template, or a refutation, for every paper."""
+    if B[0] > MOST_LISTED:
+        return False
     if is_paper_of(paper, "back", 2):
-        return is_map(paper[1], list_structure(B), B)
-    return is_paper_of(paper, "stuck", 2) and ended_nogood(list_structure(B), B, paper[1]) == ()
+        return maps_into(paper[1], lists_of_points(B, None), B)
+    return is_paper_of(paper, "stuck", 2) and ended_nogood(lists_of_points(B, None), B, paper[1]) == ()
 
 
 def takes_special(B, word, paper):
     """True for an operation of the kind that the word tells, or a refutation that there is one, for every paper."""
+    if not _has_operations(B, 3):
+        return False
+    # The tables of the power may have more rows here than others have.
     one, two = special_instance(B, 3, word)
     if is_paper_of(paper, "operation", 2):
         return maps_into(paper[1], one, two)

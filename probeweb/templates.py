@@ -22,15 +22,15 @@ def _check_instance(A, B):
         raise Malformed("no structure of the kind of the template")
 
 
-def _united_rows(rows):
-    """All rows of lists, as masks, that unite some of the rows place by place."""
+def _united_rows(rows, most):
+    """All rows of lists, as masks, that unite some of the rows place by place; refused beyond `most` of them."""
     found = {}
     for row in rows:
         single = tuple([1 << x for x in row])
         fresh = {tuple([a | b for a, b in zip(told, single)]): True for told in found}
         found.update(fresh)
         found[single] = True
-        if len(found) > MOST_ROWS:
+        if most is not None and len(found) > most:
             raise Refused("large")
     return list(found)
 
@@ -40,10 +40,15 @@ def list_structure(B):
     check_template(B)
     if B[0] > MOST_LISTED:
         raise Refused("large")
+    return lists_of_points(B, MOST_ROWS)
+
+
+def lists_of_points(B, most):
+    """As `list_structure`, without a check; a table with more than `most` rows is refused, unless this is None."""
     tables = []
     for arity, rows in B[1]:
         # A row of lists is in the table if it unites the rows of `B` that it holds.
-        made = [tuple([mask - 1 for mask in row]) for row in _united_rows(rows)]
+        made = [tuple([mask - 1 for mask in row]) for row in _united_rows(rows, most)]
         tables.append((arity, tuple(sorted(made))))
     return (1 << B[0]) - 1, tuple(tables)
 

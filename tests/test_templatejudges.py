@@ -1,5 +1,6 @@
 """Judges of papers of templates: points 16.1 and 16.14 to 16.17."""
 
+import itertools
 import unittest
 
 import brute
@@ -118,6 +119,51 @@ class Special(Judged):
         four = (3, ((2, ((0, 0), (1, 1), (2, 2))),) * 4)
         self.assertFalse(takes_special(four, "majority", ("none", rows)))
         self.assertFalse(takes_special(four, "majority", ("operation", (0,) * 27)))
+
+
+class Great(Judged):
+    """Templates for which papers are refused, and judged all the same."""
+
+    def test_special(self):
+        every = tuple(itertools.product(range(3), repeat=3))
+        for rows in (every, every[:16]):
+            B = (3, ((3, rows),) * 3)
+            self.refuses("large", special_paper, B, "majority")
+            for word in WORDS:
+                for f in (tuple(x if x in (y, z) else y if y == z else z for x, y, z in every),
+                          tuple(x if y == z else z if x == y else y for x, y, z in every), (0,) * 27):
+                    paper = ("operation", f)
+                    self.assertIs(takes_special(B, word, paper), special_holds(B, word, paper))
+                self.assertFalse(takes_special(B, word, ("none", (((), ("point", 0, (0, 0, 0))),))))
+        self.assertTrue(takes_special((3, ((3, every),) * 3), "majority", ("operation", tuple(
+            x if x in (y, z) else y if y == z else 0 for x, y, z in every))))
+        # A refutation of a great power: all rows of three and the order of the points have no operation of the kind.
+        B = (3, ((3, every), (2, tuple(row for row in itertools.product(range(3), repeat=2) if row[0] <= row[1]))))
+        self.refuses("large", special_paper, B, "maltsev")
+        small = (3, ((3, ()), B[1][1]))
+        rows = special_paper(small, "maltsev")[1]
+        self.assertTrue(takes_special(B, "maltsev", ("none", rows)))
+        self.assertFalse(takes_special(B, "majority", ("none", rows)))
+        self.assertFalse(takes_special(dots(4), "majority", ("operation", (0,) * 64)))
+
+    def test_defined(self):
+        every = tuple(itertools.product((0, 1), repeat=3))
+        B = (2, ((3, every),))
+        self.refuses("large", defined_paper, B, every[:5])
+        for told in (any, all, lambda row: sum(row) % 2, lambda row: row[2]):
+            paper = ("operation", tuple(int(told(row)) for row in itertools.product((0, 1), repeat=5)))
+            self.assertIs(takes_defined(B, every[:5], paper), defined_holds(B, every[:5], False, paper))
+        self.assertFalse(takes_defined(B, every[:5], ("formula",)))
+        self.assertTrue(takes_defined((2, ((3, every), (1, ((0,),)), (1, ((1,),)))), ((0, 0), (0, 1), (1, 0), (1, 1)), ("formula",)))
+        self.assertFalse(takes_defined(dots(8), ((0,), (1,)), ("operation", (0,) * 64)))
+        self.assertFalse(takes_defined(dots(8), ((0,), (1,)), ("formula",)))
+
+    def test_decided(self):
+        five = (5, ((3, tuple(itertools.product(range(5), repeat=3))),))
+        self.refuses("large", decided_paper, five)
+        self.assertTrue(takes_decided(five, ("back", (3,) * 31)))
+        self.assertFalse(takes_decided(five, ("back", (5,) * 31)))
+        self.assertFalse(takes_decided(dots(6), ("back", (0,) * 63)))
 
 
 class Classes(Judged):
