@@ -286,7 +286,8 @@ def crowded_cutting(A, B):
             if y == 1:
                 told = pairs[0]
             else:
-                added = maker.sum_of({**{j: 1 for j in pairs}, told: y - 1})
-                told = maker.row_of(("cut", added, y))
+                terms = {j: 1 for j in pairs}
+                terms[told] = y - 1
+                told = maker.row_of(("cut", maker.sum_of(terms), y))
         counts[told] = 1
     return maker.rows_to(maker.sum_of(counts))

@@ -6,6 +6,8 @@ import os
 import re
 import unittest
 
+from kept import called, parents_of, wrong_rows
+
 FOLDER = os.path.join(os.path.dirname(os.path.abspath(__file__)), "..", "probeweb")
 LISTED = {
     "errors": ("Fault", "Malformed", "Refused", "NoText"),
@@ -129,15 +131,6 @@ def sources():
         if name.endswith(".py"):
             with open(os.path.join(FOLDER, name), encoding="ascii") as file:
                 yield name[:-3], file.read()
-
-
-def parents_of(tree):
-    return {child: node for node in ast.walk(tree) for child in ast.iter_child_nodes(node)}
-
-
-def called(node):
-    """The name of the function, where a node is the call of a plain name."""
-    return node.func.id if isinstance(node, ast.Call) and isinstance(node.func, ast.Name) else None
 
 
 class Rules(unittest.TestCase):
@@ -306,6 +299,11 @@ class Rules(unittest.TestCase):
                     if node.func.attr in ("items", "keys", "values"):
                         iterated = isinstance(above, (ast.For, ast.comprehension)) and above.iter is node
                         self.assertTrue(iterated or called(above) in ATONCE, at)
+
+    def test_kept_ranges(self):
+        # What goes over things is walked on the spot, or kept as rule L23 lets it.
+        for name, text in sources():
+            self.assertEqual(wrong_rows(text), [], name)
 
     def test_nested_comprehensions(self):
         # A variable of a comprehension within another one has no name that is assigned further out.
